@@ -1,0 +1,1 @@
+"""Rankloop: an event loop by ranks."""
