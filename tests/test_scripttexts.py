@@ -166,6 +166,11 @@ class Read(unittest.TestCase):
                              f"( {figures} )", f"( say {figures} )", figures, f"( post {figures} n [ ] )"):
                     self.refuse(text)
 
+    def test_figures_of_other_writings(self):
+        for figure in ("\u00b2", "\u0663", "\uff11"):
+            self.refuse(f"( spend {figure} )")
+            self.refuse(f"( keep p -{figure} )")
+
     def test_too_many_deeds(self):
         for many in (200, 201, 202, 1000, 20000):
             text = " ".join(["( echo )"] * many)
