@@ -22,6 +22,14 @@ BARRED_NAMES = set("register mro elements open input law version_info with_trace
 BARRED_NODES = (
     ast.Global, ast.AsyncFunctionDef, ast.AsyncFor, ast.AsyncWith, ast.Await, ast.Import, ast.Div, ast.Try, ast.TryStar
 )
+# Loops compare and have a length, so these take lists.
+LISTS_ONLY = ("any", "all", "min", "max", "sum", "sorted")
+PLAIN_NODES = (ast.Constant, ast.Tuple, ast.List, ast.Dict, ast.Name, ast.UnaryOp, ast.USub, ast.Load)
+BUILTIN_METHODS = set(
+    "append clear count endswith extend find get index insert isalnum isalpha isdigit islower isspace isupper items join "
+    "keys lower pop remove removeprefix removesuffix replace reverse setdefault split splitlines startswith strip update "
+    "upper values isascii".split()
+)
 DOUBLE = re.compile(r"__[a-z]+__$")
 
 
@@ -31,6 +39,20 @@ def sources():
 
 def trees():
     return [(path.name, ast.parse(text)) for path, text in sources()]
+
+
+def names_bound(tree):
+    """The functions, classes and values that a file defines."""
+    told = [row.name for row in tree.body if isinstance(row, (ast.FunctionDef, ast.ClassDef))]
+    return told + [row.targets[0].id for row in tree.body if isinstance(row, ast.Assign)]
+
+
+def imported_names(row):
+    return [alias.name for alias in row.names] if isinstance(row, ast.ImportFrom) else []
+
+
+def imported_files(tree):
+    return {row.module.removeprefix("rankloop.") + ".py" for row in tree.body if isinstance(row, ast.ImportFrom)}
 
 
 def nodes(kind):
@@ -112,6 +134,81 @@ class Language(unittest.TestCase):
                 if isinstance(sign, (ast.Is, ast.IsNot)):
                     self.assertIsInstance(right, ast.Constant, (name, node.lineno))
                     self.assertTrue(right.value is None or isinstance(right.value, bool), (name, node.lineno))
+
+    def test_imports_name_the_defining_file(self):
+        bound = {name: names_bound(tree) for name, tree in trees()}
+        for name, node in nodes(ast.ImportFrom):
+            file = node.module.removeprefix("rankloop.") + ".py"
+            for alias in node.names:
+                self.assertIn(alias.name, bound[file], (name, alias.name))
+                self.assertIsNone(alias.asname, (name, alias.name))
+
+    def test_no_rings_of_imports(self):
+        needs = {name: imported_files(tree) for name, tree in trees()}
+        while needs:
+            free = [name for name in needs if not needs[name] & set(needs)]
+            self.assertNotEqual(free, [], needs)
+            for name in free:
+                del needs[name]
+
+    def test_each_name_is_bound_once(self):
+        for name, tree in trees():
+            bound = names_bound(tree) + [alias for row in tree.body for alias in imported_names(row)]
+            self.assertEqual(len(bound), len(set(bound)), name)
+
+    def test_local_names_are_no_imports_or_classes(self):
+        for name, tree in trees():
+            barred = {row.name for row in tree.body if isinstance(row, ast.ClassDef)}
+            barred |= {alias for row in tree.body for alias in imported_names(row)}
+            for node in ast.walk(tree):
+                if isinstance(node, ast.arg):
+                    self.assertNotIn(node.arg, barred, (name, node.lineno))
+                if isinstance(node, ast.Name) and isinstance(node.ctx, ast.Store):
+                    self.assertNotIn(node.id, barred, (name, node.lineno))
+
+    def test_methods_and_attributes(self):
+        methods = {row.name for _, node in nodes(ast.ClassDef) for row in node.body if isinstance(row, ast.FunctionDef)}
+        stored = {node.attr for _, node in nodes(ast.Attribute) if isinstance(node.ctx, ast.Store)}
+        self.assertEqual(methods & stored, set())
+        self.assertEqual(stored & BUILTIN_METHODS, set())
+        for name, node in nodes(ast.Attribute):
+            self.assertIn(node.attr, methods | stored | BUILTIN_METHODS | {"__init__"}, (name, node.lineno))
+
+    def test_attributes_are_assigned_through_a_name(self):
+        for name, node in nodes(ast.Attribute):
+            if isinstance(node.ctx, ast.Store):
+                self.assertIsInstance(node.value, ast.Name, (name, node.lineno))
+
+    def test_calls(self):
+        for name, node in nodes(ast.Call):
+            for part in node.args:
+                if isinstance(part, ast.Starred):
+                    self.assertIsInstance(part.value, (ast.Name, ast.Attribute), (name, node.lineno))
+                if isinstance(node.func, ast.Name) and node.func.id in LISTS_ONLY:
+                    self.assertNotIsInstance(part, ast.GeneratorExp, (name, node.lineno))
+            self.assertIsInstance(node.func, (ast.Name, ast.Attribute), (name, node.lineno))
+            if isinstance(node.func, ast.Attribute):
+                self.assertNotEqual(node.func.attr, "sort", (name, node.lineno))
+
+    def test_tables(self):
+        for name, tree in trees():
+            above = []
+            for row in tree.body:
+                if isinstance(row, ast.FunctionDef):
+                    above.append(row.name)
+                if isinstance(row, ast.Assign):
+                    self.assertEqual(len(row.targets), 1, (name, row.lineno))
+                    for node in ast.walk(row.value):
+                        self.assertIsInstance(node, PLAIN_NODES, (name, row.lineno))
+                        if isinstance(node, ast.Name):
+                            self.assertIn(node.id, above, (name, row.lineno))
+
+    def test_shown_methods_change_nothing(self):
+        for name, node in nodes(ast.FunctionDef):
+            if node.name in ("__eq__", "__str__", "__len__"):
+                self.assertIsInstance(node.body[-1], ast.Return, (name, node.name))
+                for inner in ast.walk(node):
+                    self.assertNotIsInstance(inner, (ast.Assign, ast.AugAssign, ast.Delete), (name, node.name))
 
 
 if __name__ == "__main__":
