@@ -99,12 +99,11 @@ def take_due(state):
     many = 0
     while many < len(state.timers) and state.timers[many].due <= state.clock:
         many += 1
-    taken = state.timers[:many] + [idle for idle in state.idles if is_due(idle, state.clock)]
-    state.timers = state.timers[many:]
-    state.idles = [idle for idle in state.idles if not is_due(idle, state.clock)]
-    return sorted(taken, key=place_of)
-
-
-def is_due(idle, clock):
-    """Whether an idle work waited for its turn till its due."""
-    return idle.due is not None and idle.due <= clock
+    idles = [idle for idle in state.idles if idle.due is not None and idle.due <= state.clock]
+    taken = sorted(state.timers[:many] + idles, key=place_of)
+    # Most turns find nothing due, and are to be quick where many wait.
+    if taken:
+        gone = {timer.number: True for timer in taken}
+        state.timers = state.timers[many:]
+        state.idles = [idle for idle in state.idles if idle.number not in gone]
+    return taken
