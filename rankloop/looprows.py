@@ -63,13 +63,6 @@ def timer_parts(timer):
 def promise_row(promise):
     """The row of a promise."""
     takers = [plain(taker) for taker in promise.takers]
-    return ("promise", promise.fate, heed(promise), promise.gather, promise.story, *takers)
-
-
-def heed(promise):
-    """Whether a promise was taken or told as unhandled, as far as that still makes a difference."""
-    if promise.fate[0] == "kept":
-        return None
-    if promise.taken:
-        return "taken"
-    return "told" if promise.told else None
+    # Of a kept one nothing hangs any more on whether it was taken.
+    taken = truth(promise.taken and promise.fate[0] != "kept")
+    return ("promise", promise.fate, taken, promise.gather, promise.story, *takers)

@@ -20,10 +20,7 @@ CANCELLED = ("broken", "cancel")
 
 def make_promise(state, name, *, story=None, gather=None):
     """Make a promise, for which the name stands from now on; its number."""
-    promise = Promise()
-    promise.story = story
-    promise.gather = gather
-    state.promises.append(promise)
+    state.promises.append(Promise(story, gather))
     state.named[name] = len(state.promises) - 1
     return state.named[name]
 
@@ -82,7 +79,7 @@ def put_taker(state, number, taker):
 def take(state, number):
     """Note that somebody takes a promise; late, if it was told as unhandled."""
     promise = state.promises[number]
-    if promise.told and not promise.taken:
+    if promise.fate[0] == "broken" and not promise.taken and number not in state.untold:
         write(state, "late", number)
     promise.taken = True
     state.untold.pop(number, None)
@@ -91,8 +88,6 @@ def take(state, number):
 def tell_unhandled(state):
     """Tell of each broken promise that nobody took, once."""
     for number in state.untold:
-        promise = state.promises[number]
-        promise.told = True
         write(state, "unhandled", number)
     state.untold = {}
 

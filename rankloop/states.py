@@ -7,18 +7,16 @@ SETTLED = ("kept", "broken")
 class Promise:
     """What is known of a promise, and who takes it."""
 
-    def __init__(self):
+    def __init__(self, story, gather):
         # As a loop tells it: OPEN, ("follows", number), ("kept", worth) or ("broken", reason).
         self.fate = OPEN
         # What comes when it settles, see promises.py.
         self.takers = []
         self.taken = False
-        # Whether it was told as unhandled.
-        self.told = False
         # For all, any, first, each: this word, and a tuple of the fates that have come, None for the others.
-        self.gather = None
+        self.gather = gather
         # Of a story's: "whole", "due" (to fail with cancel), or "spent" (cancelled once, or ended).
-        self.story = None
+        self.story = story
         # The open promise that the story waits for.
         self.waits = None
         # A promise farther on in the row of those that it follows.
@@ -58,7 +56,7 @@ class State:
         self.idles = []
         self.promises = []
         self.named = {}
-        # The numbers of broken promises that nobody took and that weren't told, as they broke.
+        # The numbers of broken promises that nobody took and that weren't told as unhandled yet, as they broke.
         self.untold = {}
         # Tuples of a work and the number of the promise that it runs for.
         self.opened = []
@@ -110,13 +108,10 @@ def copied(state):
 
 def copied_promise(promise):
     """A promise that goes on for itself."""
-    twin = Promise()
+    twin = Promise(promise.story, promise.gather)
     twin.fate = promise.fate
     twin.takers = list(promise.takers)
     twin.taken = promise.taken
-    twin.told = promise.told
-    twin.gather = promise.gather
-    twin.story = promise.story
     twin.waits = promise.waits
     twin.ahead = promise.ahead
     return twin

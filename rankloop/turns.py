@@ -38,13 +38,11 @@ def begin_turn(state):
         begin_task(state, rank)
     elif state.idles:
         begin_idle(state)
-    elif state.micros:
-        # Those that a flood left are done as if a work had been begun.
-        return True
-    elif state.opened:
+    elif state.opened and not state.micros:
         tell_stuck(state)
     else:
-        return False
+        # Micros that a flood left are done as if a work had been begun.
+        return len(state.micros) > 0
     return True
 
 

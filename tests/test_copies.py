@@ -83,6 +83,24 @@ class Copies(unittest.TestCase):
         self.assertEqual((loop.promise("q"), loop.promise("r")), (("kept", 1), ("kept", 3)))
         self.assertEqual((twin.promise("q"), twin.promise("r")), (("broken", "cancel"), ("kept", 2)))
 
+    def test_a_cancel_in_a_copy(self):
+        loop = loop_of((MAKE, ("story", "q", (("wait", "p"), ("give", 1)))))
+        loop.turn()
+        twin = loop.copy()
+        twin.post((("cancel", "q"),))
+        twin.turns()
+        self.assertEqual((twin.promise("q"), loop.promise("q")), (("broken", "cancel"), ("open",)))
+
+    def test_a_flood_that_was_told(self):
+        # The def breaks the turn off behind the flood.
+        script = (MAKE, ("keep", "p", 1), ("micro", ()), ("micro", say("a")), ("run", "p"), ("call", "ask"))
+        loop = broken_off(script, flood=1)
+        twin = loop.copy()
+        loop.turns()
+        twin.turns()
+        self.assertEqual(events(loop), [("fault", 0, "out"), ("micro", 2), ("said", "a")])
+        self.assertEqual(twin, loop)
+
     def test_followers_of_a_copy_are_its_own(self):
         loop = loop_of((MAKE, ("make", "q"), ("make", "r"), ("follow", "p", "q")))
         loop.turn()
@@ -286,6 +304,34 @@ def behind_turns(script):
     return loop
 
 
+# Groups of loops, all of them alike: what was, and stands there no more, makes no difference.
+ALIKE = {
+    "takers that came": lambda: [
+        after_turns((MAKE, ("micro", script), ("post", 0, "x", (("keep", "p", 1),))), many=2) for script in ((), (("wait", "p"),))
+    ],
+    "several, settled otherwise": lambda: [
+        after_turns((MAKE, (word, "q", ("p", "p")), ("keep", "q", 1))) for word in ("all", "any", "first", "each")
+    ],
+    "several, that follow": lambda: [
+        after_turns((MAKE, ("make", "r"), (word, "q", ("p", "p")), ("follow", "q", "r"))) for word in ("all", "any", "first", "each")
+    ],
+    "a cancel behind a story's end": lambda: [
+        after_turns((("story", "q", ()), ("post", 0, "x", script)), many=2) for script in ((), (("cancel", "q"),))
+    ],
+    "a cancel that came to nothing": lambda: [
+        after_turns((("story", "q", (("spend", 1), *script)),)) for script in ((), (("cancel", "q"),))
+    ],
+    "late or in time": lambda: [
+        after_turns((MAKE, ("break", "p", "w"), ("micro", (("guard", (("wait", "p"),), (), ()),))), (), many=2),
+        after_turns((MAKE, ("break", "p", "w"), ("micro", ())), (("guard", (("wait", "p"),), (), ()),), many=2),
+    ],
+    "floods": lambda: [
+        after_turns((("micro", ()), ("micro", ()), ("micro", ())), many=4, flood=4),
+        after_turns((("micro", ()), ("micro", (("micro", ()),))), many=4, flood=4),
+    ],
+}
+
+
 class Unlike(unittest.TestCase):
     def test_each_single_thing(self):
         for name in UNLIKE:
@@ -297,12 +343,21 @@ class Unlike(unittest.TestCase):
                     self.assertIs(str(loop) == str(other), at == place, (name, at, place))
                 self.assertEqual(loop.copy(), loop)
 
+    def test_what_stands_there_no_more(self):
+        for name in ALIKE:
+            loops = ALIKE[name]()
+            for loop in loops:
+                self.assertEqual(loop, loops[0], name)
+                self.assertEqual(str(loop), str(loops[0]), name)
+
     def test_a_flood_that_was_told(self):
-        # Alike but for whether the flood was told already: only that is unlike.
+        # One micro was done in both turns, and one is left; only in the first of them that was told.
         first = (MAKE, ("keep", "p", 1), ("micro", ()), ("micro", say("a")), ("run", "p"), ("call", "ask"))
+        second = (MAKE, ("keep", "p", 1), ("micro", ()), ("run", "p"), ("micro", say("a")), ("call", "ask"))
         loop = broken_off(first, flood=1)
-        other = broken_off((MAKE, ("keep", "p", 1), ("micro", ()), ("micro", say("a")), ("call", "ask")), flood=1)
+        other = broken_off(second, flood=1)
         self.assertNotEqual(loop, other)
+        self.assertNotEqual(str(loop), str(other))
 
 
 class Texts(unittest.TestCase):

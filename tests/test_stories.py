@@ -158,6 +158,12 @@ class Cancel(unittest.TestCase):
                   ("post", 0, "x", (("keep", "p", 8),)))
         self.assertEqual(said_by(script), ["cancel", 8])
 
+    def test_again_behind_the_fault(self):
+        story = (("guard", (("wait", "p"),), ECHO, ()), ("wait", "p"), ("echo",))
+        script = (MAKE, ("story", "q", story), ("post", 0, "x", (CANCEL,)), ("post", 0, "x", (CANCEL,)), ("post", 0, "x", (CANCEL,)),
+                  ("post", 0, "x", (("keep", "p", 8),)))
+        self.assertEqual(said_by(script), ["cancel", 8])
+
     def test_twice_while_being_done_and_behind_a_yield(self):
         story = (CANCEL, CANCEL, ("guard", (("yield", 0),), ECHO, ()), CANCEL, ("yield", 0), ("say", "on"), ("wait", "p"), ("echo",))
         script = (MAKE, ("keep", "p", 8), ("story", "q", story))

@@ -1,5 +1,6 @@
 """Timers, idle works, leaps, stop and rerank [7, 10 to 12]."""
 
+import random
 import unittest
 
 from loopcases import ECHO, done, events, loop_of, said, said_by, say
@@ -11,6 +12,15 @@ class Timers(unittest.TestCase):
         script = (("after", 5, 0, "a", say("a")), ("after", 3, 0, "b", say("b")), ("after", 5, 0, "c", say("c")),
                   ("spend", 2), ("after", 3, 0, "d", say("d")), ("after", 1, 0, "e", say("e")))
         self.assertEqual(said_by(script), ["b", "e", "a", "c", "d"])
+
+    def test_many_in_any_order(self):
+        chance = random.Random(7)
+        for many in (1, 2, 3, 10, 150):
+            waits = [chance.randrange(many) for _ in range(many)]
+            for spent in (0, 1000):
+                script = (*[("after", wait, 0, "a", ()) for wait in waits], ("spend", spent))
+                told = [row[2] for row in done(script).journal() if row[1] == "task"]
+                self.assertEqual(told[1:], sorted(range(1, many + 1), key=lambda number: (waits[number - 1], number)))
 
     def test_the_order_of_dues_is_that_of_the_line(self):
         loop = loop_of((("after", 5, 1, "a", ()), ("after", 3, 1, "b", ()), ("after", 4, 0, "c", ()), ("idle", 4, "d", ()),
@@ -180,6 +190,16 @@ class Stop(unittest.TestCase):
 
     def test_none(self):
         self.assertEqual(said_by((("stop", "work"), ("echo",))), [0])
+
+    def test_others_stay(self):
+        script = (
+            ("after", 9, 0, "a", say("t")), ("after", 9, 0, "b", ()), ("after", 8, 0, "b", ()), ("idle", None, "a", say("i")),
+            ("idle", 3, "b", ()), ("idle", None, "b", ()), ("idle", None, "b", ()), ("post", 1, "a", say("w")), ("post", 1, "b", ()),
+            ("stop", "b"), ("echo",),
+        )
+        loop = done(script)
+        self.assertEqual(said(loop), [6, "w", "i", "t"])
+        self.assertEqual([row[:2] for row in events(loop) if row[0] != "said"], [("task", 0), ("task", 8), ("idle", 4), ("leap", 0), ("task", 1)])
 
     def test_not_those_that_have_begun(self):
         loop = loop_of((("yield", 1), ("say", "on")), (("stop", "work"), ("echo",), ("rerank", "work", 2), ("echo",)))
