@@ -5,8 +5,10 @@ import unittest
 
 from plainrule import Plain
 from rankloop.errors import NoPromise
+from rankloop.looprows import rows_of
 from rankloop.loops import Loop
 from rankloop.scripts import is_script
+from rankloop.scripttexts import nested
 
 NAMES = ("p", "q", "r")
 WORKS = ("a", "b", "work")
@@ -55,7 +57,7 @@ class Maker:
         return (word, *self.parts(word, levels - 1))
 
     def rank(self):
-        return self.chance.choice((0, 0, 0, 1, 1, 2, 3))
+        return self.chance.choice((0, 0, 0, 0, 1, 1, 2, 3, 5))
 
     def parts(self, word, levels):
         chance = self.chance
@@ -120,7 +122,7 @@ class PlainRule(unittest.TestCase):
         """A loop and the plain rule, with the same works."""
         maker = Maker(seed)
         chance = maker.chance
-        ranks = chance.randrange(1, 5)
+        ranks = chance.randrange(1, 7)
         patience = chance.choice([None, [chance.choice((None, 0, 1, 2)) for _ in range(ranks)]])
         flood = chance.choice((1, 2, 3, 100))
         deep = chance.choice((1, 2, 8))
@@ -137,7 +139,12 @@ class PlainRule(unittest.TestCase):
         return loop, plain
 
     def go_on(self, seed, loop, plain):
+        maker = Maker(-seed)
         for turn in range(25):
+            script = maker.script(2)
+            if turn % 4 == 3 and is_script(script):
+                rank = maker.chance.randrange(plain.ranks)
+                self.assertEqual(loop.post(script, rank=rank, name="a"), plain.post(script, rank, "a"))
             told = turn_of(loop)
             self.assertEqual(told, turn_of(plain), (seed, turn))
             mine, theirs = told_of(loop, plain)
@@ -170,6 +177,14 @@ class PlainRule(unittest.TestCase):
                 turn_of(loop)
                 turn_of(plain)
                 self.assertEqual(*told_of(loop, plain))
+
+    def test_texts_have_all_in_them(self):
+        for seed in range(300):
+            loop, _ = self.pair(seed)
+            for _ in range(8):
+                read = [nested(row.split(" ")) for row in str(loop).split("\n")]
+                self.assertEqual(read, rows_of(loop.state))
+                turn_of(loop)
 
     def test_equal_just_where_the_texts_are(self):
         loops = []
