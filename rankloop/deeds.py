@@ -1,241 +1,230 @@
 """The thirty deeds, each as a work does it.
 
-A deed tells GOES_ON, STAYS where the work does no more for now, or what
-fails(reason) tells.
+A deed tells None where the work goes on, STAYS where it does no more for now,
+or the reason with which it fails; nothing of a deed that fails is done.
 """
 
 from rankloop.promises import (
     cancel, follow, gather_all, make_promise, put_taker, settle, take, take_cancel, wait_for
 )
-from rankloop.queues import put_timer, put_work, rerank, stop
-from rankloop.scripts import is_script, parts_of
-from rankloop.states import Timer, new_number, write
-from rankloop.works import Work, do_ahead, give, guard
+from rankloop.queues import put_idle, put_timer, put_work, rerank, stop
+from rankloop.scripts import is_script
+from rankloop.states import new_number
+from rankloop.works import do_ahead, fresh, give, guard, rest_of
 
-GOES_ON = ("goes on", None)
-STAYS = ("stays", None)
-GATHERS = ("all", "any", "first", "each")
-# How many of a deed's parts, from the first on, are names that must stand for promises.
-KNOWN = {
-    "keep": 1, "pass": 1, "break": 1, "follow": 2, "then": 1, "if": 1, "wait": 1, "run": 1, "cancel": 1
-}
+# No word, and so no reason.
+STAYS = "."
 
 
-def fails(reason):
-    """What a deed tells that fails with this reason."""
-    return ("fails", reason)
-
-
-def do_deed(state, work, deed):
-    """Do a deed of a work, unless it fails ahead of that."""
-    if deed[0] in ("wait", "yield") and take_cancel(state, work):
-        return fails("cancel")
-    reason = hindrance(state, deed)
-    if reason is not None:
-        return fails(reason)
-    action = ACTIONS[deed[0]]
-    return action(state, work, deed)
-
-
-def hindrance(state, deed):
-    """Why nothing of a deed can be done; None where it can."""
-    for kind, part in parts_of(deed):
-        if kind == "rank" and part >= len(state.queues):
-            return "rank"
-    for name in names_of(deed):
-        if name not in state.named:
-            return "unknown"
-    if deed[0] == "cancel" and named_promise(state, deed).story is None:
-        return "unknown"
-    if deed[0] == "call" and deed[1] not in state.calls:
-        return "unknown"
-    if deed[0] == "run" and len(state.opened) >= state.deep:
-        return "deep"
-    return None
-
-
-def names_of(deed):
-    """The names in a deed that must stand for promises."""
-    if deed[0] in GATHERS:
-        return deed[2]
-    return deed[1:1 + KNOWN.get(deed[0], 0)]
-
-
-def named_promise(state, deed):
-    """The promise for which a deed's first name stands."""
-    return state.promises[state.named[deed[1]]]
-
-
-def put_micro(state, number, work):
-    """Put a micro in which a work begins."""
-    state.micros.append((number, "work", work, None))
+def put_micro(state, number, script, pledge):
+    """Put a micro in which a script begins."""
+    state.micros.append((number, "work", fresh(number, None, script, None, pledge), None))
 
 
 def do_say(state, work, deed):
-    write(state, "said", deed[1])
-    return GOES_ON
+    state.events.append((state.clock, "said", deed[1]))
 
 
 def do_echo(state, work, deed):
-    write(state, "said", work.told)
-    return GOES_ON
+    state.events.append((state.clock, "said", work.told))
 
 
 def do_spend(state, work, deed):
     state.clock += deed[1]
-    return GOES_ON
 
 
 def do_post(state, work, deed):
-    rank, name, script = deed[1:]
-    put_work(state, rank, Work(new_number(state), name, script))
-    return GOES_ON
+    word, rank, name, script = deed
+    if rank >= len(state.queues):
+        return "rank"
+    put_work(state, rank, fresh(new_number(state), name, script, None, None))
+    return None
 
 
 def do_micro(state, work, deed):
-    number = new_number(state)
-    put_micro(state, number, Work(number, None, deed[1]))
-    return GOES_ON
+    put_micro(state, new_number(state), deed[1], None)
 
 
 def do_after(state, work, deed):
-    wait, rank, name, script = deed[1:]
-    put_timer(state, Timer(state.clock + wait, new_number(state), None, rank, name, script))
-    return GOES_ON
+    word, wait, rank, name, script = deed
+    if rank >= len(state.queues):
+        return "rank"
+    put_timer(state, (state.clock + wait, new_number(state), None, rank, name, script))
+    return None
 
 
 def do_every(state, work, deed):
-    gap, rank, name, script = deed[1:]
-    put_timer(state, Timer(state.clock + gap, new_number(state), gap, rank, name, script))
-    return GOES_ON
+    word, gap, rank, name, script = deed
+    if rank >= len(state.queues):
+        return "rank"
+    put_timer(state, (state.clock + gap, new_number(state), gap, rank, name, script))
+    return None
 
 
 def do_idle(state, work, deed):
-    wait, name, script = deed[1:]
+    word, wait, name, script = deed
     due = None if wait is None else state.clock + wait
-    last = len(state.queues) - 1
-    state.idles.append(Timer(due, new_number(state), None, last, name, script))
-    return GOES_ON
+    put_idle(state, (due, new_number(state), name, script))
 
 
 def do_stop(state, work, deed):
     work.told = stop(state, deed[1])
-    return GOES_ON
 
 
 def do_rerank(state, work, deed):
-    work.told = rerank(state, deed[1], deed[2])
-    return GOES_ON
+    word, name, rank = deed
+    if rank >= len(state.queues):
+        return "rank"
+    work.told = rerank(state, name, rank)
+    return None
 
 
 def do_make(state, work, deed):
     make_promise(state, deed[1])
-    return GOES_ON
 
 
 def do_keep(state, work, deed):
-    settle(state, state.named[deed[1]], ("kept", deed[2]))
-    return GOES_ON
+    word, name, worth = deed
+    if name not in state.named:
+        return "unknown"
+    settle(state, state.named[name], ("kept", worth))
+    return None
 
 
 def do_pass(state, work, deed):
-    settle(state, state.named[deed[1]], ("kept", work.told))
-    return GOES_ON
+    name = deed[1]
+    if name not in state.named:
+        return "unknown"
+    settle(state, state.named[name], ("kept", work.told))
+    return None
 
 
 def do_break(state, work, deed):
-    settle(state, state.named[deed[1]], ("broken", deed[2]))
-    return GOES_ON
+    word, name, reason = deed
+    if name not in state.named:
+        return "unknown"
+    settle(state, state.named[name], ("broken", reason))
+    return None
 
 
 def do_follow(state, work, deed):
-    follow(state, state.named[deed[1]], state.named[deed[2]])
-    return GOES_ON
+    word, name, other = deed
+    if name not in state.named or other not in state.named:
+        return "unknown"
+    follow(state, state.named[name], state.named[other])
+    return None
 
 
 def do_then(state, work, deed):
-    name, made, kept, broken = deed[1:]
+    word, name, made, kept, broken = deed
+    if name not in state.named:
+        return "unknown"
     # Looked up ahead of the making, which may give the name another meaning.
     source = state.named[name]
     number = new_number(state)
     pledge = make_promise(state, made)
     take(state, source)
     put_taker(state, source, (number, "then", pledge, kept, broken))
-    return GOES_ON
+    return None
 
 
 def do_gather(state, work, deed):
     word, made, names = deed
-    sources = [state.named[name] for name in names]
+    sources = [state.named.get(name) for name in names]
+    if None in sources:
+        return "unknown"
     number = new_number(state)
-    pledge = make_promise(state, made, gather=(word, (None,) * len(sources)))
-    gather_all(state, number, pledge, sources)
-    return GOES_ON
+    gather_all(state, number, word, make_promise(state, made), sources)
+    return None
 
 
 def do_give(state, work, deed):
     give(work, deed[1])
-    return GOES_ON
 
 
 def do_fail(state, work, deed):
-    return fails(deed[1])
+    return deed[1]
 
 
 def do_guard(state, work, deed):
-    guard(work, deed[1], deed[2], deed[3])
-    return GOES_ON
+    word, script, second, last = deed
+    guard(work, script, second, last)
 
 
 def do_if(state, work, deed):
-    kept = named_promise(state, deed).fate[0] == "kept"
-    do_ahead(work, deed[2] if kept else deed[3])
-    return GOES_ON
+    word, name, script, other = deed
+    if name not in state.named:
+        return "unknown"
+    fate = state.fates[state.named[name]]
+    do_ahead(work, script if fate[0] == "kept" else other)
+    return None
 
 
 def do_wait(state, work, deed):
-    wait_for(state, state.named[deed[1]], work)
+    if take_cancel(state, work.pledge):
+        return "cancel"
+    name = deed[1]
+    if name not in state.named:
+        return "unknown"
+    wait_for(state, state.named[name], rest_of(work))
     return STAYS
 
 
 def do_run(state, work, deed):
-    number = state.named[deed[1]]
-    write(state, "run", number)
+    name = deed[1]
+    if name not in state.named:
+        return "unknown"
+    if len(state.opened) >= state.deep:
+        return "deep"
+    number = state.named[name]
+    state.events.append((state.clock, "run", number))
     take(state, number)
-    state.opened.append((work, number))
+    state.opened.append((rest_of(work), number))
     return STAYS
 
 
 def do_story(state, work, deed):
+    word, made, script = deed
     number = new_number(state)
-    pledge = make_promise(state, deed[1], story="whole")
-    put_micro(state, number, Work(number, None, deed[2], pledge=pledge))
-    return GOES_ON
+    pledge = make_promise(state, made)
+    state.stories[pledge] = "whole"
+    put_micro(state, number, script, pledge)
 
 
 def do_cancel(state, work, deed):
-    cancel(state, state.named[deed[1]])
-    return GOES_ON
+    number = state.named.get(deed[1])
+    if number not in state.stories:
+        return "unknown"
+    cancel(state, number)
+    return None
 
 
 def do_yield(state, work, deed):
-    put_work(state, deed[1], work)
+    if take_cancel(state, work.pledge):
+        return "cancel"
+    rank = deed[1]
+    if rank >= len(state.queues):
+        return "rank"
+    put_work(state, rank, rest_of(work))
     return STAYS
 
 
 def do_call(state, work, deed):
-    script = asked(state, work, deed[1])
+    word = deed[1]
+    if word not in state.calls:
+        return "unknown"
+    script = asked(state, work, word)
     if not is_script(script):
-        return fails("call")
+        return "call"
     do_ahead(work, script)
-    return GOES_ON
+    return None
 
 
 def asked(state, work, word):
     """What a def tells of what the work was told last."""
     named_def = state.calls[word]
     # Where the def raises an error the work stays noted, to fail when the next turn is asked.
-    state.asking = work
+    state.asking = rest_of(work)
     state.busy = True
     try:
         told = named_def(work.told)

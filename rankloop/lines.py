@@ -8,18 +8,17 @@ def is_overdue(passes, patience):
 
 def chosen(passes, patience):
     """The rank whose first work is to be done; None where no rank has one."""
+    least = None
     best = None
-    most = None
-    for rank, (many, bears) in enumerate(zip(passes, patience)):
-        if is_overdue(many, bears) and (most is None or many - bears > most):
+    most = -1
+    for rank, many in enumerate(passes):
+        if many is None:
+            continue
+        if least is None:
+            least = rank
+        bears = patience[rank]
+        # From 0 on, so overdue, and more than that of the ranks ahead.
+        if bears is not None and many - bears > most:
             best = rank
             most = many - bears
-    return least_standing(passes) if best is None else best
-
-
-def least_standing(passes):
-    """The least rank with a work; None where there is none."""
-    for rank, many in enumerate(passes):
-        if many is not None:
-            return rank
-    return None
+    return least if best is None else best

@@ -6,7 +6,7 @@ from rankloop.queues import put_work
 from rankloop.scripts import is_between, is_script
 from rankloop.states import State, copied, new_number
 from rankloop.turns import take_turn
-from rankloop.works import Work
+from rankloop.works import fresh
 
 RANKS = 3
 FLOOD = 100
@@ -28,9 +28,9 @@ class Loop:
             raise NoScript(script)
         if not is_between(rank, 0, len(self.state.queues) - 1):
             raise NoRank(rank)
-        work = Work(new_number(self.state), name, script)
-        put_work(self.state, rank, work)
-        return work.number
+        number = new_number(self.state)
+        put_work(self.state, rank, fresh(number, name, script, None, None))
+        return number
 
     def turn(self):
         """Do a turn; whether one, or something ahead of one, was done."""
@@ -62,11 +62,11 @@ class Loop:
         # Asked first, as a list or a dict can't be looked up.
         if not isinstance(name, str) or name not in self.state.named:
             raise NoPromise(name)
-        return self.state.promises[self.state.named[name]].fate
+        return self.state.fates[self.state.named[name]]
 
     def lines(self):
         """For each rank the names of the works in its line."""
-        return [[work.name for work in line] for line in self.state.queues]
+        return [[work[1] for work in line] for line in self.state.queues]
 
     def passes(self):
         """For each rank how often its first work was passed over; None where there is no work."""

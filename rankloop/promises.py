@@ -12,76 +12,81 @@ All but the last become micros, tuples too:
 """
 
 from rankloop.scripts import is_worth
-from rankloop.states import OPEN, Promise, is_settled, write
-from rankloop.works import Work
+from rankloop.states import OPEN, is_settled, write
+from rankloop.works import fresh
 
 CANCELLED = ("broken", "cancel")
 
 
-def make_promise(state, name, *, story=None, gather=None):
+def make_promise(state, name):
     """Make a promise, for which the name stands from now on; its number."""
-    state.promises.append(Promise(story, gather))
-    state.named[name] = len(state.promises) - 1
-    return state.named[name]
+    number = len(state.fates)
+    state.fates.append(OPEN)
+    state.named[name] = number
+    return number
 
 
 def settle(state, number, fate):
     """Settle a promise; where it is settled already, or follows another one, that is told."""
-    if state.promises[number].fate != OPEN:
+    if state.fates[number] != OPEN:
         write(state, "again", number)
         return
     # A stack, not calls: rows of followers may be longer than Python's.
-    coming = [(None, "follow", number)]
+    coming = takers_behind(state, number, fate)
     while coming:
         taker = coming.pop()
         if taker[1] == "follow":
-            coming.extend(takers_behind(state, taker[2], fate)[::-1])
+            coming.extend(takers_behind(state, taker[2], fate))
         else:
             state.micros.append(micro_of(state, taker, fate))
 
 
 def takers_behind(state, number, fate):
-    """Settle a single promise; its takers."""
-    promise = state.promises[number]
-    takers = promise.takers
-    promise.fate = fate
-    promise.takers = []
-    promise.gather = None
-    write(state, fate[0], number, fate[1])
-    if fate[0] == "broken" and not promise.taken:
+    """Settle a single promise; its takers, the last one first."""
+    word, worth = fate
+    state.fates[number] = fate
+    state.events.append((state.clock, word, number, worth))
+    if word == "kept":
+        state.taken.pop(number, None)
+    elif number not in state.taken:
         state.untold[number] = True
-    return takers
+    state.gathers.pop(number, None)
+    takers = state.takers.pop(number, None)
+    return [] if takers is None else takers[::-1]
 
 
 def micro_of(state, taker, fate):
     """The micro that comes of a taker when its promise has this fate."""
-    number, kind, *parts = taker
+    kind = taker[1]
     if kind == "work":
-        note_wait(state, parts[0], None)
+        state.waits.pop(taker[2][5], None)
     if kind != "then":
         return (*taker, fate)
-    pledge, kept, broken = parts
-    script = kept if fate[0] == "kept" else broken
+    number, kind, pledge, kept, broken = taker
+    word, worth = fate
+    script = kept if word == "kept" else broken
     if script is None:
         return (number, "settle", pledge, fate)
-    return (number, "work", Work(number, None, script, told=fate[1], pledge=pledge), None)
+    return (number, "work", fresh(number, None, script, worth, pledge), None)
 
 
 def put_taker(state, number, taker):
     """Put what comes when a promise settles: now, if it is."""
-    promise = state.promises[number]
     if is_settled(state, number):
-        state.micros.append(micro_of(state, taker, promise.fate))
+        state.micros.append(micro_of(state, taker, state.fates[number]))
+    elif number in state.takers:
+        state.takers[number].append(taker)
     else:
-        promise.takers.append(taker)
+        state.takers[number] = [taker]
 
 
 def take(state, number):
     """Note that somebody takes a promise; late, if it was told as unhandled."""
-    promise = state.promises[number]
-    if promise.fate[0] == "broken" and not promise.taken and number not in state.untold:
+    if number in state.taken or state.fates[number][0] == "kept":
+        return
+    if state.fates[number][0] == "broken" and number not in state.untold:
         write(state, "late", number)
-    promise.taken = True
+    state.taken[number] = True
     state.untold.pop(number, None)
 
 
@@ -95,82 +100,76 @@ def tell_unhandled(state):
 def wait_for(state, number, work):
     """Put the rest of a work behind a promise."""
     take(state, number)
-    if not is_settled(state, number):
-        note_wait(state, work, number)
-    put_taker(state, number, (work.number, "work", work))
-
-
-def note_wait(state, work, number):
-    """Note where a work waits, so that cancel finds it."""
-    if work.pledge is not None:
-        promise = state.promises[work.pledge]
-        promise.waits = number
+    pledge = work[5]
+    if pledge in state.stories and not is_settled(state, number):
+        # So that cancel finds it.
+        state.waits[pledge] = number
+    put_taker(state, number, (work[0], "work", work))
 
 
 def follow(state, number, other):
     """Have a promise settle as another one does."""
-    promise = state.promises[number]
-    if promise.fate != OPEN or end_of_row(state, other) == number:
+    if state.fates[number] != OPEN or end_of_row(state, other) == number:
         # Of one that isn't open that tells "again".
         settle(state, number, ("broken", "ring"))
         return
     take(state, other)
     if is_settled(state, other):
-        settle(state, number, state.promises[other].fate)
+        settle(state, number, state.fates[other])
         return
-    promise.fate = ("follows", other)
-    promise.gather = None
-    promise.ahead = other
+    state.fates[number] = ("follows", other)
+    state.gathers.pop(number, None)
+    state.ahead[number] = other
     put_taker(state, other, (None, "follow", number))
 
 
 def end_of_row(state, number):
     """The promise at the end of the row of those that this one follows."""
     row = []
-    while state.promises[number].fate[0] == "follows":
+    while state.fates[number][0] == "follows":
         row.append(number)
-        number = state.promises[number].ahead
+        number = state.ahead[number]
     # Later goings along this row are shorter by that.
     for follower in row:
-        promise = state.promises[follower]
-        promise.ahead = number
+        state.ahead[follower] = number
     return number
 
 
 def cancel(state, number):
     """Cancel a story, once; at an open wait it comes as a micro now, else it is due to fail later."""
-    promise = state.promises[number]
-    if promise.story != "whole":
+    if state.stories[number] != "whole":
         return
-    if promise.waits is None:
-        promise.story = "due"
+    if number not in state.waits:
+        state.stories[number] = "due"
         return
-    promise.story = "spent"
-    source = state.promises[promise.waits]
-    takers = [taker for taker in source.takers if is_rest_of(taker, number)]
-    source.takers = [taker for taker in source.takers if not is_rest_of(taker, number)]
-    state.micros.append(micro_of(state, takers[0], CANCELLED))
+    state.stories[number] = "spent"
+    source = state.waits[number]
+    takers = state.takers[source]
+    # All are kept but the story's: an own list, as the others keep their order.
+    kept = [taker for taker in takers if not is_rest_of(taker, number)]
+    rest = [taker for taker in takers if is_rest_of(taker, number)]
+    state.takers[source] = kept
+    if not kept:
+        state.takers.pop(source)
+    state.micros.append(micro_of(state, rest[0], CANCELLED))
 
 
 def is_rest_of(taker, number):
     """Whether a taker is the rest of the story with this promise."""
-    return taker[1] == "work" and taker[2].pledge == number
+    return taker[1] == "work" and taker[2][5] == number
 
 
-def take_cancel(state, work):
-    """Whether a work is due to fail with cancel here; it is so just once."""
-    if work.pledge is None:
+def take_cancel(state, pledge):
+    """Whether the work with this promise is a story due to fail with cancel here; it is so just once."""
+    if pledge is None or state.stories.get(pledge) != "due":
         return False
-    promise = state.promises[work.pledge]
-    if promise.story != "due":
-        return False
-    promise.story = "spent"
+    state.stories[pledge] = "spent"
     return True
 
 
-def gather_all(state, number, pledge, sources):
+def gather_all(state, number, word, pledge, sources):
     """Take several promises for one that was made for them."""
-    word = state.promises[pledge].gather[0]
+    state.gathers[pledge] = (word, (None,) * len(sources))
     if not sources and word != "first":
         settle(state, pledge, outcome_of(word, (), None))
     for place, source in enumerate(sources):
@@ -180,12 +179,11 @@ def gather_all(state, number, pledge, sources):
 
 def gather_fate(state, pledge, place, fate):
     """Note one of several fates, and settle the promise that was made for them where this shows how."""
-    promise = state.promises[pledge]
-    if promise.fate != OPEN:
+    if state.fates[pledge] != OPEN:
         return
-    word, fates = promise.gather
+    word, fates = state.gathers[pledge]
     fates = (*fates[:place], fate, *fates[place + 1:])
-    promise.gather = (word, fates)
+    state.gathers[pledge] = (word, fates)
     outcome = outcome_of(word, fates, fate)
     if outcome is not None:
         settle(state, pledge, outcome)

@@ -1,35 +1,29 @@
 """The lines of works, and the timers and idle works that go there when they are due."""
 
-from rankloop.states import Timer
-from rankloop.works import Work
+from rankloop.works import fresh
 
 
 def put_work(state, rank, work):
     """Put a work at the end of a rank's line."""
-    if not state.queues[rank]:
+    line = state.queues[rank]
+    if not line:
         state.passed[rank] = 0
-    state.queues[rank].append(work)
+    line.append(work)
 
 
 def take_first(state, rank):
     """Take the first work of the chosen rank; those of all others are passed over."""
-    work = state.queues[rank].pop(0)
-    for other, many in enumerate(list(state.passed)):
-        if other == rank:
-            state.passed[other] = first_passes(state, rank)
-        elif many is not None:
-            state.passed[other] = many + 1
+    line = state.queues[rank]
+    work = line.pop(0)
+    passed = [None if many is None else many + 1 for many in state.passed]
+    passed[rank] = 0 if line else None
+    state.passed = passed
     return work
-
-
-def first_passes(state, rank):
-    """The passes of a line whose first work has just become that."""
-    return 0 if state.queues[rank] else None
 
 
 def is_meant(work, name):
     """Whether a work in a line is one by this name that hasn't begun."""
-    return work.name == name and not work.begun
+    return work[1] == name and not work[-1]
 
 
 def take_named(state, name):
@@ -37,18 +31,22 @@ def take_named(state, name):
     taken = []
     for rank in range(len(state.queues)):
         line = state.queues[rank]
-        state.queues[rank] = [work for work in line if not is_meant(work, name)]
         if line and is_meant(line[0], name):
-            state.passed[rank] = first_passes(state, rank)
+            # Whoever stands first then has just become that.
+            state.passed[rank] = 0
         taken.extend([work for work in line if is_meant(work, name)])
+        state.queues[rank] = [work for work in line if not is_meant(work, name)]
+        if not state.queues[rank]:
+            state.passed[rank] = None
     return taken
 
 
 def stop(state, name):
     """Take away all timers, idle works and works in lines by this name; how many they were."""
     many = len(state.timers) + len(state.idles)
-    state.timers = [timer for timer in state.timers if timer.name != name]
-    state.idles = [idle for idle in state.idles if idle.name != name]
+    state.timers = [timer for timer in state.timers if timer[4] != name]
+    state.idles = [idle for idle in state.idles if idle[2] != name]
+    note_soonest(state)
     return many - len(state.timers) - len(state.idles) + len(take_named(state, name))
 
 
@@ -60,50 +58,60 @@ def rerank(state, name, rank):
     return len(works)
 
 
-def place_of(timer):
-    """What timers are ordered by."""
-    return (timer.due, timer.number)
-
-
 def put_timer(state, timer):
-    """Put a timer in its place among the others."""
+    """Put a timer in its place among the others: by due, of alike ones by number."""
+    timers = state.timers
     low = 0
-    high = len(state.timers)
+    high = len(timers)
     while low < high:
         middle = (low + high) // 2
-        if place_of(state.timers[middle]) < place_of(timer):
+        if timers[middle] < timer:
             low = middle + 1
         else:
             high = middle
-    state.timers.insert(low, timer)
+    timers.insert(low, timer)
+
+
+def put_idle(state, idle):
+    """Put an idle work behind the others."""
+    state.idles.append(idle)
+    due = idle[0]
+    if due is not None and (state.soonest is None or due < state.soonest):
+        state.soonest = due
+
+
+def take_idle(state):
+    """Take the first idle work."""
+    idle = state.idles.pop(0)
+    if idle[0] is not None and idle[0] == state.soonest:
+        note_soonest(state)
+    return idle
+
+
+def note_soonest(state):
+    """Note the least due of idle works, so that a turn needn't go through all of them."""
+    state.soonest = min([idle[0] for idle in state.idles if idle[0] is not None], default=None)
 
 
 def put_due(state):
     """Put the works of all timers and idle works that are due into their lines."""
-    for timer in take_due(state):
+    if state.soonest is not None and state.soonest <= state.clock:
+        make_timers(state)
+    timers = state.timers
+    while timers and timers[0][0] <= state.clock:
+        due, number, gap, rank, name, script = timers.pop(0)
         told = None
-        if timer.gap is not None:
-            told = (state.clock - timer.due) // timer.gap + 1
-            put_timer(state, next_timer(timer, told))
-        put_work(state, timer.rank, Work(timer.number, timer.name, timer.script, told=told))
+        if gap is not None:
+            told = (state.clock - due) // gap + 1
+            put_timer(state, (due + told * gap, number, gap, rank, name, script))
+        put_work(state, rank, fresh(number, name, script, told, None))
 
 
-def next_timer(timer, many):
-    """A timer as it is behind so many dues."""
-    due = timer.due + many * timer.gap
-    return Timer(due, timer.number, timer.gap, timer.rank, timer.name, timer.script)
-
-
-def take_due(state):
-    """Take away the timers and idle works that are due, in the order of their dues."""
-    many = 0
-    while many < len(state.timers) and state.timers[many].due <= state.clock:
-        many += 1
-    idles = [idle for idle in state.idles if idle.due is not None and idle.due <= state.clock]
-    taken = sorted(state.timers[:many] + idles, key=place_of)
-    # Most turns find nothing due, and are to be quick where many wait.
-    if taken:
-        gone = {timer.number: True for timer in taken}
-        state.timers = state.timers[many:]
-        state.idles = [idle for idle in state.idles if idle.number not in gone]
-    return taken
+def make_timers(state):
+    """Make timers of the idle works that are due, so that they go to their line in order with the others."""
+    idles = state.idles
+    state.idles = [idle for idle in idles if idle[0] is None or idle[0] > state.clock]
+    for due, number, name, script in idles:
+        if due is not None and due <= state.clock:
+            put_timer(state, (due, number, None, len(state.queues) - 1, name, script))
+    note_soonest(state)

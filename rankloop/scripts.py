@@ -1,6 +1,5 @@
 """Words, worths and scripts: what they are, and what a script has in it."""
 
-LETTERS = "abcdefghijklmnopqrstuvwxyz"
 MOST_LETTERS = 8
 FARTHEST = 1000000000
 MOST_WORTHS = 20
@@ -49,9 +48,9 @@ SCRIPT_KINDS = ("script", "perhaps")
 
 def is_word(thing):
     """Whether it is a text of one to eight small letters."""
-    if not isinstance(thing, str) or not 1 <= len(thing) <= MOST_LETTERS:
+    if not isinstance(thing, str) or len(thing) > MOST_LETTERS:
         return False
-    return all([letter in LETTERS for letter in thing])
+    return thing.isalpha() and thing.islower() and thing.isascii()
 
 
 def is_between(thing, least, most):
@@ -129,25 +128,27 @@ def room_behind(thing, levels, room):
     # Taken off ahead of looking inside, so that a vast thing is refused soon.
     room -= len(thing)
     for deed in thing:
-        room = room_behind_deed(deed, levels - 1, room)
+        if not has_form(deed):
+            return None
+        room = room_behind_parts(deed, levels - 1, room)
         if room is None:
             return None
     return room
 
 
-def room_behind_deed(deed, levels, room):
-    """The room behind the scripts in a deed; None of what is no deed."""
-    if not has_form(deed):
-        return None
-    for kind, part in parts_of(deed):
-        if kind == "perhaps" and part is None:
-            continue
-        if kind in SCRIPT_KINDS:
+def room_behind_parts(deed, levels, room):
+    """The room behind the scripts in a deed; None where one of its parts is of another kind."""
+    for kind, part in zip(DEEDS[deed[0]], deed[1:]):
+        if kind == "word":
+            if not is_word(part):
+                return None
+        elif kind not in SCRIPT_KINDS:
+            if not fits(kind, part):
+                return None
+        elif kind == "script" or part is not None:
             room = room_behind(part, levels, room)
             if room is None:
                 return None
-        elif not fits(kind, part):
-            return None
     return room
 
 

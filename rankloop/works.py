@@ -1,6 +1,9 @@
 """Works: what is still to be done of a script, and the guards around that.
 
-What is to be done is a list of frames, the innermost one last:
+A work that stands in a loop is a tuple, so that copies of the loop share it:
+(number, name, frames, told, gave, pledge, begun). Pledge is the number of the
+promise for its outcome, begun 1 or 0. Frames are what is still to be done, the
+innermost one last:
 ("do", deeds): these deeds;
 ("part", second, last): a guard whose first part is under way;
 ("second", last): a guard whose second part is under way;
@@ -12,88 +15,91 @@ fails again with the reason, where this isn't None.
 UNSHUT = ("part", "second")
 
 
-class Work:
-    """A script on its way.
+class Doing:
+    """A work that is being done: the deeds of a script from a place on, and the frames around them."""
 
-    One that stands in a loop is never changed, so that copies of the loop may
-    share it: what goes on is a twin of it.
-    """
+    __slots__ = ("number", "name", "frames", "script", "at", "told", "gave", "pledge")
 
-    def __init__(self, number, name, script, *, told=None, pledge=None):
+    def __init__(self, work):
+        number, name, frames, told, gave, pledge, begun = work
         self.number = number
         self.name = name
-        self.frames = [("do", script)] if script else []
+        self.frames = list(frames)
+        self.script = ()
+        self.at = 0
         self.told = told
-        self.gave = None
-        # The number of the promise for its outcome.
+        self.gave = gave
         self.pledge = pledge
-        self.begun = False
 
 
-def taken_up(work):
-    """A twin of a work, one that has begun."""
-    twin = Work(work.number, work.name, (), told=work.told, pledge=work.pledge)
-    twin.frames = list(work.frames)
-    twin.gave = work.gave
-    twin.begun = True
-    return twin
+def fresh(number, name, script, told, pledge):
+    """A work that hasn't begun."""
+    return (number, name, (("do", script),) if script else (), told, None, pledge, 0)
 
 
-def do_ahead(work, script):
+def rest_of(doing):
+    """What is still to be done of a work, as one that has begun."""
+    rest = doing.script[doing.at:]
+    frames = (*doing.frames, ("do", rest)) if rest else tuple(doing.frames)
+    return (doing.number, doing.name, frames, doing.told, doing.gave, doing.pledge, 1)
+
+
+def do_ahead(doing, script):
     """Put a script ahead of all else that a work has to do."""
-    if script:
-        work.frames.append(("do", script))
+    rest = doing.script[doing.at:]
+    if rest:
+        doing.frames.append(("do", rest))
+    go_to(doing, script)
 
 
-def guard(work, script, second, last):
+def go_to(doing, script):
+    """Go on with a script; nothing is left of the one ahead."""
+    doing.script = script
+    doing.at = 0
+
+
+def guard(doing, script, second, last):
     """Put a guarded script ahead of all else that a work has to do."""
-    work.frames.append(("part", second, last))
-    do_ahead(work, script)
+    do_ahead(doing, ())
+    doing.frames.append(("part", second, last))
+    go_to(doing, script)
 
 
-def has_deed(work):
-    """Whether a deed is the next thing that a work has to do."""
-    return work.frames[-1][0] == "do"
-
-
-def next_deed(work):
-    """Take the next deed off a work."""
-    script = work.frames.pop()[1]
-    do_ahead(work, script[1:])
-    return script[0]
-
-
-def leave_part(work):
-    """Go on behind a guard's part that is done; the reason with which the work fails again, or None."""
-    frame = work.frames.pop()
+def leave_frame(doing):
+    """Go on with the frame around what is done; the reason with which the work fails again, or None."""
+    frame = doing.frames.pop()
     if frame[0] == "last":
         return frame[1]
-    shut(work, frame[-1], None)
+    if frame[0] == "do":
+        go_to(doing, frame[1])
+    else:
+        shut(doing, frame[-1], None)
     return None
 
 
-def shut(work, last, reason):
+def shut(doing, last, reason):
     """Go on with a guard's last part."""
-    work.frames.append(("last", reason))
-    do_ahead(work, last)
+    doing.frames.append(("last", reason))
+    go_to(doing, last)
 
 
-def brought_to_guard(work, reason):
+def brought_to_guard(doing, reason):
     """Go on with what the guards around have for a fault; whether there was one that takes it."""
-    while work.frames:
-        frame = work.frames.pop()
+    while doing.frames:
+        frame = doing.frames.pop()
         if frame[0] == "part" and frame[1] is not None:
-            work.told = reason
-            work.frames.append(("second", frame[2]))
-            do_ahead(work, frame[1])
+            doing.told = reason
+            doing.frames.append(("second", frame[2]))
+            go_to(doing, frame[1])
             return True
         if frame[0] in UNSHUT:
-            shut(work, frame[-1], reason)
+            shut(doing, frame[-1], reason)
             return True
     return False
 
 
-def give(work, worth):
+def give(doing, worth):
     """Leave all undone but the last parts that haven't begun; the outcome is this worth."""
-    work.gave = worth
-    work.frames = [frame for frame in work.frames if frame[0] in UNSHUT]
+    doing.gave = worth
+    doing.frames = [frame for frame in doing.frames if frame[0] in UNSHUT]
+    go_to(doing, ())
