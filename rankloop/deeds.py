@@ -266,3 +266,15 @@ ACTIONS = {
     "yield": do_yield,
     "call": do_call,
 }
+
+
+def do_deeds(state, doing):
+    """Do deeds until the script under way is done, or one of them doesn't go on; what this one tells, or None."""
+    while doing.at < len(doing.script):
+        deed = doing.script[doing.at]
+        doing.at += 1
+        action = ACTIONS[deed[0]]
+        told = action(state, doing, deed)
+        if told is not None:
+            return told
+    return None

@@ -23,13 +23,14 @@ class Loop:
 
     def post(self, script, *, rank=0, name="work"):
         """Put a work at the end of a rank's line; its number."""
-        refuse_busy(self.state)
+        state = self.state
+        refuse_busy(state)
         if not is_script(script):
             raise NoScript(script)
-        if not is_between(rank, 0, len(self.state.queues) - 1):
+        if not is_between(rank, 0, len(state.queues) - 1):
             raise NoRank(rank)
-        number = new_number(self.state)
-        put_work(self.state, rank, fresh(number, name, script, None, None))
+        number = new_number(state)
+        put_work(state, rank, fresh(number, name, script, None, None))
         return number
 
     def turn(self):
@@ -39,9 +40,10 @@ class Loop:
 
     def turns(self, most=MOST):
         """Do turns until there is none, but no more than most; how many were done."""
-        refuse_busy(self.state)
+        state = self.state
+        refuse_busy(state)
         many = 0
-        while many < most and take_turn(self.state):
+        while many < most and take_turn(state):
             many += 1
         return many
 

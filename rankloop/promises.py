@@ -145,18 +145,18 @@ def cancel(state, number):
     state.stories[number] = "spent"
     source = state.waits[number]
     takers = state.takers[source]
-    # All are kept but the story's: an own list, as the others keep their order.
-    kept = [taker for taker in takers if not is_rest_of(taker, number)]
-    rest = [taker for taker in takers if is_rest_of(taker, number)]
-    state.takers[source] = kept
-    if not kept:
+    rest = takers.pop(place_of_rest(takers, number))
+    if not takers:
         state.takers.pop(source)
-    state.micros.append(micro_of(state, rest[0], CANCELLED))
+    state.micros.append(micro_of(state, rest, CANCELLED))
 
 
-def is_rest_of(taker, number):
-    """Whether a taker is the rest of the story with this promise."""
-    return taker[1] == "work" and taker[2][5] == number
+def place_of_rest(takers, number):
+    """The place at which the rest of the story with this promise stands among takers."""
+    for at, taker in enumerate(takers):
+        if taker[1] == "work" and taker[2][5] == number:
+            return at
+    return None
 
 
 def take_cancel(state, pledge):

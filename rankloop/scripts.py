@@ -53,10 +53,20 @@ def is_word(thing):
     return thing.isalpha() and thing.islower() and thing.isascii()
 
 
+def is_whole(thing):
+    """Whether it is a whole number."""
+    # Python counts True and False among its ints.
+    return isinstance(thing, int) and not isinstance(thing, bool)
+
+
+def is_from_0(thing):
+    """Whether it is a whole number from 0 on."""
+    return is_whole(thing) and thing >= 0
+
+
 def is_between(thing, least, most):
     """Whether it is a whole number from least to most."""
-    # Python counts True and False among its ints.
-    return isinstance(thing, int) and not isinstance(thing, bool) and least <= thing <= most
+    return is_whole(thing) and least <= thing <= most
 
 
 def is_worth(thing):
@@ -138,15 +148,17 @@ def room_behind(thing, levels, room):
 
 def room_behind_parts(deed, levels, room):
     """The room behind the scripts in a deed; None where one of its parts is of another kind."""
-    for kind, part in zip(DEEDS[deed[0]], deed[1:]):
+    at = 0
+    for kind in DEEDS[deed[0]]:
+        at += 1
         if kind == "word":
-            if not is_word(part):
+            if not is_word(deed[at]):
                 return None
         elif kind not in SCRIPT_KINDS:
-            if not fits(kind, part):
+            if not fits(kind, deed[at]):
                 return None
-        elif kind == "script" or part is not None:
-            room = room_behind(part, levels, room)
+        elif kind == "script" or deed[at] is not None:
+            room = room_behind(deed[at], levels, room)
             if room is None:
                 return None
     return room
@@ -154,7 +166,7 @@ def room_behind_parts(deed, levels, room):
 
 def has_form(deed):
     """Whether it is a tuple of a deed's word and as many parts as this deed has."""
-    if not isinstance(deed, tuple) or len(deed) == 0 or not isinstance(deed[0], str):
+    if not isinstance(deed, tuple) or not deed or not isinstance(deed[0], str):
         return False
     return deed[0] in DEEDS and len(deed) == 1 + len(DEEDS[deed[0]])
 

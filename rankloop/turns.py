@@ -1,6 +1,6 @@
 """Turns: what is begun, and what comes behind it until nothing more can be done for now."""
 
-from rankloop.deeds import ACTIONS, STAYS
+from rankloop.deeds import STAYS, do_deeds
 from rankloop.lines import chosen, is_overdue
 from rankloop.promises import gather_fate, settle, take_cancel, tell_unhandled
 from rankloop.queues import put_due, take_first, take_idle
@@ -10,7 +10,9 @@ from rankloop.works import Doing, brought_to_guard, fresh, leave_frame
 
 def take_turn(state):
     """Do what stands ahead of a turn, and a turn; whether there was any of these."""
-    finished = finish_broken_off(state)
+    finished = state.asking is not None
+    if finished:
+        finish_broken_off(state)
     begun = begin_turn(state)
     if begun:
         settle_down(state)
@@ -18,19 +20,17 @@ def take_turn(state):
 
 
 def finish_broken_off(state):
-    """Do the rest of a turn that an error broke off; whether there was one."""
-    if state.asking is None:
-        return False
+    """Do the rest of a turn that an error broke off."""
     work = Doing(state.asking)
     state.asking = None
     go_on(state, work, "out")
     settle_down(state)
-    return True
 
 
 def begin_turn(state):
     """Begin what is next, or tell a run as stuck; whether there was something."""
-    put_due(state)
+    if state.timers or state.idles:
+        put_due(state)
     rank = chosen(state.passed, state.patience)
     if rank is None and state.timers and not state.idles:
         leap(state)
@@ -86,7 +86,7 @@ def settle_down(state):
             do_micros(state)
         if state.untold and not state.micros:
             tell_unhandled(state)
-        ending = state.opened and end_run(state)
+        ending = len(state.opened) > 0 and end_run(state)
     state.done = 0
     state.flooded = False
 
@@ -98,8 +98,13 @@ def do_micros(state):
         micro = micros.pop(0)
         state.done += 1
         state.events.append((state.clock, "micro", micro[0]))
-        action = MICROS[micro[1]]
-        action(state, micro)
+        kind = micro[1]
+        if kind == "work":
+            begin(state, micro[2], micro[3])
+        elif kind == "settle":
+            settle(state, micro[2], micro[3])
+        else:
+            gather_fate(state, micro[2], micro[3], micro[4])
     if micros and not state.flooded:
         write(state, "flood", len(micros))
         state.flooded = True
@@ -118,13 +123,17 @@ def end_run(state):
 
 def begin(state, work, fate):
     """Begin a work or its rest, which may be due to fail with cancel there."""
-    doing = Doing(work)
-    if not take_cancel(state, doing.pledge):
-        go_on_by(state, doing, fate)
-        return
-    if fate is not None and fate[0] == "kept":
-        doing.told = fate[1]
-    go_on(state, doing, "cancel")
+    pledge = work[5]
+    if pledge is not None and take_cancel(state, pledge):
+        doing = Doing(work)
+        if fate is not None and fate[0] == "kept":
+            doing.told = fate[1]
+        go_on(state, doing, "cancel")
+    elif fate is None and not work[2]:
+        # Works of which nothing is to be done may be many, and end at once.
+        end(state, work[0], pledge, work[4], None)
+    else:
+        go_on_by(state, Doing(work), fate)
 
 
 def go_on_by(state, doing, fate):
@@ -148,50 +157,15 @@ def go_on(state, doing, reason):
             if not doing.frames:
                 break
             reason = leave_frame(doing)
-    end(state, doing, reason)
+    end(state, doing.number, doing.pledge, doing.gave, reason)
 
 
-def do_deeds(state, doing):
-    """Do deeds until the script under way is done, or one of them doesn't go on; what this one tells, or None."""
-    while doing.at < len(doing.script):
-        deed = doing.script[doing.at]
-        doing.at += 1
-        action = ACTIONS[deed[0]]
-        told = action(state, doing, deed)
-        if told is not None:
-            return told
-    return None
-
-
-def end(state, doing, reason):
+def end(state, number, pledge, gave, reason):
     """End a work, with a reason where it failed."""
-    pledge = doing.pledge
     if pledge is None:
         if reason is not None:
-            write(state, "fault", doing.number, reason)
+            write(state, "fault", number, reason)
         return
     if pledge in state.stories:
         state.stories[pledge] = "spent"
-    settle(state, pledge, ("kept", doing.gave) if reason is None else ("broken", reason))
-
-
-def begin_micro(state, micro):
-    """Do a micro in which a work, or its rest, begins."""
-    begin(state, micro[2], micro[3])
-
-
-def settle_alike(state, micro):
-    """Do the micro of a then that has no script for this fate."""
-    settle(state, micro[2], micro[3])
-
-
-def add_fate(state, micro):
-    """Do a micro of all, any, first or each."""
-    gather_fate(state, micro[2], micro[3], micro[4])
-
-
-MICROS = {
-    "work": begin_micro,
-    "settle": settle_alike,
-    "gather": add_fate,
-}
+    settle(state, pledge, ("kept", gave) if reason is None else ("broken", reason))

@@ -24,8 +24,12 @@ class Doing:
         number, name, frames, told, gave, pledge, begun = work
         self.number = number
         self.name = name
-        self.frames = list(frames)
-        self.script = ()
+        if frames and frames[-1][0] == "do":
+            self.frames = list(frames[:-1])
+            self.script = frames[-1][1]
+        else:
+            self.frames = list(frames)
+            self.script = ()
         self.at = 0
         self.told = told
         self.gave = gave
