@@ -1,8 +1,8 @@
 """Journals as texts, and whether a journal is what a loop's next turns would add."""
 
-from rankloop.looprows import show_row
 from rankloop.loops import MOST
 from rankloop.scripts import is_whole
+from rankloop.scripttexts import show_parts
 
 
 def first_wrong(loop, journal, *, turns=MOST):
@@ -39,4 +39,4 @@ def is_alike(thing, part):
 
 def show_journal(journal):
     """The text of a journal: a row for each event."""
-    return "\n".join([show_row(event) for event in journal])
+    return "\n".join([show_parts(event) for event in journal])

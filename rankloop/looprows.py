@@ -3,13 +3,6 @@
 Loops are equal where their rows are, and the text of a loop is that of its rows.
 """
 
-from rankloop.scripttexts import show_worth
-
-
-def show_row(row):
-    """The text of a row: its parts, parted by single blanks."""
-    return " ".join([show_worth(part) for part in row])
-
 
 def rows_of(state):
     """The rows of a loop's state; the defs are left aside."""

@@ -1,9 +1,10 @@
 """Loops: works by ranks, on a clock of their own."""
 
 from rankloop.errors import Busy, NoPromise, NoRank, NoScript
-from rankloop.looprows import rows_of, show_row
+from rankloop.looprows import rows_of
 from rankloop.queues import put_work
 from rankloop.scripts import is_between, is_script
+from rankloop.scripttexts import show_parts
 from rankloop.states import State, copied, new_number
 from rankloop.turns import take_turn
 from rankloop.works import fresh
@@ -99,7 +100,7 @@ class Loop:
 
     def __str__(self):
         refuse_busy(self.state)
-        return "\n".join([show_row(row) for row in rows_of(self.state)])
+        return "\n".join([show_parts(row) for row in rows_of(self.state)])
 
 
 def refuse_busy(state):

@@ -34,11 +34,27 @@ def show_part(kind, part):
 
 def show_worth(worth):
     """The text of a worth, or of a tuple of names."""
-    if worth is None:
-        return "-"
-    if isinstance(worth, tuple):
-        return bracketed("<", [show_worth(part) for part in worth], ">")
-    return f"{worth}"
+    return show_parts((worth,))
+
+
+def show_parts(parts):
+    """The text of worths, parted by single blanks."""
+    signs = []
+    add_signs(signs, parts)
+    return " ".join(signs)
+
+
+def add_signs(signs, parts):
+    """Add the signs of worths to a list."""
+    for part in parts:
+        if part is None:
+            signs.append("-")
+        elif isinstance(part, tuple):
+            signs.append("<")
+            add_signs(signs, part)
+            signs.append(">")
+        else:
+            signs.append(f"{part}")
 
 
 def bracketed(opening, texts, closing):
