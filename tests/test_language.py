@@ -18,7 +18,11 @@ BARRED_WORDS = set(
     "type typing typing_extensions enum Enum IntEnum StrEnum Flag IntFlag Generic Protocol ABC ABCMeta namedtuple "
     "NamedTuple TypedDict TYPE_CHECKING abstractmethod".split()
 )
-BARRED_NAMES = set("register mro elements open input law version_info with_traceback add_note format format_map".split())
+BARRED_NAMES = set(
+    "register mro elements open input law version_info with_traceback add_note format format_map attrgetter breakpoint "
+    "builtins compile copyright credits delattr dir eval exec exit gc getattr globals hasattr help id importlib license "
+    "locals methodcaller os quit setattr type vars sys".split()
+)
 BARRED_NODES = (
     ast.Global, ast.AsyncFunctionDef, ast.AsyncFor, ast.AsyncWith, ast.Await, ast.Import, ast.Div, ast.Try, ast.TryStar
 )
@@ -57,6 +61,18 @@ def imported_files(tree):
 
 def nodes(kind):
     return [(name, node) for name, tree in trees() for node in ast.walk(tree) if isinstance(node, kind)]
+
+
+TAKERS = ("list", "tuple", "dict", "sorted", "sum", "any", "all", "enumerate", "zip", "min", "max")
+
+
+def called(node):
+    """What a call calls: a name, or a method with a dot ahead; None of what is no call."""
+    if not isinstance(node, ast.Call):
+        return None
+    if isinstance(node.func, ast.Attribute):
+        return "." + node.func.attr
+    return getattr(node.func, "id", None)
 
 
 class Language(unittest.TestCase):
@@ -127,6 +143,7 @@ class Language(unittest.TestCase):
             if not DOUBLE.match(told):
                 self.assertFalse(told.startswith("_"), (name, told))
                 self.assertNotIn(told, BARRED_NAMES | BUILTINS, (name, told))
+                self.assertFalse(hasattr(builtins, told), (name, told))
 
     def test_is_only_of_none_and_truths(self):
         for name, node in nodes(ast.Compare):
@@ -189,6 +206,29 @@ class Language(unittest.TestCase):
             self.assertIsInstance(node.func, (ast.Name, ast.Attribute), (name, node.lineno))
             if isinstance(node.func, ast.Attribute):
                 self.assertNotEqual(node.func.attr, "sort", (name, node.lineno))
+
+    def test_iterated_at_once(self):
+        for name, tree in trees():
+            around = {child: node for node in ast.walk(tree) for child in ast.iter_child_nodes(node)}
+            for node in ast.walk(tree):
+                self.assertNotIsInstance(node, (ast.GeneratorExp, ast.Yield, ast.YieldFrom), name)
+                if called(node) in ("zip", "enumerate", "reversed", "range", ".items", ".keys", ".values"):
+                    taken = isinstance(around[node], (ast.For, ast.comprehension)) or called(around[node]) in TAKERS
+                    self.assertTrue(taken, (name, node.lineno))
+
+    def test_sets(self):
+        for name, tree in trees():
+            around = {child: node for node in ast.walk(tree) for child in ast.iter_child_nodes(node)}
+            for node in ast.walk(tree):
+                self.assertNotIsInstance(node, (ast.Set, ast.SetComp), name)
+                if called(node) == "set":
+                    self.assertIn(called(around[node]), ("len", "sorted"), (name, node.lineno))
+
+    def test_what_a_finally_has(self):
+        for name, node in nodes(ast.Try):
+            for row in node.finalbody:
+                self.assertIsInstance(row, (ast.Assign, ast.AugAssign), (name, row.lineno))
+                self.assertIsInstance(row.value, (ast.Name, ast.Constant), (name, row.lineno))
 
     def test_tables(self):
         for name, tree in trees():
