@@ -1,11 +1,6 @@
 """Which rank is chosen of those that have works."""
 
 
-def is_overdue(passes, patience):
-    """Whether a rank's first work was passed over as often as its patience bears."""
-    return passes is not None and patience is not None and passes >= patience
-
-
 def chosen(passes, patience):
     """The rank whose first work is to be done; None where no rank has one."""
     least = None

@@ -1,6 +1,6 @@
 """All that stands in a loop as rows: tuples of words, numbers, None and tuples of these.
 
-Loops are equal where their rows are, and the text of a loop is that of its rows.
+The text of a loop is that of its rows.
 """
 
 
@@ -25,6 +25,20 @@ def head_of(state):
     """The row of the single numbers of a loop."""
     counts = (state.clock, state.numbers, state.done, truth(state.flooded))
     return ("loop", state.patience, state.flood, state.deep, *counts)
+
+
+def are_alike(state, other):
+    """Whether two states have the same rows, found without making these."""
+    if head_of(state) != head_of(other) or list(state.untold) != list(other.untold):
+        return False
+    return parts_of(state) == parts_of(other)
+
+
+def parts_of(state):
+    """All that stands in a loop but what its first row has, and those that are untold."""
+    works = [state.passed, state.queues, state.micros, state.timers, state.idles, state.opened, state.asking]
+    promises = [state.fates, state.named, state.takers, state.taken, state.gathers, state.stories]
+    return [works, promises, state.events]
 
 
 def truth(told):

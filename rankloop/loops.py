@@ -1,7 +1,7 @@
 """Loops: works by ranks, on a clock of their own."""
 
 from rankloop.errors import Busy, NoPromise, NoRank, NoScript
-from rankloop.looprows import rows_of
+from rankloop.looprows import are_alike, rows_of
 from rankloop.queues import put_work
 from rankloop.scripts import is_between, is_script
 from rankloop.scripttexts import show_parts
@@ -93,7 +93,7 @@ class Loop:
         state.events = []
 
     def __eq__(self, other):
-        return isinstance(other, Loop) and rows_of(self.state) == rows_of(other.state)
+        return isinstance(other, Loop) and are_alike(self.state, other.state)
 
     def __len__(self):
         return len([work for line in self.state.queues for work in line])

@@ -12,7 +12,7 @@ All but the last become micros, tuples too:
 """
 
 from rankloop.scripts import is_worth
-from rankloop.states import OPEN, is_settled, write
+from rankloop.states import OPEN, SETTLED, is_settled, write
 from rankloop.works import fresh
 
 CANCELLED = ("broken", "cancel")
@@ -51,8 +51,7 @@ def takers_behind(state, number, fate):
     elif number not in state.taken:
         state.untold[number] = True
     state.gathers.pop(number, None)
-    takers = state.takers.pop(number, None)
-    return [] if takers is None else takers[::-1]
+    return state.takers.pop(number, [])[::-1]
 
 
 def micro_of(state, taker, fate):
@@ -72,8 +71,9 @@ def micro_of(state, taker, fate):
 
 def put_taker(state, number, taker):
     """Put what comes when a promise settles: now, if it is."""
-    if is_settled(state, number):
-        state.micros.append(micro_of(state, taker, state.fates[number]))
+    fate = state.fates[number]
+    if fate[0] in SETTLED:
+        state.micros.append(micro_of(state, taker, fate))
     elif number in state.takers:
         state.takers[number].append(taker)
     else:
@@ -161,7 +161,7 @@ def place_of_rest(takers, number):
 
 def take_cancel(state, pledge):
     """Whether the work with this promise is a story due to fail with cancel here; it is so just once."""
-    if pledge is None or state.stories.get(pledge) != "due":
+    if state.stories.get(pledge) != "due":
         return False
     state.stories[pledge] = "spent"
     return True

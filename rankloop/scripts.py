@@ -66,7 +66,7 @@ def is_from_0(thing):
 
 def is_between(thing, least, most):
     """Whether it is a whole number from least to most."""
-    return is_whole(thing) and least <= thing <= most
+    return isinstance(thing, int) and not isinstance(thing, bool) and least <= thing <= most
 
 
 def is_worth(thing):

@@ -1,7 +1,7 @@
 """Turns: what is begun, and what comes behind it until nothing more can be done for now."""
 
 from rankloop.deeds import STAYS, do_deeds
-from rankloop.lines import chosen, is_overdue
+from rankloop.lines import chosen
 from rankloop.promises import gather_fate, settle, take_cancel, tell_unhandled
 from rankloop.queues import put_due, take_first, take_idle
 from rankloop.states import is_settled, write
@@ -14,7 +14,8 @@ def take_turn(state):
     if finished:
         finish_broken_off(state)
     begun = begin_turn(state)
-    if begun:
+    # Most turns leave nothing behind the work, and are to be quick.
+    if begun and (state.micros or state.untold or state.opened):
         settle_down(state)
     return finished or begun
 
@@ -57,7 +58,8 @@ def leap(state):
 
 def begin_task(state, rank):
     """Begin the first work of the chosen rank."""
-    why = "overdue" if is_overdue(state.passed[rank], state.patience[rank]) else "least"
+    bears = state.patience[rank]
+    why = "least" if bears is None or state.passed[rank] < bears else "overdue"
     work = take_first(state, rank)
     state.events.append((state.clock, "task", work[0], rank, why))
     begin(state, work, None)
@@ -124,7 +126,7 @@ def end_run(state):
 def begin(state, work, fate):
     """Begin a work or its rest, which may be due to fail with cancel there."""
     pledge = work[5]
-    if pledge is not None and take_cancel(state, pledge):
+    if pledge in state.stories and take_cancel(state, pledge):
         doing = Doing(work)
         if fate is not None and fate[0] == "kept":
             doing.told = fate[1]
