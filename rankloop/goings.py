@@ -51,10 +51,9 @@ def numbers_left(outside, numbers):
 
 def said_first(events, first, second):
     """Which of two words is said first, the second where both are one; None where neither is."""
-    for event in events:
-        # Both are asked, as an event may have a word in its third part that nobody says.
-        if event[1] == "said" and event[2] == second:
+    for worth in [event[2] for event in events if event[1] == "said"]:
+        if worth == second:
             return "second"
-        if event[1] == "said" and event[2] == first:
+        if worth == first:
             return "first"
     return None

@@ -6,13 +6,11 @@ from rankloop.starving import all_comings, row_behind
 
 def shows_most(patience, rank, thing):
     """Whether a thing is a tuple by which the most passes of a rank, or that it may wait for ever, can be seen."""
-    if not isinstance(thing, tuple) or len(thing) == 0 or not isinstance(thing[0], str):
+    if not isinstance(thing, tuple):
         return False
-    if thing[0] == "most" and len(thing) == 4:
+    if len(thing) == 4 and thing[0] == "most":
         return is_most(patience, rank, thing)
-    if thing[0] == "ever" and len(thing) == 3:
-        return is_ever(patience, rank, thing)
-    return False
+    return len(thing) == 3 and thing[0] == "ever" and is_ever(patience, rank, thing)
 
 
 def is_most(patience, rank, thing):
@@ -85,8 +83,8 @@ def none_alone(patience):
 
 def reaches(patience, rank, many, comings):
     """Whether the rank has so many passes behind the last turn with these comings; there are none where it is 0."""
-    if many == 0 or len(comings) == 0:
-        return many == 0 and len(comings) == 0
+    if len(comings) == 0:
+        return many == 0
     rows = rows_behind(patience, rank, none_alone(patience), comings)
     return rows is not None and rows[-1][rank] == many
 

@@ -10,16 +10,16 @@ from rankloop.loops import Loop
 from rankloop.scripts import is_script
 from samples import anything
 from test_copies import ALIKE, UNLIKE, full_loop
-from test_plain_rule import CALLS, NAMES, WORKS, Maker, turn_of
+from test_plain_rule import CALLS, NAMES, WORKS, Maker, StoryMaker, turn_of
 
 SIGNS = "0123456789 -<>()[]abkpqrwz\n"
 WORDS = ("0", "1", "2", "3", "-", "-1", "9", "p", "q", "kept", "broken", "open", "follows", "whole", "due", "spent", "do", "part", "last", "< >",
          "work", "then", "gather", "follow", "settle", "9" * 5000, "1000000000", "01", "-0", "+1", "A", "abcdefghi", "event", "line")
 
 
-def chance_loop(seed):
+def chance_loop(seed, kind=Maker):
     """A loop by chance, and what it was made with."""
-    maker = Maker(seed)
+    maker = kind(seed)
     chance = maker.chance
     ranks = chance.randrange(1, 7)
     patience = chance.choice([None, [chance.choice((None, 0, 1, 2)) for _ in range(ranks)]])
@@ -130,10 +130,11 @@ class ReadLoop(unittest.TestCase):
     def test_stories_that_wait_are_found_by_cancel(self):
         loop = loop_of((MAKE, ("story", "q", (("guard", (("wait", "p"),), ECHO, say("last")),))))
         loop.turn()
-        twin = read_loop(str(loop))
-        twin.post((("cancel", "q"), ("keep", "p", 1)))
-        twin.turns()
-        self.assertEqual([row for row in events(twin) if row[0] == "said"], [("said", "cancel"), ("said", "last")])
+        for behind in ((), (("keep", "p", 1),)):
+            twin = read_loop(str(loop))
+            twin.post((("cancel", "q"), *behind))
+            twin.turns()
+            self.assertEqual([row for row in events(twin) if row[0] == "said"], [("said", "cancel"), ("said", "last")])
 
     def test_rows_of_followers(self):
         names = "abcdefgh"
@@ -327,6 +328,68 @@ class Refused(unittest.TestCase):
                     ("0 1 0 0", "0 1 0 1"), ("0 1 0 0", "0 0 0 0"), ("- - -", "- -"), ("- - -", "- - - -"), ("- - -", "-1 - -"), ("untold\n", ""),
                     ("asking -", "asking"), ("asking -", "asking 1"))
 
+    def micro_loop(self):
+        """A loop with micros of every kind that a flood left."""
+        loop = loop_of((
+            MAKE, ("keep", "p", 1), ("micro", ()), ("micro", ECHO), ("then", "p", "q", None, None), ("then", "p", "r", ECHO, None), ("all", "s", ("p", "p")),
+            ("story", "t", (("wait", "p"), ("echo",))), ("guard", (("wait", "p"), ("echo",)), None, ()),
+        ), flood=1)
+        loop.turn()
+        loop.forget()
+        return loop
+
+    def test_micros(self):
+        kinds = ["micro 2 work < 2 - < < do < < echo > > > > - - - 0 > -", "micro 3 settle 1 < kept 1 >", "micro 4 work < 4 - < < do < < echo > > > > 1 - 2 0 > -",
+                 "micro 5 gather 3 0 < kept 1 >", "micro 5 gather 3 1 < kept 1 >", "micro 6 work < 6 - < < do < < wait p > < echo > > > > - - 4 0 > -",
+                 "micro 0 work < 0 work < < part - < > > < do < < echo > > > > - - - 1 > < kept 1 >"]
+        loop = self.micro_loop()
+        self.assertEqual([row for row in str(loop).split("\n") if row.startswith("micro")], kinds)
+        self.refuse(
+            loop, ("micro 2 work < 2 -", "micro 3 work < 2 -"), ("micro 2 work < 2 -", "micro 9 work < 9 -"), ("micro 2 work < 2 -", "micro 2 work < 2 a"),
+            ("micro 2 work", "micro 2 works"), (kinds[0], kinds[0][:-1] + "< kept 1 >"), (kinds[0], kinds[0].replace("0 > -", "1 > -")), (kinds[0], kinds[0][:-2]),
+            (kinds[0], kinds[0] + " -"), (kinds[0], kinds[0].replace("- - - 0", "- 1 - 0")), (kinds[0], kinds[0].replace("< < do", "< < last - > < do")),
+            ("settle 1", "settle 9"), ("settle 1", "settle 2"), ("settle 1", "settle 3"), ("settle 1 < kept 1 >", "settle 1 < open >"),
+            ("settle 1 < kept 1 >", "settle 1 -"), ("settle 1 < kept 1 >", "settle 1 < broken 1 >"), (kinds[3], kinds[4]), ("gather 3 0", "gather 3 2"),
+            ("gather 3 0", "gather 1 0"), ("gather 3 0 < kept 1 >", "gather 3 0 < kept True >"), ("gather 3 0 < kept 1 >", "gather 3 0"), (kinds[3] + "\n", ""),
+            (kinds[6], kinds[6].replace("< kept 1 >", "-")), (kinds[6], kinds[6].replace("< kept 1 >", "< follows 1 >")),
+            (kinds[6], kinds[6].replace("part - < >", "part - -")), (kinds[6], kinds[6].replace("part - < >", "part < > -")),
+            (kinds[6], kinds[6].replace("part - < >", "second -")), (kinds[6], kinds[6].replace("part - < >", "last 1")),
+            (kinds[6], kinds[6].replace("part - < >", "first < >")), (kinds[6], kinds[6].replace("part - < >", "part - < > < >")),
+            (kinds[6], kinds[6].replace("work < 0 work", "work < 0 Work")), (kinds[6], kinds[6].replace("- - - 1", "- - 1 1")),
+            (kinds[5] + "\n", ""), ("- - 4 0", "- - 2 0"), ("- - 4 0", "- - 3 0"), ("- - 4 0", "- - 9 0"),
+        )
+
+    def test_takers(self):
+        loop = loop_of((MAKE, ("then", "p", "q", ECHO, None), ("then", "p", "r", None, ()), ("micro", (("wait", "p"), ("echo",)))))
+        loop.turn()
+        taker = "< 1 then 1 < < echo > > - >"
+        self.refuse(
+            loop, (taker, taker + " " + taker), ("then 1", "then 2"), ("then 1", "then 9"), ("< 1 then", "< 9 then"), ("< 1 then", "< - then"), ("then 1", "than 1"),
+            (taker, "< 1 then 1 1 - >"), (taker, "< 1 then 1 - 1 >"), (taker, "< 1 then 1 - >"), (taker, "< 1 then 1 - - - >"), (taker, "< 1 >"), (taker, "1"),
+            (taker, "< >"), (taker, "< - follow 1 >"), (taker, "< 1 follow 1 >"), ("< 3 work < 3", "< 2 work < 3"), ("- - - 1 >", "- - - 0 >"),
+            ("promise < open > 1 - -", "promise < kept 1 > 1 - -"), ("promise < open > 1 - -", "promise < kept 1 > 0 - -"),
+            ("promise < open > 1 - -", "promise < broken a > 1 - -"), ("promise < open > 1 - -", "promise < open > 2 - -"),
+        )
+
+    def test_each_word_of_texts_otherwise(self):
+        # Whatever is read goes on like any other loop.
+        answers = {"read": 0, "refused": 0}
+        broken = loop_of((("guard", (("call", "odd"),), ECHO, ()), ("story", "q", ())), calls=CALLS)
+        turn_of(broken)
+        for loop in (self.micro_loop(), broken, *[behind(chance_loop(seed)[0], 2) for seed in (3, 11)]):
+            rows = [row.split(" ") for row in str(loop).split("\n")]
+            for at, row in enumerate(rows):
+                for place in range(len(row)):
+                    for word in ("0", "3", "-", "p", "kept"):
+                        other = [*row[:place], word, *row[place + 1:]]
+                        text = "\n".join([" ".join(words) for words in [*rows[:at], other, *rows[at + 1:]]])
+                        ReadLoop.judge(self, text, answers)
+        self.assertGreater(min(answers.values()), 200, answers)
+
+    def refused(self, text):
+        with self.assertRaises(NoText):
+            read_loop(text)
+
     def test_journals(self):
         loop = loop_of((MAKE, ("keep", "p", 1), ("spend", 3), ("say", "a")))
         loop.turn()
@@ -334,6 +397,13 @@ class Refused(unittest.TestCase):
                     ("event 0 task 0 0 least", "event 0 task 0 3 least"), ("event 0 task 0 0 least", "event 0 task 1 0 least"),
                     ("event 0 task 0 0 least", "event 0 task 0 0 best"), ("event 0 kept 0 1", "event 0 kept 1 1"), ("event 0 kept 0 1", "event 0 keeps 0 1"),
                     ("event 0 kept 0 1", "event 0 kept 0"), ("event 0 kept 0 1", "event 0 broken 0 1"), ("event 0 kept 0 1", "event"))
+
+
+def behind(loop, many):
+    """A loop behind so many turns."""
+    for _ in range(many):
+        turn_of(loop)
+    return loop
 
 
 def forgotten(loop):
@@ -349,10 +419,10 @@ def told_of(loop):
 
 
 class CutAnywhere(unittest.TestCase):
-    def go(self, seed, cut, turns=20):
+    def go(self, seed, cut, turns=20, kind=Maker):
         """What a loop tells behind each turn, with works posted between; cut tells how it goes on between turns."""
-        loop, maker, ranks = chance_loop(seed)
-        posts = Maker(-1 - seed)
+        loop, maker, ranks = chance_loop(seed, kind)
+        posts = kind(-1 - seed)
         told = []
         for turn in range(turns):
             script = posts.script(2)
@@ -372,6 +442,11 @@ class CutAnywhere(unittest.TestCase):
             whole = self.go(seed, lambda loop: loop)
             self.assertEqual(self.go(seed, lambda loop: read_loop(str(loop), calls=CALLS)), whole, seed)
             self.assertEqual(self.go(seed, both), whole, seed)
+
+    def test_stories(self):
+        for seed in range(80):
+            whole = self.go(seed, lambda loop: loop, kind=StoryMaker)
+            self.assertEqual(self.go(seed, lambda loop: read_loop(str(loop), calls=CALLS), kind=StoryMaker), whole, seed)
 
     def test_cut_by_chance(self):
         for seed in range(250, 400):

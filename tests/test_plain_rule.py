@@ -96,6 +96,36 @@ class Maker:
         return (name, script)
 
 
+class StoryMaker(Maker):
+    """Makes scripts that have many stories, which wait, are cancelled and guarded."""
+
+    def script(self, levels):
+        deeds = [self.deed(min(levels, 2)) for _ in range(self.chance.randrange(1, 6))]
+        if levels < 4:
+            return tuple(deeds)
+        stories = [("story", story, (self.wait(), *self.script(1), self.wait())) for story in "stst"]
+        return (("make", "p"), ("make", "q"), *stories, ("yield", 0), *deeds)
+
+    def wait(self):
+        """A wait, guarded or not."""
+        deed = ("wait", self.chance.choice("pq"))
+        return self.chance.choice([deed, ("guard", (deed,), ECHO, ECHO), ("guard", (deed, deed), None, (deed,))])
+
+    def deed(self, levels):
+        chance = self.chance
+        name, story = chance.choice("pq"), chance.choice("st")
+        script = self.script(levels - 1) if levels else ()
+        return chance.choice([
+            ("cancel", story), ("cancel", story), ("cancel", story), self.wait(), ("wait", story), ("yield", 0), ("echo",), ("keep", name, 5),
+            ("break", name, "bad"), ("story", story, script), ("guard", script, ECHO, ECHO), ("post", 0, "a", script), ("micro", script),
+            ("run", chance.choice((name, story))), ("follow", name, chance.choice("pqst")), ("then", story, "r", None, ECHO),
+            ("any", "r", (story, "p")), ("make", name),
+        ])
+
+
+ECHO = (("echo",),)
+
+
 def told_of(loop, plain):
     """What a loop and the plain rule tell between turns."""
     mine = [loop.journal(), loop.lines(), loop.passes(), loop.now(), loop.depth(), len(loop)]
@@ -118,9 +148,9 @@ def turn_of(loop):
 
 
 class PlainRule(unittest.TestCase):
-    def pair(self, seed):
+    def pair(self, seed, kind=Maker):
         """A loop and the plain rule, with the same works."""
-        maker = Maker(seed)
+        maker = kind(seed)
         chance = maker.chance
         ranks = chance.randrange(1, 7)
         patience = chance.choice([None, [chance.choice((None, 0, 1, 2)) for _ in range(ranks)]])
@@ -138,8 +168,8 @@ class PlainRule(unittest.TestCase):
                 self.assertEqual(loop.post(script, rank=rank, name=name), plain.post(script, rank, name))
         return loop, plain
 
-    def go_on(self, seed, loop, plain):
-        maker = Maker(-seed)
+    def go_on(self, seed, loop, plain, kind=Maker):
+        maker = kind(-seed)
         for turn in range(25):
             script = maker.script(2)
             if turn % 4 == 3 and is_script(script):
@@ -156,6 +186,11 @@ class PlainRule(unittest.TestCase):
         for seed in range(3000):
             loop, plain = self.pair(seed)
             self.go_on(seed, loop, plain)
+
+    def test_stories(self):
+        for seed in range(700):
+            loop, plain = self.pair(seed, StoryMaker)
+            self.go_on(seed, loop, plain, StoryMaker)
 
     def test_copies_go_on_alike(self):
         for seed in range(400):

@@ -197,6 +197,8 @@ class Shows(unittest.TestCase):
     def test_a_ring_in_which_it_does_not_wait_on(self):
         self.assertIs(self.look((None, None), 1, ("ever", [(0, 1)], [(), (0, 1)])), False)
         self.assertIs(self.look((None, None), 1, ("ever", [(0,)], [(0,)])), False)
+        # It waits from the ring's first turn on, but not in the row ahead of that.
+        self.assertIs(self.look((None, None), 1, ("ever", [(0,)], [(0, 1)])), False)
 
     def test_passes_of_others_without_patience_are_any_number(self):
         self.assertIs(self.look((None, None, None), 1, ("ever", [(0, 1, 2)], [(0,)])), True)
