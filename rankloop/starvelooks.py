@@ -57,10 +57,8 @@ def is_coming(thing, ranks):
 
 
 def is_rows(thing, patience, rank):
-    """Whether it is a list of rows of passes, each once."""
-    if not isinstance(thing, list) or not all([is_row(row, patience, rank) for row in thing]):
-        return False
-    return len(set(thing)) == len(thing)
+    """Whether it is a list of rows of passes; a row may stand there more than once."""
+    return isinstance(thing, list) and all([is_row(row, patience, rank) for row in thing])
 
 
 def is_row(thing, patience, rank):
@@ -115,7 +113,7 @@ def is_closed(patience, rank, many, rows):
         return False
     counted = counted_ranks(patience, rank)
     ranks = list(range(len(patience)))
-    for row in rows:
+    for row in known:
         if row[rank] is not None and row[rank] > many:
             return False
         for coming in all_comings(row, ranks):

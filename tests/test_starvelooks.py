@@ -40,7 +40,7 @@ def is_so(patience, rank, thing):
         return ends[0] == ends[1]
     many, comings, rows = thing[1:]
     reached = gone(start, comings)
-    if reached is None or start not in rows or len(set(rows)) != len(rows):
+    if reached is None or start not in rows:
         return False
     if many == 0 and comings or many > 0 and (not reached or reached[-1][rank] != many):
         return False
@@ -134,14 +134,29 @@ class Shows(unittest.TestCase):
             word, many, comings, rows = most_passed(patience, rank)
             more = tuple([None if at != rank else many + 1 for at in range(len(patience))])
             none = rows.index((None,) * len(patience))
-            wrong = [changed(rows, none), [*rows, more], [], [*rows, rows[0]], [*rows, rows[-1]], [*rows, (None,) * (len(patience) + 1)],
-                     [*rows, rows[0][:-1]]]
+            wrong = [changed(rows, none), [*rows, more], [], [*rows, (None,) * (len(patience) + 1)], [*rows, rows[0][:-1]], [*rows, more, more]]
             for other in wrong:
                 self.assertIs(self.look(patience, rank, ("most", many, comings, other)), False, (patience, rank))
             for at in range(len(rows)):
                 # All of these are come to.
                 self.assertIs(shows_most(patience, rank, ("most", many, comings, changed(rows, at))), False)
             self.assertIs(self.look(patience, rank, ("most", many, comings, rows[::-1])), True)
+
+    def test_rows_that_stand_more_than_once(self):
+        for patience, rank in MOSTS:
+            word, many, comings, rows = most_passed(patience, rank)
+            for twice in ([*rows, rows[0]], [rows[-1], *rows], rows + rows, rows * 3, [row for row in rows for _ in range(2)]):
+                self.assertIs(self.look(patience, rank, ("most", many, comings, twice)), True, (patience, rank))
+                self.assertIs(self.look(patience, rank, ("most", many + 1, comings, twice)), False)
+                self.assertIs(self.look(patience, rank, ("most", many, comings[:-1], twice)), False)
+                for row in rows:
+                    # One that is missing isn't made up for by another one that stands there twice.
+                    self.assertIs(shows_most(patience, rank, ("most", many, comings, [other for other in twice if other != row])), False)
+                self.assertIs(self.look(patience, rank, ("most", many, comings, [*twice, list(rows[0])])), False)
+
+    def test_the_row_of_none_alone_twice(self):
+        self.assertIs(self.look((None,), 0, ("most", 0, [], [(None,), (None,)])), True)
+        self.assertIs(self.look((None,), 0, ("most", 0, [], [])), False)
 
     def test_more_rows(self):
         chance = random.Random(1)
@@ -244,7 +259,9 @@ class Shows(unittest.TestCase):
                 self.assertIs(self.look((None, None), 1, (*ever[:at], part, *ever[at + 1:])), False)
             self.assertIs(self.look((None, 2), 1, ("most", 2, [part, *told[2]], told[3])), False)
             self.assertIs(self.look((None, 2), 1, ("most", 2, told[2], [*told[3], part])), False)
-            self.assertIs(self.look((None, 2), 1, ("most", 2, told[2], [*told[3], (part, None)])), False)
+            # None and 0 make rows that are there already.
+            again = part is None or part.__class__ is int and part == 0
+            self.assertIs(self.look((None, 2), 1, ("most", 2, told[2], [*told[3], (part, None)])), again, part)
 
 
 def otherwise(thing):
