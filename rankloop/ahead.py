@@ -1,7 +1,9 @@
 """Whether one word is always said ahead of another one, however works come from outside."""
 
 from rankloop.errors import TooMany
-from rankloop.goings import behind_coming, behind_turn, forgotten, numbers_left, row_of, said_first, with_number
+from rankloop.goings import come, comings_behind, events_of_turn, outside_of, said_first, take_back
+from rankloop.looprows import standing_text
+from rankloop.states import copied
 
 MOST_STATES = 500
 
@@ -9,61 +11,82 @@ MOST_STATES = 500
 class Reached:
     """A state in which neither word was said, and the least weaving that leads to it by fewest events."""
 
-    def __init__(self, loop, numbers, weaving, done):
-        self.loop = loop
+    def __init__(self, state, numbers, weaving, done):
+        self.state = state
         # The works that have come, and how many turns are done.
         self.numbers = numbers
         self.weaving = weaving
         self.done = done
 
 
+class Search:
+    """What was come to so far, by its rows: by fewer events than now, and by just one more."""
+
+    def __init__(self, outside, first, second):
+        self.outside = outside
+        self.first = first
+        self.second = second
+        self.rows = {}
+        self.found = {}
+
+
 def always(loop, outside, first, second):
     """("always", rows) where the first word is said ahead whenever the second one is; else ("not", weaving)."""
-    rows = {}
-    # All states that are come to by just so many events, one more with each round.
-    reached = new_ones(rows, [Reached(forgotten(loop), (), [], 0)])
-    while reached:
-        shown = []
-        found = []
-        for ahead in reached:
-            step = behind_turn(ahead.loop)
-            word = "none" if step is None else said_first(step[1], first, second)
-            if word == "second":
-                shown.append(weaving_to_end(ahead, outside))
-            elif word is None:
-                found.append(Reached(step[0], ahead.numbers, ahead.weaving, ahead.done + 1))
+    start = loop.copy()
+    start.forget()
+    search = Search(outside_of(start.state, outside), first, second)
+    search.found = {(str(start), ()): Reached(start.state, (), [], 0)}
+    while search.found:
+        found = search.found
+        search.found = {}
+        for row in found:
+            search.rows[row] = True
+        if len(search.rows) > MOST_STATES:
+            raise TooMany(MOST_STATES)
+        shown = weavings_that_show(search, list(found.values()))
         if shown:
             return ("not", min(shown))
-        reached = new_ones(rows, found + behind_comings(reached, outside))
-    return ("always", list(rows))
+    return ("always", list(search.rows))
 
 
-def weaving_to_end(ahead, outside):
-    """The weaving of a state whose next turn is the last that counts: what hasn't come stands behind that."""
-    left = numbers_left(outside, ahead.numbers)
-    return ahead.weaving + [(ahead.done + 1, number) for number in left]
+def weavings_that_show(search, reached):
+    """Go on by one event from all of these states; the weavings by which the second word is said then.
 
-
-def behind_comings(reached, outside):
-    """The states behind each coming to one of these."""
-    found = []
+    What comes goes ahead of the turn, and what was found first goes on first:
+    so whatever is found once more was first found by a lesser weaving.
+    """
+    shown = []
     for ahead in reached:
-        for number in numbers_left(outside, ahead.numbers):
-            twin = behind_coming(ahead.loop, outside, number)
-            weaving = ahead.weaving + [(ahead.done, number)]
-            found.append(Reached(twin, with_number(ahead.numbers, number), weaving, ahead.done))
-    return found
+        comings = comings_behind(search.outside, ahead.numbers)
+        # Where there are too many, no more of them need to be noted.
+        has_room = len(search.rows) + len(search.found) <= MOST_STATES
+        if comings and has_room:
+            add_comings(search, ahead, comings)
+        events = events_of_turn(ahead.state)
+        if events is not None:
+            word = said_first(events, search.first, search.second)
+            if word is None and has_room:
+                add_turn(search, ahead)
+            elif word == "second":
+                # What hasn't come stands behind the turn.
+                shown.append(ahead.weaving + [(ahead.done + 1, place) for place, numbers in comings])
+    return shown
 
 
-def new_ones(rows, found):
-    """Note the states that weren't come to by fewer events, each once with its least weaving."""
-    new = {}
-    for behind in found:
-        row = row_of(behind.loop, behind.numbers)
-        if row not in rows and (row not in new or behind.weaving < new[row].weaving):
-            new[row] = behind
-        if len(rows) + len(new) > MOST_STATES:
-            raise TooMany(MOST_STATES)
-    for row in new:
-        rows[row] = True
-    return list(new.values())
+def add_comings(search, ahead, comings):
+    """Note the states behind each coming to this one."""
+    state = ahead.state
+    for place, numbers in comings:
+        come(state, search.outside, place)
+        row = (standing_text(state), numbers)
+        if row not in search.rows and row not in search.found:
+            search.found[row] = Reached(copied(state), numbers, [*ahead.weaving, (ahead.done, place)], ahead.done)
+        take_back(state, search.outside, place)
+
+
+def add_turn(search, ahead):
+    """Note the state behind a turn, which was done in place."""
+    row = (standing_text(ahead.state), ahead.numbers)
+    if row not in search.rows and row not in search.found:
+        ahead.done += 1
+        search.found[row] = ahead

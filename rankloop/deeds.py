@@ -1,233 +1,254 @@
 """The thirty deeds, each as a work does it.
 
-A deed tells None where the work goes on, STAYS where it does no more for now,
-or the reason with which it fails; nothing of a deed that fails is done.
+A deed tells None where the work goes on, MOVES where it goes on elsewhere,
+STAYS where it does no more for now, or the reason with which it fails; nothing
+of a deed that fails is done.
 """
 
 from rankloop.promises import (
     cancel, follow, gather_all, make_promise, put_taker, settle, take, take_cancel, wait_for
 )
-from rankloop.queues import put_idle, put_timer, put_work, rerank, stop
+from rankloop.queues import Plan, put_idle, put_timer, put_work, rerank, stop
 from rankloop.scripts import is_script
-from rankloop.states import new_number
-from rankloop.works import do_ahead, fresh, give, guard, rest_of
+from rankloop.states import new_number, own_book
+from rankloop.works import Work, do_ahead, give, guard, rest_of
 
-# No word, and so no reason.
+# No words, and so no reasons.
 STAYS = "."
+MOVES = ">"
 
 
 def put_micro(state, number, script, pledge):
     """Put a micro in which a script begins."""
-    state.micros.append((number, "work", fresh(number, None, script, None, pledge), None))
+    state.micros.append((number, "work", Work(number, None, script, None, pledge, None), None))
 
 
-def do_say(state, work, deed):
+def do_say(state, doing, deed):
     state.events.append((state.clock, "said", deed[1]))
 
 
-def do_echo(state, work, deed):
-    state.events.append((state.clock, "said", work.told))
+def do_echo(state, doing, deed):
+    state.events.append((state.clock, "said", doing.told))
 
 
-def do_spend(state, work, deed):
+def do_spend(state, doing, deed):
     state.clock += deed[1]
 
 
-def do_post(state, work, deed):
+def do_post(state, doing, deed):
     word, rank, name, script = deed
     if rank >= len(state.queues):
         return "rank"
-    put_work(state, rank, fresh(new_number(state), name, script, None, None))
+    put_work(state, rank, Work(new_number(state), name, script, None, None, None))
     return None
 
 
-def do_micro(state, work, deed):
+def do_micro(state, doing, deed):
     put_micro(state, new_number(state), deed[1], None)
 
 
-def do_after(state, work, deed):
+def do_after(state, doing, deed):
     word, wait, rank, name, script = deed
     if rank >= len(state.queues):
         return "rank"
-    put_timer(state, (state.clock + wait, new_number(state), None, rank, name, script))
+    number = new_number(state)
+    plan = Plan(None, rank, Work(number, name, script, None, None, None))
+    put_timer(state.timers, (state.clock + wait, number, plan))
     return None
 
 
-def do_every(state, work, deed):
+def do_every(state, doing, deed):
     word, gap, rank, name, script = deed
     if rank >= len(state.queues):
         return "rank"
-    put_timer(state, (state.clock + gap, new_number(state), gap, rank, name, script))
+    number = new_number(state)
+    plan = Plan(gap, rank, Work(number, name, script, 1, None, None))
+    put_timer(state.timers, (state.clock + gap, number, plan))
     return None
 
 
-def do_idle(state, work, deed):
+def do_idle(state, doing, deed):
     word, wait, name, script = deed
     due = None if wait is None else state.clock + wait
-    put_idle(state, (due, new_number(state), name, script))
+    number = new_number(state)
+    plan = Plan(None, len(state.queues) - 1, Work(number, name, script, None, None, None))
+    put_idle(state, (due, number, plan))
 
 
-def do_stop(state, work, deed):
-    work.told = stop(state, deed[1])
+def do_stop(state, doing, deed):
+    doing.told = stop(state, deed[1])
 
 
-def do_rerank(state, work, deed):
+def do_rerank(state, doing, deed):
     word, name, rank = deed
     if rank >= len(state.queues):
         return "rank"
-    work.told = rerank(state, name, rank)
+    doing.told = rerank(state, name, rank)
     return None
 
 
-def do_make(state, work, deed):
-    make_promise(state, deed[1])
+def do_make(state, doing, deed):
+    make_promise(own_book(state), deed[1])
 
 
-def do_keep(state, work, deed):
+def do_keep(state, doing, deed):
     word, name, worth = deed
-    if name not in state.named:
+    named = state.book.named
+    if name not in named:
         return "unknown"
-    settle(state, state.named[name], ("kept", worth))
+    settle(state, named[name], ("kept", worth))
     return None
 
 
-def do_pass(state, work, deed):
+def do_pass(state, doing, deed):
     name = deed[1]
-    if name not in state.named:
+    named = state.book.named
+    if name not in named:
         return "unknown"
-    settle(state, state.named[name], ("kept", work.told))
+    settle(state, named[name], ("kept", doing.told))
     return None
 
 
-def do_break(state, work, deed):
+def do_break(state, doing, deed):
     word, name, reason = deed
-    if name not in state.named:
+    named = state.book.named
+    if name not in named:
         return "unknown"
-    settle(state, state.named[name], ("broken", reason))
+    settle(state, named[name], ("broken", reason))
     return None
 
 
-def do_follow(state, work, deed):
+def do_follow(state, doing, deed):
     word, name, other = deed
-    if name not in state.named or other not in state.named:
+    named = state.book.named
+    if name not in named or other not in named:
         return "unknown"
-    follow(state, state.named[name], state.named[other])
+    follow(state, named[name], named[other])
     return None
 
 
-def do_then(state, work, deed):
+def do_then(state, doing, deed):
     word, name, made, kept, broken = deed
-    if name not in state.named:
+    if name not in state.book.named:
         return "unknown"
+    book = own_book(state)
     # Looked up ahead of the making, which may give the name another meaning.
-    source = state.named[name]
+    source = book.named[name]
     number = new_number(state)
-    pledge = make_promise(state, made)
-    take(state, source)
-    put_taker(state, source, (number, "then", pledge, kept, broken))
+    pledge = make_promise(book, made)
+    take(state, book, source)
+    put_taker(state, book, source, (number, "then", pledge, kept, broken))
     return None
 
 
-def do_gather(state, work, deed):
+def do_gather(state, doing, deed):
     word, made, names = deed
-    sources = [state.named.get(name) for name in names]
+    named = state.book.named
+    sources = [named.get(name) for name in names]
     if None in sources:
         return "unknown"
+    book = own_book(state)
     number = new_number(state)
-    gather_all(state, number, word, make_promise(state, made), sources)
+    gather_all(state, book, number, word, make_promise(book, made), sources)
     return None
 
 
-def do_give(state, work, deed):
-    give(work, deed[1])
+def do_give(state, doing, deed):
+    give(doing, deed[1])
+    return MOVES
 
 
-def do_fail(state, work, deed):
+def do_fail(state, doing, deed):
     return deed[1]
 
 
-def do_guard(state, work, deed):
+def do_guard(state, doing, deed):
     word, script, second, last = deed
-    guard(work, script, second, last)
+    guard(doing, script, second, last)
+    return MOVES
 
 
-def do_if(state, work, deed):
+def do_if(state, doing, deed):
     word, name, script, other = deed
-    if name not in state.named:
+    book = state.book
+    if name not in book.named:
         return "unknown"
-    fate = state.fates[state.named[name]]
-    do_ahead(work, script if fate[0] == "kept" else other)
-    return None
+    fate = book.fates[book.named[name]]
+    do_ahead(doing, script if fate[0] == "kept" else other)
+    return MOVES
 
 
-def do_wait(state, work, deed):
-    if take_cancel(state, work.pledge):
+def do_wait(state, doing, deed):
+    if take_cancel(state, doing.work.pledge):
         return "cancel"
     name = deed[1]
-    if name not in state.named:
+    named = state.book.named
+    if name not in named:
         return "unknown"
-    wait_for(state, state.named[name], rest_of(work))
+    wait_for(state, named[name], rest_of(doing))
     return STAYS
 
 
-def do_run(state, work, deed):
+def do_run(state, doing, deed):
     name = deed[1]
-    if name not in state.named:
+    named = state.book.named
+    if name not in named:
         return "unknown"
-    if len(state.opened) >= state.deep:
+    if len(state.opened) >= state.setup.deep:
         return "deep"
-    number = state.named[name]
+    number = named[name]
     state.events.append((state.clock, "run", number))
-    take(state, number)
-    state.opened.append((rest_of(work), number))
+    take(state, own_book(state), number)
+    state.opened.append((rest_of(doing), number))
     return STAYS
 
 
-def do_story(state, work, deed):
+def do_story(state, doing, deed):
     word, made, script = deed
     number = new_number(state)
-    pledge = make_promise(state, made)
-    state.stories[pledge] = "whole"
+    book = own_book(state)
+    pledge = make_promise(book, made)
+    book.stories[pledge] = "whole"
     put_micro(state, number, script, pledge)
 
 
-def do_cancel(state, work, deed):
-    number = state.named.get(deed[1])
-    if number not in state.stories:
+def do_cancel(state, doing, deed):
+    number = state.book.named.get(deed[1])
+    if number not in state.book.stories:
         return "unknown"
     cancel(state, number)
     return None
 
 
-def do_yield(state, work, deed):
-    if take_cancel(state, work.pledge):
+def do_yield(state, doing, deed):
+    if take_cancel(state, doing.work.pledge):
         return "cancel"
     rank = deed[1]
     if rank >= len(state.queues):
         return "rank"
-    put_work(state, rank, rest_of(work))
+    put_work(state, rank, rest_of(doing))
     return STAYS
 
 
-def do_call(state, work, deed):
+def do_call(state, doing, deed):
     word = deed[1]
-    if word not in state.calls:
+    if word not in state.setup.calls:
         return "unknown"
-    script = asked(state, work, word)
+    script = asked(state, doing, word)
     if not is_script(script):
         return "call"
-    do_ahead(work, script)
-    return None
+    do_ahead(doing, script)
+    return MOVES
 
 
-def asked(state, work, word):
+def asked(state, doing, word):
     """What a def tells of what the work was told last."""
-    named_def = state.calls[word]
+    named_def = state.setup.calls[word]
     # Where the def raises an error the work stays noted, to fail when the next turn is asked.
-    state.asking = rest_of(work)
+    state.asking = rest_of(doing)
     state.busy = True
     try:
-        told = named_def(work.told)
+        told = named_def(doing.told)
     finally:
         state.busy = False
     state.asking = None
@@ -270,11 +291,17 @@ ACTIONS = {
 
 def do_deeds(state, doing):
     """Do deeds until the script under way is done, or one of them doesn't go on; what this one tells, or None."""
-    while doing.at < len(doing.script):
-        deed = doing.script[doing.at]
-        doing.at += 1
+    script = doing.script
+    at = doing.at
+    while at < len(script):
+        deed = script[at]
+        at += 1
+        doing.at = at
         action = ACTIONS[deed[0]]
         told = action(state, doing, deed)
         if told is not None:
-            return told
+            if told != MOVES:
+                return told
+            script = doing.script
+            at = doing.at
     return None

@@ -3,7 +3,7 @@
 from rankloop.deskrows import read_desk_row
 from rankloop.errors import Busy, NoLoop, NoMark, NoPromise, NoRank, NoRow, Undone
 from rankloop.loops import Loop
-from rankloop.scripttexts import show_parts, show_worth
+from rankloop.scripttexts import show_event, show_worth
 
 
 class Desk:
@@ -105,7 +105,7 @@ def tell_events(desk, name, start):
     loop, told, mark = kept_of(desk, name)
     events = loop.journal()
     desk.shelf[name] = (loop, len(events), mark)
-    return "; ".join([show_parts(event) for event in events[start:]]) if events[start:] else "-"
+    return "; ".join([show_event(event) for event in events[start:]]) if events[start:] else "-"
 
 
 def tell_promise(desk, name, promise):

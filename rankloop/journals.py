@@ -2,7 +2,7 @@
 
 from rankloop.loops import MOST
 from rankloop.scripts import is_whole
-from rankloop.scripttexts import show_parts
+from rankloop.scripttexts import show_event
 
 
 def first_wrong(loop, journal, *, turns=MOST):
@@ -10,10 +10,17 @@ def first_wrong(loop, journal, *, turns=MOST):
     if not isinstance(journal, list):
         return 0
     events = events_ahead(loop, turns)
-    for at, event in enumerate(events):
-        if at == len(journal) or not is_alike(journal[at], event):
+    at = 0
+    for event, thing in zip(events, journal):
+        if thing != event:
             return at
-    return None if len(journal) == len(events) else len(events)
+        for part in thing:
+            # Most are words, or whole numbers.
+            if not isinstance(part, str) and (part is True or part is False or not isinstance(part, int)):
+                if not is_part(part):
+                    return at
+        at += 1
+    return None if len(journal) == len(events) else at
 
 
 def events_ahead(loop, many):
@@ -24,19 +31,13 @@ def events_ahead(loop, many):
     return twin.journal()
 
 
-def is_alike(thing, part):
-    """Whether a thing is this event or part of one, of the same kind too."""
-    if isinstance(part, tuple):
-        if not isinstance(thing, tuple) or len(thing) != len(part):
-            return False
-        return all([is_alike(inner, wanted) for inner, wanted in zip(thing, part)])
-    if isinstance(part, str):
-        return isinstance(thing, str) and thing == part
-    if part is None:
-        return thing is None
-    return is_whole(thing) and thing == part
+def is_part(thing):
+    """Whether a thing that equals a part of an event is of its kind, too: True equals 1, and yet is no number."""
+    if isinstance(thing, tuple):
+        return all([is_part(inner) for inner in thing])
+    return thing is None or isinstance(thing, str) or is_whole(thing)
 
 
 def show_journal(journal):
     """The text of a journal: a row for each event."""
-    return "\n".join([show_parts(event) for event in journal])
+    return "\n".join([show_event(event) for event in journal])

@@ -42,15 +42,15 @@ def is_tuple_of(thing, many):
 
 
 def is_head(parts):
-    """Whether these are patiences, flood, deep, clock, numbers, done and flooded."""
-    if len(parts) != 7:
+    """Whether these are patiences, flood, deep, clock and how many numbers works have."""
+    if len(parts) != 5:
         return False
-    patience, flood, deep, clock, works, done, flooded = parts
+    patience, flood, deep, clock, works = parts
     if not isinstance(patience, tuple) or len(patience) == 0:
         return False
     if not all([bears is None or is_from_0(bears) for bears in patience]):
         return False
-    return all([is_from_0(count) for count in (flood, deep, clock, works, done)]) and is_truth(flooded, None)
+    return all([is_from_0(count) for count in (flood, deep, clock, works)])
 
 
 def is_truth(thing, bounds):
@@ -120,13 +120,11 @@ def is_frame(thing, bounds):
 
 
 def is_standing(thing, bounds):
-    """Whether it is a work as in works.py."""
-    if not is_tuple_of(thing, 7):
+    """Whether these are the parts that each work in a text has: number, name, script, what it was told, pledge."""
+    if not isinstance(thing, tuple) or len(thing) < 5:
         return False
-    number, name, frames, told, gave, pledge, begun = thing
-    if not is_work_number(number, bounds) or not is_worth(told) or not is_worth(gave) or not is_truth(begun, bounds):
-        return False
-    if not isinstance(frames, tuple) or not all([is_frame(frame, bounds) for frame in frames]):
+    number, name, script, told, pledge = thing[:5]
+    if not is_work_number(number, bounds) or not is_script(script) or not is_worth(told):
         return False
     if pledge is not None:
         # It came as a micro, and these have no names.
@@ -135,30 +133,33 @@ def is_standing(thing, bounds):
 
 
 def is_begun(thing, bounds):
-    """Whether it is a work that has begun."""
-    return is_standing(thing, bounds) and thing[-1] == 1
+    """Whether these are the parts of a work that has begun: frames, and what it gave, behind the others."""
+    if not is_standing(thing, bounds) or len(thing) != 7:
+        return False
+    script, frames, gave = thing[2], thing[5], thing[6]
+    if not isinstance(frames, tuple) or not all([is_frame(frame, bounds) for frame in frames]):
+        return False
+    # Where nothing is left of a script the one around it is under way.
+    return is_worth(gave) and (len(script) > 0 or len(frames) == 0 or frames[-1][0] != "do")
 
 
 def is_fresh(thing, bounds):
-    """Whether it is a work that hasn't begun: of one script, and nothing given."""
-    if not is_standing(thing, bounds) or thing[-1] == 1:
-        return False
-    frames, gave = thing[2], thing[4]
-    return len(frames) <= 1 and all([frame[0] == "do" for frame in frames]) and gave is None
+    """Whether these are the parts of a work that hasn't begun."""
+    return is_standing(thing, bounds) and len(thing) == 5
 
 
 def is_in_line(thing, bounds):
     """Whether a work may stand in a line: with a name and no promise, where it hasn't begun."""
     if is_fresh(thing, bounds):
-        return thing[1] is not None and thing[5] is None
+        return thing[1] is not None and thing[4] is None
     return is_begun(thing, bounds)
 
 
 def is_line(parts, bounds):
-    """Whether these are the passes and the works of a line."""
-    if not parts or not all([is_in_line(work, bounds) for work in parts[1:]]):
-        return False
-    return parts[0] is None if len(parts) == 1 else is_from_0(parts[0])
+    """Whether these are the passes and the works of a line; nothing where it has none."""
+    if not parts:
+        return True
+    return len(parts) > 1 and is_from_0(parts[0]) and all([is_in_line(work, bounds) for work in parts[1:]])
 
 
 def is_timer(parts, bounds):
@@ -172,11 +173,10 @@ def is_timer(parts, bounds):
 
 
 def is_idle(parts, bounds):
-    """Whether these are an idle work's due, number, name and script."""
-    if len(parts) != 4:
+    """Whether these are those of an idle work: it goes to the last rank, once, and its due may be None."""
+    if len(parts) != 6 or parts[2] is not None or parts[3] != bounds.ranks - 1:
         return False
-    due, number, name, script = parts
-    return (due is None or is_from_0(due)) and is_work_number(number, bounds) and is_word(name) and is_script(script)
+    return is_timer(parts if parts[0] is not None else (0, *parts[1:]), bounds)
 
 
 def is_micro(parts, bounds):
@@ -254,8 +254,8 @@ def is_name(parts, bounds):
 
 
 def is_untold(parts, bounds):
-    """Whether these are numbers of promises."""
-    return all([is_promise_number(number, bounds) for number in parts])
+    """Whether these are numbers of promises, at least one."""
+    return len(parts) > 0 and all([is_promise_number(number, bounds) for number in parts])
 
 
 def is_run(parts, bounds):
@@ -264,8 +264,8 @@ def is_run(parts, bounds):
 
 
 def is_asking(parts, bounds):
-    """Whether it is the one work that a def broke off, or None."""
-    return len(parts) == 1 and (parts[0] is None or is_begun(parts[0], bounds))
+    """Whether these are the work that a def broke off, the micros done, and whether a flood was told."""
+    return len(parts) == 3 and is_begun(parts[0], bounds) and is_from_0(parts[1]) and is_truth(parts[2], bounds)
 
 
 def is_why(thing, bounds):

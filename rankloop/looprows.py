@@ -1,44 +1,68 @@
-"""All that stands in a loop as rows: tuples of words, numbers, None and tuples of these.
+"""All that stands in a loop as rows, of which its text is made.
 
-The text of a loop is that of its rows.
+A row is a word and its parts, parted by blanks; tuples are written as Python
+writes them, events as in a journal's text. Of what is empty there is no row, but
+of each line. Texts of things that are never changed are noted in them when they
+are first asked.
 """
 
-
-def rows_of(state):
-    """The rows of a loop's state; the defs are left aside."""
-    rows = [head_of(state)]
-    rows.extend([("line", many, *line) for many, line in zip(state.passed, state.queues)])
-    rows.extend([("micro", *micro) for micro in state.micros])
-    rows.extend([("timer", *timer) for timer in state.timers])
-    rows.extend([("idle", *idle) for idle in state.idles])
-    rows.extend([promise_row(state, number) for number in range(len(state.fates))])
-    # Sorted: in which order the names came makes no loop unlike another one.
-    rows.extend([("name", name, state.named[name]) for name in sorted(state.named)])
-    rows.append(("untold", *state.untold))
-    rows.extend([("run", *run) for run in state.opened])
-    rows.append(("asking", state.asking))
-    rows.extend([("event", *event) for event in state.events])
-    return rows
+from rankloop.scripttexts import show_event
+from rankloop.works import Work
 
 
-def head_of(state):
-    """The row of the single numbers of a loop."""
-    counts = (state.clock, state.numbers, state.done, truth(state.flooded))
-    return ("loop", state.patience, state.flood, state.deep, *counts)
+def text_of(state):
+    """The text of a loop; the defs are left aside."""
+    return standing_text(state) + event_rows(state)
+
+
+def event_rows(state):
+    """The rows of the journal, a line end ahead of each."""
+    many, text = state.shown
+    if many < len(state.events):
+        text += "".join([f"\nevent {show_event(event)}" for event in state.events[many:]])
+        state.shown = (len(state.events), text)
+    return text
+
+
+def standing_text(state):
+    """The rows of all that stands in a loop but its journal."""
+    # Most texts were asked before, and no def is called for these.
+    rows = [f"{state.setup.text or setup_text(state.setup)} {state.clock} {state.numbers}"]
+    picks = state.picks
+    for line, since in zip(state.queues, state.since):
+        if not line:
+            rows.append("line")
+        elif len(line) == 1:
+            rows.append(f"line {picks - since} {line[0].text or work_text(line[0])}")
+        else:
+            works = " ".join([work.text or work_text(work) for work in line])
+            rows.append(f"line {picks - since} {works}")
+    if state.micros:
+        rows.extend([f"micro {show_mixed(micro)}" for micro in state.micros])
+    for due, number, plan in state.timers:
+        rows.append(f"timer {due} {plan.text or plan_text(plan)}")
+    if state.idles:
+        rows.extend([f"idle {due} {plan_text(plan)}" for due, number, plan in state.idles])
+    if state.book.fates:
+        rows.append(state.book.text or book_text(state.book))
+    if state.opened:
+        rows.extend([f"run {show_mixed(run)}" for run in state.opened])
+    if state.asking is not None:
+        rows.append(f"asking {work_text(state.asking)} {state.done} {truth(state.flooded)}")
+    return "\n".join(rows)
+
+
+def setup_text(setup):
+    """The text of what a loop was made with, but for its defs."""
+    setup.text = f"loop {setup.patience} {setup.flood} {setup.deep}"
+    return setup.text
 
 
 def are_alike(state, other):
-    """Whether two states have the same rows, found without making these."""
-    if head_of(state) != head_of(other) or list(state.untold) != list(other.untold):
+    """Whether two states have the same rows."""
+    if state.clock != other.clock or state.numbers != other.numbers or state.events != other.events:
         return False
-    return parts_of(state) == parts_of(other)
-
-
-def parts_of(state):
-    """All that stands in a loop but what its first row has, and those that are untold."""
-    works = [state.passed, state.queues, state.micros, state.timers, state.idles, state.opened, state.asking]
-    promises = [state.fates, state.named, state.takers, state.taken, state.gathers, state.stories]
-    return [works, promises, state.events]
+    return standing_text(state) == standing_text(other)
 
 
 def truth(told):
@@ -46,8 +70,44 @@ def truth(told):
     return 1 if told else 0
 
 
-def promise_row(state, number):
+def work_text(work):
+    """The text of a work."""
+    if work.text is None:
+        parts = (work.number, work.name, work.script, work.told, work.pledge)
+        if work.around is not None:
+            parts = (*parts, *work.around)
+        work.text = f"{parts}"
+    return work.text
+
+
+def plan_text(plan):
+    """The text of what a timer or an idle work puts into a line."""
+    if plan.text is None:
+        work = plan.work
+        plan.text = f"{work.number} {plan.gap} {plan.rank} {work.name} {work.script}"
+    return plan.text
+
+
+def show_mixed(parts):
+    """The text of a tuple that may have a work in it."""
+    return " ".join([work_text(part) if isinstance(part, Work) else f"{part}" for part in parts])
+
+
+def book_text(book):
+    """The rows of promises, their names, and those that are to be told as unhandled."""
+    rows = [promise_row(book, number) for number in range(len(book.fates))]
+    # Sorted: in which order the names came makes no loop unlike another one.
+    rows.extend([f"name {name} {book.named[name]}" for name in sorted(book.named)])
+    if book.untold:
+        rows.append(f"untold {show_mixed(tuple(book.untold))}")
+    book.text = "\n".join(rows)
+    return book.text
+
+
+def promise_row(book, number):
     """The row of a promise."""
-    taken = truth(number in state.taken)
-    takers = state.takers.get(number, ())
-    return ("promise", state.fates[number], taken, state.gathers.get(number), state.stories.get(number), *takers)
+    taken = truth(number in book.taken)
+    row = f"promise {book.fates[number]} {taken} {book.gathers.get(number)} {book.stories.get(number)}"
+    if number not in book.takers:
+        return row
+    return " ".join([row, *[f"({show_mixed(taker)})" for taker in book.takers[number]]])

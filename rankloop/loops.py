@@ -1,13 +1,12 @@
 """Loops: works by ranks, on a clock of their own."""
 
 from rankloop.errors import Busy, NoPromise, NoRank, NoScript
-from rankloop.looprows import are_alike, rows_of
+from rankloop.looprows import are_alike, text_of
 from rankloop.queues import put_work
 from rankloop.scripts import is_between, is_script
-from rankloop.scripttexts import show_parts
-from rankloop.states import State, copied, new_number
+from rankloop.states import Setup, State, copied, first_state, forget_events, passes_of
 from rankloop.turns import take_turn
-from rankloop.works import fresh
+from rankloop.works import Work
 
 RANKS = 3
 FLOOD = 100
@@ -19,30 +18,39 @@ class Loop:
     """A loop; all that stands in it is in its state."""
 
     def __init__(self, *, ranks=RANKS, patience=None, flood=FLOOD, deep=DEEP, calls=None):
-        bears = (None,) * ranks if patience is None else tuple(patience)
-        self.state = State(bears, flood, deep, {} if calls is None else dict(calls))
+        if isinstance(calls, State):
+            # So copies are made: nothing is built only to be put aside.
+            self.state = calls
+        else:
+            bears = (None,) * ranks if patience is None else tuple(patience)
+            self.state = first_state(Setup(bears, flood, deep, {} if calls is None else dict(calls)))
 
     def post(self, script, *, rank=0, name="work"):
         """Put a work at the end of a rank's line; its number."""
         state = self.state
-        refuse_busy(state)
+        if state.busy:
+            raise Busy()
         if not is_script(script):
             raise NoScript(script)
         if not is_between(rank, 0, len(state.queues) - 1):
             raise NoRank(rank)
-        number = new_number(state)
-        put_work(state, rank, fresh(number, name, script, None, None))
+        number = state.numbers
+        state.numbers = number + 1
+        put_work(state, rank, Work(number, name, script, None, None, None))
         return number
 
     def turn(self):
         """Do a turn; whether one, or something ahead of one, was done."""
-        refuse_busy(self.state)
-        return take_turn(self.state)
+        state = self.state
+        if state.busy:
+            raise Busy()
+        return take_turn(state)
 
     def turns(self, most=MOST):
         """Do turns until there is none, but no more than most; how many were done."""
         state = self.state
-        refuse_busy(state)
+        if state.busy:
+            raise Busy()
         many = 0
         while many < most and take_turn(state):
             many += 1
@@ -63,17 +71,18 @@ class Loop:
     def promise(self, name):
         """The fate of the promise that was made last by this name."""
         # Asked first, as a list or a dict can't be looked up.
-        if not isinstance(name, str) or name not in self.state.named:
+        book = self.state.book
+        if not isinstance(name, str) or name not in book.named:
             raise NoPromise(name)
-        return self.state.fates[self.state.named[name]]
+        return book.fates[book.named[name]]
 
     def lines(self):
         """For each rank the names of the works in its line."""
-        return [[work[1] for work in line] for line in self.state.queues]
+        return [[work.name for work in line] for line in self.state.queues]
 
     def passes(self):
         """For each rank how often its first work was passed over; None where there is no work."""
-        return list(self.state.passed)
+        return passes_of(self.state)
 
     def is_busy(self):
         """Whether a def is being asked."""
@@ -81,16 +90,17 @@ class Loop:
 
     def copy(self):
         """Another loop that goes on alike, for itself."""
-        refuse_busy(self.state)
-        twin = Loop(ranks=len(self.state.queues))
-        twin.state = copied(self.state)
-        return twin
+        state = self.state
+        if state.busy:
+            raise Busy()
+        return Loop(calls=copied(state))
 
     def forget(self):
         """Empty the journal."""
         state = self.state
-        refuse_busy(state)
-        state.events = []
+        if state.busy:
+            raise Busy()
+        forget_events(state)
 
     def __eq__(self, other):
         return isinstance(other, Loop) and are_alike(self.state, other.state)
@@ -99,11 +109,6 @@ class Loop:
         return len([work for line in self.state.queues for work in line])
 
     def __str__(self):
-        refuse_busy(self.state)
-        return "\n".join([show_parts(row) for row in rows_of(self.state)])
-
-
-def refuse_busy(state):
-    """Refuse what can't be done while a def is asked."""
-    if state.busy:
-        raise Busy()
+        if self.state.busy:
+            raise Busy()
+        return str(text_of(self.state))

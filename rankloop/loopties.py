@@ -33,20 +33,23 @@ def asks_or_rests(state):
 
 def tells_untold(state):
     """Whether those that are to be told as unhandled are broken, and nobody takes them."""
-    return all([state.fates[number][0] == "broken" and number not in state.taken for number in state.untold])
+    book = state.book
+    return all([book.fates[number][0] == "broken" and number not in book.taken for number in book.untold])
 
 
 def takes_runs(state):
     """Whether the promises of open runs are taken, and there are no more runs than may be."""
+    book = state.book
     numbers = [number for work, number in state.opened]
-    if len(numbers) > state.deep:
+    if len(numbers) > state.setup.deep:
         return False
-    return all([number in state.taken or state.fates[number][0] == "kept" for number in numbers])
+    return all([number in book.taken or book.fates[number][0] == "kept" for number in numbers])
 
 
 def takers_of(state, kind):
     """All takers of this kind."""
-    return [taker for number in state.takers for taker in state.takers[number] if taker[1] == kind]
+    takers = state.book.takers
+    return [taker for number in takers for taker in takers[number] if taker[1] == kind]
 
 
 def micros_of(state, kind):
@@ -62,27 +65,29 @@ def is_each_once(things):
 def follows_well(state):
     """Whether each promise that follows another one is a taker of that, just once, and no row of them is a ring."""
     followers = {}
-    for number in state.takers:
-        followers[number] = [taker[2] for taker in state.takers[number] if taker[1] == "follow"]
-        if not all([state.fates[other] == ("follows", number) for other in followers[number]]):
+    takers = state.book.takers
+    fates = state.book.fates
+    for number in takers:
+        followers[number] = [taker[2] for taker in takers[number] if taker[1] == "follow"]
+        if not all([fates[other] == ("follows", number) for other in followers[number]]):
             return False
     if not is_each_once([taker[2] for taker in takers_of(state, "follow")]):
         return False
     # From the ends of all rows on, where each promise is come to once; a ring has no end.
-    found = [number for number, fate in enumerate(state.fates) if fate[0] != "follows"]
+    found = [number for number, fate in enumerate(fates) if fate[0] != "follows"]
     many = 0
     while found:
         found.extend(followers.get(found.pop(), []))
         many += 1
-    return many == len(state.fates)
+    return many == len(fates)
 
 
 def gathers_well(state):
     """Whether each place of all, any, first and each of which nothing has come is yet to come, just once."""
     coming = [(row[2], row[3]) for row in takers_of(state, "gather") + micros_of(state, "gather")]
-    gathers = state.gathers
+    gathers = state.book.gathers
     awaited = [(number, place) for number in gathers for place, fate in enumerate(gathers[number][1]) if fate is None]
-    needed = [(number, place) for number, place in coming if state.fates[number] == OPEN]
+    needed = [(number, place) for number, place in coming if state.book.fates[number] == OPEN]
     return sorted(needed) == sorted(awaited) and is_each_once(coming)
 
 
@@ -96,9 +101,9 @@ def works_of(state):
 
 def pledges_once(state):
     """Whether no promise is for the outcome of two works, and each story that hasn't ended is there."""
-    pledges = [work[5] for work in works_of(state) if work[5] is not None]
+    pledges = [work.pledge for work in works_of(state) if work.pledge is not None]
     going = {number: True for number in pledges}
-    if not all([story == "spent" or number in going for number, story in state.stories.items()]):
+    if not all([story == "spent" or number in going for number, story in state.book.stories.items()]):
         return False
     pledges.extend([row[2] for row in takers_of(state, "then") + micros_of(state, "settle")])
-    return is_each_once(pledges) and not any([number in state.gathers for number in pledges])
+    return is_each_once(pledges) and not any([number in state.book.gathers for number in pledges])

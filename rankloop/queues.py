@@ -1,29 +1,33 @@
 """The lines of works, and the timers and idle works that go there when they are due."""
 
-from rankloop.works import fresh
+from rankloop.works import Work
+
+
+class Plan:
+    """What a timer or an idle work puts into a line when it is due; it is never changed.
+
+    Gap is None where it is due just once; else the work is the one that is put
+    where it has been due once. Text is None until it is asked, see looprows.py.
+    """
+
+    def __init__(self, gap, rank, work):
+        self.gap = gap
+        self.rank = rank
+        self.work = work
+        self.text = None
 
 
 def put_work(state, rank, work):
     """Put a work at the end of a rank's line."""
     line = state.queues[rank]
     if not line:
-        state.passed[rank] = 0
+        state.since[rank] = state.picks
     line.append(work)
-
-
-def take_first(state, rank):
-    """Take the first work of the chosen rank; those of all others are passed over."""
-    line = state.queues[rank]
-    work = line.pop(0)
-    passed = [None if many is None else many + 1 for many in state.passed]
-    passed[rank] = 0 if line else None
-    state.passed = passed
-    return work
 
 
 def is_meant(work, name):
     """Whether a work in a line is one by this name that hasn't begun."""
-    return work[1] == name and not work[-1]
+    return work.name == name and work.around is None
 
 
 def take_named(state, name):
@@ -33,19 +37,17 @@ def take_named(state, name):
         line = state.queues[rank]
         if line and is_meant(line[0], name):
             # Whoever stands first then has just become that.
-            state.passed[rank] = 0
+            state.since[rank] = state.picks
         taken.extend([work for work in line if is_meant(work, name)])
         state.queues[rank] = [work for work in line if not is_meant(work, name)]
-        if not state.queues[rank]:
-            state.passed[rank] = None
     return taken
 
 
 def stop(state, name):
     """Take away all timers, idle works and works in lines by this name; how many they were."""
     many = len(state.timers) + len(state.idles)
-    state.timers = [timer for timer in state.timers if timer[4] != name]
-    state.idles = [idle for idle in state.idles if idle[2] != name]
+    state.timers = [timer for timer in state.timers if timer[2].work.name != name]
+    state.idles = [idle for idle in state.idles if idle[2].work.name != name]
     note_soonest(state)
     return many - len(state.timers) - len(state.idles) + len(take_named(state, name))
 
@@ -58,9 +60,9 @@ def rerank(state, name, rank):
     return len(works)
 
 
-def put_timer(state, timer):
+def put_timer(timers, timer):
     """Put a timer in its place among the others: by due, of alike ones by number."""
-    timers = state.timers
+    # No two have one number, so plans are never compared.
     low = 0
     high = len(timers)
     while low < high:
@@ -95,23 +97,39 @@ def note_soonest(state):
 
 def put_due(state):
     """Put the works of all timers and idle works that are due into their lines."""
-    if state.soonest is not None and state.soonest <= state.clock:
+    clock = state.clock
+    if state.soonest is not None and state.soonest <= clock:
         make_timers(state)
     timers = state.timers
-    while timers and timers[0][0] <= state.clock:
-        due, number, gap, rank, name, script = timers.pop(0)
-        told = None
-        if gap is not None:
-            told = (state.clock - due) // gap + 1
-            put_timer(state, (due + told * gap, number, gap, rank, name, script))
-        put_work(state, rank, fresh(number, name, script, told, None))
+    while timers and timers[0][0] <= clock:
+        due, number, plan = timers[0]
+        work = plan.work
+        gap = plan.gap
+        if gap is None:
+            timers.pop(0)
+        else:
+            times = (clock - due) // gap + 1
+            if times > 1:
+                work = told_work(work, times)
+            again = (due + times * gap, number, plan)
+            if len(timers) == 1 or again < timers[1]:
+                timers[0] = again
+            else:
+                timers.pop(0)
+                put_timer(timers, again)
+        put_work(state, plan.rank, work)
+
+
+def told_work(work, told):
+    """A work that hasn't begun, told something else."""
+    return Work(work.number, work.name, work.script, told, None, None)
 
 
 def make_timers(state):
     """Make timers of the idle works that are due, so that they go to their line in order with the others."""
     idles = state.idles
     state.idles = [idle for idle in idles if idle[0] is None or idle[0] > state.clock]
-    for due, number, name, script in idles:
-        if due is not None and due <= state.clock:
-            put_timer(state, (due, number, None, len(state.queues) - 1, name, script))
+    for idle in idles:
+        if idle[0] is not None and idle[0] <= state.clock:
+            put_timer(state.timers, idle)
     note_soonest(state)

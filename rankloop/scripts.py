@@ -138,7 +138,7 @@ def room_behind(thing, levels, room):
     # Taken off ahead of looking inside, so that a vast thing is refused soon.
     room -= len(thing)
     for deed in thing:
-        if not has_form(deed):
+        if not isinstance(deed, tuple) or not deed or not isinstance(deed[0], str) or deed[0] not in DEEDS:
             return None
         room = room_behind_parts(deed, levels - 1, room)
         if room is None:
@@ -147,28 +147,24 @@ def room_behind(thing, levels, room):
 
 
 def room_behind_parts(deed, levels, room):
-    """The room behind the scripts in a deed; None where one of its parts is of another kind."""
+    """The room behind the scripts in a deed; None where it has more or fewer parts, or one of another kind."""
+    kinds = DEEDS[deed[0]]
+    if len(deed) != 1 + len(kinds):
+        return None
     at = 0
-    for kind in DEEDS[deed[0]]:
+    for kind in kinds:
         at += 1
+        part = deed[at]
         if kind == "word":
-            if not is_word(deed[at]):
+            if not is_word(part):
                 return None
-        elif kind not in SCRIPT_KINDS:
-            if not fits(kind, deed[at]):
-                return None
-        elif kind == "script" or deed[at] is not None:
-            room = room_behind(deed[at], levels, room)
+        elif kind == "script" or kind == "perhaps" and part is not None:
+            room = room_behind(part, levels, room)
             if room is None:
                 return None
+        elif kind != "perhaps" and not fits(kind, part):
+            return None
     return room
-
-
-def has_form(deed):
-    """Whether it is a tuple of a deed's word and as many parts as this deed has."""
-    if not isinstance(deed, tuple) or not deed or not isinstance(deed[0], str):
-        return False
-    return deed[0] in DEEDS and len(deed) == 1 + len(DEEDS[deed[0]])
 
 
 def fits(kind, part):

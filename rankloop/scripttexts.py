@@ -34,27 +34,29 @@ def show_part(kind, part):
 
 def show_worth(worth):
     """The text of a worth, or of a tuple of names."""
-    return show_parts((worth,))
+    if worth is None:
+        return "-"
+    return bracketed("<", [show_worth(part) for part in worth], ">") if isinstance(worth, tuple) else f"{worth}"
 
 
 def show_parts(parts):
     """The text of worths, parted by single blanks."""
-    signs = []
-    add_signs(signs, parts)
-    return " ".join(signs)
+    return " ".join([show_worth(part) if part is None or isinstance(part, tuple) else f"{part}" for part in parts])
 
 
-def add_signs(signs, parts):
-    """Add the signs of worths to a list."""
-    for part in parts:
-        if part is None:
-            signs.append("-")
-        elif isinstance(part, tuple):
-            signs.append("<")
-            add_signs(signs, part)
-            signs.append(">")
-        else:
-            signs.append(f"{part}")
+def show_event(event):
+    """The text of a journal's event."""
+    last = event[-1]
+    if last is None or isinstance(last, tuple):
+        return show_parts(event)
+    # All parts are words or numbers then, and most events are of these lengths.
+    if len(event) == 3:
+        now, word, part = event
+        return f"{now} {word} {part}"
+    if len(event) == 5:
+        now, word, number, rank, why = event
+        return f"{now} {word} {number} {rank} {why}"
+    return show_parts(event)
 
 
 def bracketed(opening, texts, closing):

@@ -4,25 +4,24 @@ OPEN = ("open",)
 SETTLED = ("kept", "broken")
 
 
-class State:
-    """What stands in a loop; promises and works go by their numbers."""
+class Setup:
+    """What a loop was made with, which never changes: its copies share it."""
 
     def __init__(self, patience, flood, deep, calls):
         self.patience = patience
         self.flood = flood
         self.deep = deep
         self.calls = calls
-        self.clock = 0
-        self.events = []
-        self.numbers = 0
-        self.queues = [[] for rank in patience]
-        self.passed = [None for rank in patience]
-        self.micros = []
-        # Tuples (due, number, gap, rank, name, script), sorted; gap is None where it is due just once.
-        self.timers = []
-        # Tuples (due, number, name, script), by number; soonest is the least of their dues, or None.
-        self.idles = []
-        self.soonest = None
+        # Tuples of a rank and its patience, for the ranks that have one.
+        self.patient = [(rank, bears) for rank, bears in enumerate(patience) if bears is not None]
+        # None until it is asked, see looprows.py.
+        self.text = None
+
+
+class Book:
+    """The promises of a loop, which go by their numbers."""
+
+    def __init__(self):
         # Of each promise what a loop tells: OPEN, ("follows", number), ("kept", worth) or ("broken", reason).
         self.fates = []
         self.named = {}
@@ -39,6 +38,33 @@ class State:
         # Of a story's the open promise that it waits for; of a following one a promise farther on in the row.
         self.waits = {}
         self.ahead = {}
+        # Whether several loops have it: then none of them changes it, see own_book.
+        self.shared = False
+        # Its rows in the text of a loop, None where they weren't asked since it was changed.
+        self.text = None
+
+
+class State:
+    """What stands in a loop; works go by their numbers."""
+
+    def __init__(self, setup, book, queues, since, clock, numbers, picks):
+        self.setup = setup
+        self.book = book
+        # How many works were begun from lines, and for each rank how many when its first work became that.
+        self.picks = picks
+        self.since = since
+        self.queues = queues
+        self.clock = clock
+        self.numbers = numbers
+        self.events = []
+        # How many of these are in a text that was asked, and their rows in it.
+        self.shown = (0, "")
+        self.micros = []
+        # Tuples (due, number, plan), sorted, see queues.py.
+        self.timers = []
+        # Such tuples too, by number; soonest is the least of their dues, or None.
+        self.idles = []
+        self.soonest = None
         # Tuples of a work and the number of the promise that it runs for.
         self.opened = []
         # The micros done, and whether a flood was told, in the turn that is under way.
@@ -49,9 +75,21 @@ class State:
         self.busy = False
 
 
-def write(state, *parts):
-    """Write an event into the journal."""
-    state.events.append((state.clock, *parts))
+def first_state(setup):
+    """The state of a loop in which nothing stands."""
+    ranks = len(setup.patience)
+    return State(setup, Book(), [[] for rank in range(ranks)], [0] * ranks, 0, 0, 0)
+
+
+def forget_events(state):
+    """Empty the journal."""
+    state.events = []
+    state.shown = (0, "")
+
+
+def passes_of(state):
+    """For each rank how often its first work was passed over; None where there is no work."""
+    return [state.picks - since if line else None for line, since in zip(state.queues, state.since)]
 
 
 def new_number(state):
@@ -63,32 +101,53 @@ def new_number(state):
 
 def is_settled(state, number):
     """Whether a promise is kept or broken."""
-    return state.fates[number][0] in SETTLED
+    return state.book.fates[number][0] in SETTLED
 
 
 def copied(state):
-    """A state that goes on for itself; works and other tuples, which are never changed, are shared."""
-    twin = State(state.patience, state.flood, state.deep, state.calls)
-    twin.clock = state.clock
-    twin.events = list(state.events)
-    twin.numbers = state.numbers
-    twin.queues = [list(line) for line in state.queues]
-    twin.passed = list(state.passed)
-    twin.micros = list(state.micros)
+    """A state that goes on for itself; works and other things that are never changed are shared."""
+    book = state.book
+    # Most copies never touch it.
+    book.shared = True
+    queues = [list(line) for line in state.queues]
+    twin = State(state.setup, book, queues, list(state.since), state.clock, state.numbers, state.picks)
+    if state.events:
+        twin.events = list(state.events)
+        twin.shown = state.shown
     twin.timers = list(state.timers)
-    twin.idles = list(state.idles)
-    twin.soonest = state.soonest
-    twin.fates = list(state.fates)
-    twin.named = dict(state.named)
-    twin.takers = {number: list(state.takers[number]) for number in state.takers}
-    twin.taken = dict(state.taken)
-    twin.untold = dict(state.untold)
-    twin.gathers = dict(state.gathers)
-    twin.stories = dict(state.stories)
-    twin.waits = dict(state.waits)
-    twin.ahead = dict(state.ahead)
-    twin.opened = list(state.opened)
-    twin.done = state.done
-    twin.flooded = state.flooded
-    twin.asking = state.asking
+    if state.idles:
+        twin.idles = list(state.idles)
+        twin.soonest = state.soonest
+    if state.micros:
+        twin.micros = list(state.micros)
+    if state.opened:
+        twin.opened = list(state.opened)
+    if state.asking is not None:
+        twin.asking = state.asking
+        twin.done = state.done
+        twin.flooded = state.flooded
+    return twin
+
+
+def own_book(state):
+    """The promises of a loop, to be changed: a copy of its own, where other loops have them too."""
+    if state.book.shared:
+        state.book = copied_book(state.book)
+    book = state.book
+    book.text = None
+    return book
+
+
+def copied_book(book):
+    """Promises that one loop has for itself."""
+    twin = Book()
+    twin.fates = list(book.fates)
+    twin.named = dict(book.named)
+    twin.takers = {number: list(book.takers[number]) for number in book.takers}
+    twin.taken = dict(book.taken)
+    twin.untold = dict(book.untold)
+    twin.gathers = dict(book.gathers)
+    twin.stories = dict(book.stories)
+    twin.waits = dict(book.waits)
+    twin.ahead = dict(book.ahead)
     return twin

@@ -1,11 +1,10 @@
 """Turns: what is begun, and what comes behind it until nothing more can be done for now."""
 
-from rankloop.deeds import STAYS, do_deeds
-from rankloop.lines import chosen
-from rankloop.promises import gather_fate, settle, take_cancel, tell_unhandled
-from rankloop.queues import put_due, take_first, take_idle
-from rankloop.states import is_settled, write
-from rankloop.works import Doing, brought_to_guard, fresh, leave_frame
+from rankloop.deeds import ACTIONS, MOVES, STAYS
+from rankloop.promises import gather_fate, settle, spend_story, take_cancel, tell_unhandled
+from rankloop.queues import put_due, take_idle, told_work
+from rankloop.states import is_settled
+from rankloop.works import Doing, brought_to_guard, leave_frame
 
 
 def take_turn(state):
@@ -13,70 +12,96 @@ def take_turn(state):
     finished = state.asking is not None
     if finished:
         finish_broken_off(state)
-    begun = begin_turn(state)
+    timers = state.timers
+    if timers and timers[0][0] <= state.clock or state.soonest is not None:
+        put_due(state)
+    if any(state.queues):
+        begin_task(state)
+    elif state.idles:
+        begin_idle(state)
+    elif state.timers:
+        leap(state)
+        begin_task(state)
+    elif not begin_without_works(state):
+        return finished
     # Most turns leave nothing behind the work, and are to be quick.
-    if begun and (state.micros or state.untold or state.opened):
+    if state.micros or state.opened or state.book.untold:
         settle_down(state)
-    return finished or begun
+    return True
 
 
 def finish_broken_off(state):
     """Do the rest of a turn that an error broke off."""
-    work = Doing(state.asking)
+    work = state.asking
     state.asking = None
-    go_on(state, work, "out")
+    go_on(state, Doing(work), "out")
     settle_down(state)
 
 
-def begin_turn(state):
-    """Begin what is next, or tell a run as stuck; whether there was something."""
-    if state.timers or state.idles:
-        put_due(state)
-    rank = chosen(state.passed, state.patience)
-    if rank is None and state.timers and not state.idles:
-        leap(state)
-        rank = chosen(state.passed, state.patience)
-    if rank is not None:
-        begin_task(state, rank)
-    elif state.idles:
-        begin_idle(state)
-    elif state.opened and not state.micros:
+def begin_without_works(state):
+    """Tell a run as stuck, where nothing is left to be begun; whether there was one, or micros that a flood left."""
+    if state.opened and not state.micros:
         tell_stuck(state)
-    else:
-        # Micros that a flood left are done as if a work had been begun.
-        return len(state.micros) > 0
-    return True
+        return True
+    # Such micros are done as if a work had been begun.
+    return len(state.micros) > 0
 
 
 def leap(state):
     """Go on to the next timer's due."""
-    ahead = state.clock
-    state.clock = state.timers[0][0]
-    write(state, "leap", ahead)
+    due = state.timers[0][0]
+    state.events.append((due, "leap", state.clock))
+    state.clock = due
     put_due(state)
 
 
-def begin_task(state, rank):
+def begin_task(state):
     """Begin the first work of the chosen rank."""
-    bears = state.patience[rank]
-    why = "least" if bears is None or state.passed[rank] < bears else "overdue"
-    work = take_first(state, rank)
-    state.events.append((state.clock, "task", work[0], rank, why))
-    begin(state, work, None)
+    rank = overdue_rank(state) if state.setup.patient else None
+    why = "overdue"
+    if rank is None:
+        rank = 0
+        why = "least"
+        while not state.queues[rank]:
+            rank += 1
+    work = state.queues[rank].pop(0)
+    # Those of all other ranks are passed over by that, see passes_of.
+    picks = state.picks + 1
+    state.picks = picks
+    state.since[rank] = picks
+    state.events.append((state.clock, "task", work.number, rank, why))
+    if work.pledge is None and work.around is None:
+        # Most are such, and of those without deeds there may be many.
+        if work.script:
+            go_on(state, Doing(work), None)
+    else:
+        begin(state, work, None)
+
+
+def overdue_rank(state):
+    """The rank that is chosen of the overdue ones; None where none is."""
+    best = None
+    most = -1
+    for rank, bears in state.setup.patient:
+        # From 0 on, so overdue, and more than that of the ranks ahead.
+        if state.queues[rank] and state.picks - state.since[rank] - bears > most:
+            best = rank
+            most = state.picks - state.since[rank] - bears
+    return best
 
 
 def begin_idle(state):
     """Begin the first idle work, told how long until the next timer's due."""
-    due, number, name, script = take_idle(state)
+    due, number, plan = take_idle(state)
     left = state.timers[0][0] - state.clock if state.timers else None
-    write(state, "idle", number, left)
-    begin(state, fresh(number, name, script, left, None), None)
+    state.events.append((state.clock, "idle", number, left))
+    begin(state, told_work(plan.work, left), None)
 
 
 def tell_stuck(state):
     """Tell that the innermost run has nothing to come, which its work fails with."""
     work, number = state.opened.pop()
-    write(state, "stuck", number)
+    state.events.append((state.clock, "stuck", number))
     go_on(state, Doing(work), "stuck")
 
 
@@ -86,7 +111,7 @@ def settle_down(state):
     while ending:
         if state.micros:
             do_micros(state)
-        if state.untold and not state.micros:
+        if state.book.untold and not state.micros:
             tell_unhandled(state)
         ending = len(state.opened) > 0 and end_run(state)
     state.done = 0
@@ -96,7 +121,8 @@ def settle_down(state):
 def do_micros(state):
     """Do micros until none is left, or as many as the flood are done."""
     micros = state.micros
-    while micros and state.done < state.flood:
+    flood = state.setup.flood
+    while micros and state.done < flood:
         micro = micros.pop(0)
         state.done += 1
         state.events.append((state.clock, "micro", micro[0]))
@@ -108,7 +134,7 @@ def do_micros(state):
         else:
             gather_fate(state, micro[2], micro[3], micro[4])
     if micros and not state.flooded:
-        write(state, "flood", len(micros))
+        state.events.append((state.clock, "flood", len(micros)))
         state.flooded = True
 
 
@@ -118,56 +144,72 @@ def end_run(state):
     if not is_settled(state, number):
         return False
     state.opened.pop()
-    write(state, "ran", number)
-    go_on_by(state, Doing(work), state.fates[number])
+    state.events.append((state.clock, "ran", number))
+    go_on_by(state, Doing(work), state.book.fates[number])
     return True
 
 
 def begin(state, work, fate):
     """Begin a work or its rest, which may be due to fail with cancel there."""
-    pledge = work[5]
-    if pledge in state.stories and take_cancel(state, pledge):
+    pledge = work.pledge
+    if pledge is not None and state.book.stories and take_cancel(state, pledge):
         doing = Doing(work)
         if fate is not None and fate[0] == "kept":
             doing.told = fate[1]
         go_on(state, doing, "cancel")
-    elif fate is None and not work[2]:
-        # Works of which nothing is to be done may be many, and end at once.
-        end(state, work[0], pledge, work[4], None)
-    else:
+    elif fate is not None:
         go_on_by(state, Doing(work), fate)
+    elif work.script or work.around is not None:
+        go_on(state, Doing(work), None)
+    elif pledge is not None:
+        # Works of which nothing is to be done may be many, and end at once.
+        end(state, work, None, None)
 
 
 def go_on_by(state, doing, fate):
-    """Go on with a work as the promise that it waited or ran for was settled; None of no such promise."""
-    if fate is None:
-        go_on(state, doing, None)
-    elif fate[0] == "kept":
-        doing.told = fate[1]
+    """Go on with a work as the promise that it waited or ran for was settled."""
+    word, worth = fate
+    if word == "kept":
+        doing.told = worth
         go_on(state, doing, None)
     else:
-        go_on(state, doing, fate[1])
+        go_on(state, doing, worth)
 
 
 def go_on(state, doing, reason):
     """Do a work until it stays or ends; first of all it fails, where there is a reason."""
     while reason is None or brought_to_guard(doing, reason):
-        reason = do_deeds(state, doing)
-        if reason == STAYS:
-            return
-        if reason is None:
+        script = doing.script
+        at = doing.at
+        while at < len(script):
+            deed = script[at]
+            at += 1
+            doing.at = at
+            action = ACTIONS[deed[0]]
+            reason = action(state, doing, deed)
+            if reason is not None:
+                if reason == STAYS:
+                    return
+                if reason != MOVES:
+                    break
+                reason = None
+                script = doing.script
+                at = doing.at
+        else:
             if not doing.frames:
                 break
             reason = leave_frame(doing)
-    end(state, doing.number, doing.pledge, doing.gave, reason)
+    if reason is not None or doing.work.pledge is not None:
+        end(state, doing.work, doing.gave, reason)
 
 
-def end(state, number, pledge, gave, reason):
+def end(state, work, gave, reason):
     """End a work, with a reason where it failed."""
+    pledge = work.pledge
     if pledge is None:
         if reason is not None:
-            write(state, "fault", number, reason)
+            state.events.append((state.clock, "fault", work.number, reason))
         return
-    if pledge in state.stories:
-        state.stories[pledge] = "spent"
+    if pledge in state.book.stories:
+        spend_story(state, pledge)
     settle(state, pledge, ("kept", gave) if reason is None else ("broken", reason))

@@ -1,6 +1,7 @@
 """Loops read from their texts, and loops cut anywhere [26]."""
 
 import random
+import re
 import unittest
 
 from loopcases import ECHO, MAKE, events, loop_of, say
@@ -12,9 +13,10 @@ from samples import anything
 from test_copies import ALIKE, UNLIKE, full_loop
 from test_plain_rule import CALLS, NAMES, WORKS, Maker, StoryMaker, turn_of
 
-SIGNS = "0123456789 -<>()[]abkpqrwz\n"
+SIGNS = "0123456789 -<>()[],'abkpqrwz\n"
 WORDS = ("0", "1", "2", "3", "-", "-1", "9", "p", "q", "kept", "broken", "open", "follows", "whole", "due", "spent", "do", "part", "last", "< >",
-         "work", "then", "gather", "follow", "settle", "9" * 5000, "1000000000", "01", "-0", "+1", "A", "abcdefghi", "event", "line")
+         "work", "then", "gather", "follow", "settle", "9" * 5000, "1000000000", "01", "-0", "+1", "A", "abcdefghi", "event", "line", "None", "()",
+         "'p'", "None,", "0,", "1,", "'kept',", "(1,", "2)", "('open',)", "True")
 
 
 def chance_loop(seed, kind=Maker):
@@ -65,7 +67,7 @@ class ReadLoop(unittest.TestCase):
     def look(self, loop, turns=6):
         """The text of a loop is read as an equal one, which goes on alike."""
         text = str(loop)
-        twin = read_loop(text, calls=loop.state.calls)
+        twin = read_loop(text, calls=loop.state.setup.calls)
         self.assertIs(twin.__class__, Loop)
         self.assertEqual(twin, loop)
         self.assertEqual(str(twin), text)
@@ -121,7 +123,7 @@ class ReadLoop(unittest.TestCase):
     def test_faults_untold(self):
         loop = loop_of((MAKE, ("make", "q"), ("break", "q", "a"), ("break", "p", "b"), ("micro", ()), ("micro", ECHO)), flood=1)
         loop.turn()
-        self.assertEqual(list(loop.state.untold), [1, 0])
+        self.assertEqual(list(loop.state.book.untold), [1, 0])
         self.look(loop)
         twin = read_loop(str(loop))
         twin.turn()
@@ -224,7 +226,7 @@ class ReadLoop(unittest.TestCase):
             self.judge("\n".join(rows[:at + 1] + rows[at:]), answers)
             self.judge("\n".join(rows[:at] + [""] + rows[at:]), answers)
         for at in range(len(text)):
-            for sign in ("", "0", " ", "-a<\n"[at % 4]):
+            for sign in ("", "0", " ", "-a(),<'\n"[at % 8]):
                 self.judge(text[:at] + sign + text[at + 1:], answers)
         self.assertGreater(min(answers.values()), 100, answers)
 
@@ -232,22 +234,25 @@ class ReadLoop(unittest.TestCase):
         good = str(Loop(ranks=1))
         self.assertEqual(read_loop(good), Loop(ranks=1))
         for text in ("", "\n", " ", good + "\n", "\n" + good, good + " ", " " + good, good.replace(" ", "  "), good.upper(), good + "\n" + good,
-                     good.replace("\n", "\r\n"), good.replace("\n", ";"), good[:-1], good.replace("<", "(").replace(">", ")"), good.replace("<", "["),
-                     "<" * 100000, ">" * 1000, "< " * 50000 + "> " * 50000, "loop", "loop < >", good.replace("100", "9" * 5000),
-                     good.replace("100", "-1"), good.replace("100", "True"), good.replace("100", "+100"), good.replace("100", "0100")):
+                     good.replace("\n", "\r\n"), good.replace("\n", ";"), good[:-1], good.replace("(", "<").replace(")", ">"), good.replace("(", "["),
+                     "<" * 100000, ">" * 1000, "< " * 50000 + "> " * 50000, "(" * 100000, ")" * 1000, "(" * 50000 + ")" * 50000, "loop", "loop ()",
+                     good.replace("100", "9" * 5000), good.replace("100", "-1"), good.replace("100", "True"), good.replace("100", "+100"),
+                     good.replace("100", "0100"), good.replace("None", "-"), good.replace(",)", ")"), good.replace(",)", ", )"), good.replace("None", "none"),
+                     good.replace("100", "'100'"), good.replace("\n", "\n\n"), good.replace("loop", "'loop'"), good.replace(" ", "\t")):
             self.refused(text)
 
     def test_many_brackets_within_one_another(self):
         # Deeper than any script or worth, in the place of each word of a text.
         loop = full_loop()
         loop.turns(5)
-        many = "< " * 5000 + "1 " + "> " * 4999 + ">"
+        many = "(" * 5000 + "1" + ",)" * 5000
         rows = str(loop).split("\n")
         for at, row in enumerate(rows):
-            words = row.split(" ")
+            words = list(re.finditer(r"[a-zN']+|-?[0-9]+", row))
             for place in (0, 1, 2, len(words) // 2, len(words) - 1):
-                if place < len(words) and words[place] not in ("<", ">"):
-                    self.refused("\n".join([*rows[:at], " ".join([*words[:place], many, *words[place + 1:]]), *rows[at + 1:]]))
+                if place < len(words):
+                    found = words[place]
+                    self.refused("\n".join([*rows[:at], row[:found.start()] + many + row[found.end():], *rows[at + 1:]]))
 
     def test_no_texts(self):
         for thing in [*anything(), Loop(), str(Loop()).encode(), [str(Loop())]]:
@@ -277,56 +282,88 @@ class Refused(unittest.TestCase):
         loop = loop_of((("yield", 0), ("echo",)))
         loop.turn()
         loop.forget()
-        self.refuse(loop, ("line 0", "line -"), ("line -", "line 0"), ("< 0 work", "< 1 work"), ("< 0 work", "< -1 work"), ("< 0 work", "< 0 Work"),
-                    ("do", "part"), ("< do < < echo > > >", "< do < > >"), ("echo", "ecko"), ("- - - 1 >", "- - - 2 >"), ("- - - 1 >", "- - 0 1 >"))
+        work = "(0, 'work', (('echo',),), None, None, (), None)"
+        self.assertIn(f"line 0 {work}\nline\nline", str(loop))
+        self.refuse(loop, ("line 0", "line None"), ("line 0", "line -1"), ("line 0 ", "line "), ("\nline\n", "\nline 0\n"), ("\nline\n", "\n"), (work, f"{work}{work}"),
+                    (work, ""), ("(0, 'work'", "(1, 'work'"), ("(0, 'work'", "(-1, 'work'"), ("(0, 'work'", "(0, 'Work'"), ("(0, 'work'", "(0, work"),
+                    ("echo", "ecko"), ("(('echo',),)", "(('echo'),)"), ("(('echo',),)", "None"), ("None, None, (), None)", "None, 0, (), None)"),
+                    ("None, None, (), None)", "None, None, (), -1000000001)"), ("(), None)", "None)"), ("(), None)", "(), None, 0)"), ("(), None)", "None, None)"),
+                    ("(), None)", "(('do', ()),), None)"), ("(), None)", "(('last', 1),), None)"), ("(), None)", "((),), None)"))
+        # What is left of a script with nothing in it is the one around it.
+        self.refuse(loop, (work, "(0, 'work', (), None, None, (('do', (('echo',),)),), None)"))
+        self.assertEqual(read_loop(str(loop).replace("(('echo',),), None", "(), None")).lines(), [["work"], [], []])
+
+    def test_works_that_have_not_begun(self):
+        loop = loop_of(ECHO, (("story", "q", ECHO), ("micro", ())), flood=1)
+        loop.turns(2)
+        loop.post(ECHO, name="a")
+        self.refuse(loop, ("(4, 'a'", "(4, None"), ("(('echo',),), None, None)", "(('echo',),), None, 0)"), ("(('echo',),), None, None)", "(('echo',),), None)"),
+                    ("(('echo',),), None, None)", "(('echo',),), None, None, ())"), ("(4, 'a'", "(5, 'a'"), ("(('echo',),), None, None)", "(('echo',),), 'A', None)"))
 
     def test_timers_and_idle_works(self):
         loop = loop_of((("after", 3, 0, "a", ()), ("every", 4, 0, "b", ()), ("idle", None, "c", ()), ("idle", 2, "d", ())))
         loop.turn()
-        self.refuse(loop, ("timer 3", "timer 9"), ("timer 4 2 4", "timer 4 1 4"), ("timer 4 2 4", "timer 4 2 0"), ("timer 3 1 - 0", "timer 3 1 - 3"),
-                    ("idle - 3", "idle - 4"), ("idle - 3", "idle - 2"), ("idle - 3 c", "idle - 9 c"), ("< >", "-"))
+        self.refuse(loop, ("timer 3", "timer 9"), ("timer 3", "timer None"), ("timer 4 2 4", "timer 4 1 4"), ("timer 4 2 4", "timer 4 2 0"),
+                    ("timer 3 1 None 0", "timer 3 1 None 3"), ("timer 3 1 None 0", "timer 3 1 - 0"), ("timer 3 1 None 0 a", "timer 3 1 None 0 A"),
+                    ("timer 3 1 None 0 a ()", "timer 3 1 None 0 a"), ("idle None 3", "idle None 4"), ("idle None 3", "idle None 2"),
+                    ("idle None 3", "idle None 9"), ("idle None 3", "idle -1 3"), ("idle None 3 None 2", "idle None 3 None 1"), ("idle None 3 None 2", "idle None 3 5 2"),
+                    ("idle None 3 None 2 c ()", "idle None 3 c ()"), ("idle None 3 None 2 c ()", "idle None 3 None 2 None ()"), ("()", "None"))
 
     def test_promises(self):
         loop = loop_of((MAKE, ("make", "q"), ("follow", "p", "q"), ("make", "r"), ("break", "r", "bad"), ("micro", ()), ("micro", ())), flood=1)
         loop.turn()
-        self.refuse(loop, ("< follows 1 >", "< follows 0 >"), ("< follows 1 >", "< follows 2 >"), ("< follows 1 >", "< follows 3 >"),
-                    ("< follows 1 >", "< open >"), ("< - follow 0 >", "< - follow 1 >"), (" < - follow 0 >", ""),
-                    (" < - follow 0 >", " < - follow 0 > < - follow 0 >"), ("untold 2", "untold 1"), ("untold 2", "untold 3"), ("untold 2", "untold 2 2"),
-                    ("name p 0", "name p 3"), ("name p 0", "name z 0"), ("< broken bad >", "< broken 1 >"), ("< broken bad >", "< broken - >"),
-                    ("< open > 1", "< open > 0"), ("< broken bad > 0", "< broken bad > 1"), ("< broken bad > 0 - -", "< broken bad > 0 - odd"))
+        follows, broken = "('follows', 1)", "('broken', 'bad')"
+        self.refuse(loop, (follows, "('follows', 0)"), (follows, "('follows', 2)"), (follows, "('follows', 3)"),
+                    (follows, "('open',)"), ("(None follow 0)", "(None follow 1)"), (" (None follow 0)", ""),
+                    (" (None follow 0)", " (None follow 0) (None follow 0)"), ("untold 2", "untold 1"), ("untold 2", "untold 3"), ("untold 2", "untold 2 2"),
+                    ("untold 2", "untold"), ("untold 2", "untold 2\nuntold 2"), ("name p 0", "name p 3"), ("name p 0", "name z 0"),
+                    (broken, "('broken', 1)"), (broken, "('broken', None)"), ("('open',) 1", "('open',) 0"), (f"{broken} 0", f"{broken} 1"),
+                    (f"{broken} 0 None None", f"{broken} 0 None odd"))
 
     def test_rings_of_followers(self):
         loop = loop_of((MAKE, ("make", "q"), ("follow", "p", "q")))
         loop.turn()
-        self.refuse(loop, ("promise < open > 1", "promise < follows 0 > 1"))
-        text = str(loop).replace("promise < follows 1 > 0 - -", "promise < follows 1 > 1 - - < - follow 1 >").replace("< open > 1", "< follows 0 > 1")
+        self.refuse(loop, ("promise ('open',) 1", "promise ('follows', 0) 1"))
+        text = str(loop)
+        for old, new in (("promise ('follows', 1) 0 None None", "promise ('follows', 1) 1 None None (None follow 1)"), ("('open',) 1", "('follows', 0) 1")):
+            self.assertIn(old, text)
+            text = text.replace(old, new)
         with self.assertRaises(NoText):
             read_loop(text)
 
     def test_several(self):
         loop = loop_of((MAKE, ("make", "q"), ("keep", "q", 5), ("all", "r", ("p", "q"))))
         loop.turn()
-        self.refuse(loop, ("< all < - < kept 5 > > >", "< all < < kept 5 > < kept 5 > > >"), ("< all < - < kept 5 > > >", "< all < - - > >"),
-                    ("< all < - < kept 5 > > >", "< any < - < kept 5 > > >"), ("< all < - < kept 5 > > >", "-"), ("gather 2 0", "gather 2 1"),
-                    ("gather 2 0", "gather 1 0"), ("gather 2 0", "gather 0 0"), (" < 1 gather 2 0 >", ""), ("gather 2 0", "gather 2 8"))
+        gather = "('all', (None, ('kept', 5)))"
+        self.refuse(loop, (gather, "('all', (('kept', 5), ('kept', 5)))"), (gather, "('all', (None, None))"), (gather, "('any', (None, ('kept', 5)))"),
+                    (gather, "None"), ("gather 2 0", "gather 2 1"), ("gather 2 0", "gather 1 0"), ("gather 2 0", "gather 0 0"), (" (1 gather 2 0)", ""),
+                    ("gather 2 0", "gather 2 8"))
 
     def test_stories(self):
         loop = loop_of((MAKE, ("story", "q", (("wait", "p"), ("echo",)))))
         loop.turn()
-        self.refuse(loop, ("1 1 >", "0 1 >"), ("whole", "hole"), ("- - 1 1 >", "- - - 1 >"), ("- - 1 1 >", "- - 1 0 >"), ("- - 1 1 >", "- - 2 1 >"),
-                    ("< 1 work < 1 -", "< 0 work < 1 -"), ("< 1 work < 1 -", "< 1 work < 1 z"))
-        text = str(loop)
-        row = [row for row in text.split("\n") if row.startswith("promise")][0]
-        with self.assertRaises(NoText):
-            read_loop(text.replace(row, row + row[row.index(" < 1 work"):]))
+        rest = "(1 work (1, None, (('echo',),), None, 1, (), None))"
+        self.refuse(loop, ("None, 1, (), None", "None, 0, (), None"), ("whole", "hole"), ("None, 1, (), None", "None, None, (), None"),
+                    ("None, 1, (), None", "None, 1"), ("None, 1, (), None", "None, 2, (), None"), (rest, rest.replace("(1 work", "(0 work")),
+                    (rest, rest.replace("(1, None", "(1, 'z'")), (rest, rest + " " + rest), (rest, "(1 work None)"))
 
     def test_runs_and_heads(self):
         loop = loop_of((MAKE, ("run", "p")), deep=1)
         loop.turn()
         run = [row for row in str(loop).split("\n") if row.startswith("run")][0]
-        self.refuse(loop, (run, run + "\n" + run), (run, run[:-1] + "1"), ("promise < open > 1", "promise < open > 0"), ("0 1 0 0", "0 1 1 0"),
-                    ("0 1 0 0", "0 1 0 1"), ("0 1 0 0", "0 0 0 0"), ("- - -", "- -"), ("- - -", "- - - -"), ("- - -", "-1 - -"), ("untold\n", ""),
-                    ("asking -", "asking"), ("asking -", "asking 1"))
+        ranks = "(None, None, None)"
+        self.refuse(loop, (run, run + "\n" + run), (run, run[:-1] + "1"), ("promise ('open',) 1", "promise ('open',) 0"), (run, "run None 0"), (run, run[:-2]),
+                    (run, "run (0, 'work', (), None, None) 0"), ("100 1 0 1", "100 1 0 1 0"), ("100 1 0 1", "100 1 0 1 0 0"), ("100 1 0 1", "100 1 0 0"),
+                    ("100 1 0 1", "100 1 0"), ("100 1 0 1", "100 0 0 1"), (ranks, "(None, None)"), (ranks, "(None, None, None, None)"),
+                    (ranks, "(-1, None, None)"), (ranks, "None"), (run, run + "\nuntold"), (run, run + "\nasking None 0 0"), (run, run + "\nasking"),
+                    (run, run + "\nasking 1"))
+
+    def test_works_that_were_broken_off(self):
+        loop = loop_of((("micro", (("call", "odd"),)), ("micro", ())), calls=CALLS)
+        self.assertEqual(turn_of(loop), "odd")
+        asking = "asking (1, None, (), None, None, (), None) 1 0"
+        self.refuse(loop, (asking, asking[:-1] + "2"), (asking, asking[:-3] + "-1 0"), (asking, asking[:-2]), (asking, asking[:-4]), (asking, asking + "\n" + asking),
+                    (asking, asking.replace("(), None)", ")")), (asking, asking.replace("(1,", "(9,")), (asking, asking + " 0"))
 
     def micro_loop(self):
         """A loop with micros of every kind that a flood left."""
@@ -339,36 +376,38 @@ class Refused(unittest.TestCase):
         return loop
 
     def test_micros(self):
-        kinds = ["micro 2 work < 2 - < < do < < echo > > > > - - - 0 > -", "micro 3 settle 1 < kept 1 >", "micro 4 work < 4 - < < do < < echo > > > > 1 - 2 0 > -",
-                 "micro 5 gather 3 0 < kept 1 >", "micro 5 gather 3 1 < kept 1 >", "micro 6 work < 6 - < < do < < wait p > < echo > > > > - - 4 0 > -",
-                 "micro 0 work < 0 work < < part - < > > < do < < echo > > > > - - - 1 > < kept 1 >"]
+        kinds = ["micro 2 work (2, None, (('echo',),), None, None) None", "micro 3 settle 1 ('kept', 1)", "micro 4 work (4, None, (('echo',),), 1, 2) None",
+                 "micro 5 gather 3 0 ('kept', 1)", "micro 5 gather 3 1 ('kept', 1)", "micro 6 work (6, None, (('wait', 'p'), ('echo',)), None, 4) None",
+                 "micro 0 work (0, 'work', (('echo',),), None, None, (('part', None, ()),), None) ('kept', 1)"]
         loop = self.micro_loop()
         self.assertEqual([row for row in str(loop).split("\n") if row.startswith("micro")], kinds)
+        kept, part = "('kept', 1)", "('part', None, ())"
         self.refuse(
-            loop, ("micro 2 work < 2 -", "micro 3 work < 2 -"), ("micro 2 work < 2 -", "micro 9 work < 9 -"), ("micro 2 work < 2 -", "micro 2 work < 2 a"),
-            ("micro 2 work", "micro 2 works"), (kinds[0], kinds[0][:-1] + "< kept 1 >"), (kinds[0], kinds[0].replace("0 > -", "1 > -")), (kinds[0], kinds[0][:-2]),
-            (kinds[0], kinds[0] + " -"), (kinds[0], kinds[0].replace("- - - 0", "- 1 - 0")), (kinds[0], kinds[0].replace("< < do", "< < last - > < do")),
-            ("settle 1", "settle 9"), ("settle 1", "settle 2"), ("settle 1", "settle 3"), ("settle 1 < kept 1 >", "settle 1 < open >"),
-            ("settle 1 < kept 1 >", "settle 1 -"), ("settle 1 < kept 1 >", "settle 1 < broken 1 >"), (kinds[3], kinds[4]), ("gather 3 0", "gather 3 2"),
-            ("gather 3 0", "gather 1 0"), ("gather 3 0 < kept 1 >", "gather 3 0 < kept True >"), ("gather 3 0 < kept 1 >", "gather 3 0"), (kinds[3] + "\n", ""),
-            (kinds[6], kinds[6].replace("< kept 1 >", "-")), (kinds[6], kinds[6].replace("< kept 1 >", "< follows 1 >")),
-            (kinds[6], kinds[6].replace("part - < >", "part - -")), (kinds[6], kinds[6].replace("part - < >", "part < > -")),
-            (kinds[6], kinds[6].replace("part - < >", "second -")), (kinds[6], kinds[6].replace("part - < >", "last 1")),
-            (kinds[6], kinds[6].replace("part - < >", "first < >")), (kinds[6], kinds[6].replace("part - < >", "part - < > < >")),
-            (kinds[6], kinds[6].replace("work < 0 work", "work < 0 Work")), (kinds[6], kinds[6].replace("- - - 1", "- - 1 1")),
-            (kinds[5] + "\n", ""), ("- - 4 0", "- - 2 0"), ("- - 4 0", "- - 3 0"), ("- - 4 0", "- - 9 0"),
+            loop, ("micro 2 work (2, None", "micro 3 work (2, None"), ("micro 2 work (2, None", "micro 9 work (9, None"), ("micro 2 work (2, None", "micro 2 work (2, 'a'"),
+            ("micro 2 work", "micro 2 works"), (kinds[0], kinds[0].replace(") None", f") {kept}")), (kinds[0], kinds[0].replace("None) None", "None, (), None) None")),
+            (kinds[0], kinds[0].removesuffix(" None")), (kinds[0], kinds[0] + " None"), (kinds[0], kinds[0].replace("None) None", "None, ()) None")),
+            (kinds[0], kinds[0].replace("None) None", "None, (), 1) None")), (kinds[0], "micro 2 work None None"),
+            ("settle 1", "settle 9"), ("settle 1", "settle 2"), ("settle 1", "settle 3"), (f"settle 1 {kept}", "settle 1 ('open',)"),
+            (f"settle 1 {kept}", "settle 1 None"), (f"settle 1 {kept}", "settle 1 ('broken', 1)"), (kinds[3], kinds[4]), ("gather 3 0", "gather 3 2"),
+            ("gather 3 0", "gather 1 0"), (f"gather 3 0 {kept}", "gather 3 0 ('kept', True)"), (f"gather 3 0 {kept}", "gather 3 0"), (kinds[3] + "\n", ""),
+            (kinds[6], kinds[6].replace(kept, "None")), (kinds[6], kinds[6].replace(kept, "('follows', 1)")),
+            *[(part, other) for other in ("('part', None, None)", "('part', (), None)", "('part', ())", "('second', None)", "('last', 1)", "('first', ())",
+                                          "('part', None, (), ())", "()", "None", "('second', (), ())", "('do', ())", "('part', 1, ())")],
+            (kinds[6], kinds[6].replace("(0, 'work'", "(0, 'Work'")), (kinds[6], kinds[6].replace("None, None, ((", "None, 1, ((")),
+            (kinds[5] + "\n", ""), ("None, 4)", "None, 2)"), ("None, 4)", "None, 3)"), ("None, 4)", "None, 9)"),
         )
 
     def test_takers(self):
         loop = loop_of((MAKE, ("then", "p", "q", ECHO, None), ("then", "p", "r", None, ()), ("micro", (("wait", "p"), ("echo",)))))
         loop.turn()
-        taker = "< 1 then 1 < < echo > > - >"
+        taker, open_one = "(1 then 1 (('echo',),) None)", "promise ('open',) 1 None None"
         self.refuse(
-            loop, (taker, taker + " " + taker), ("then 1", "then 2"), ("then 1", "then 9"), ("< 1 then", "< 9 then"), ("< 1 then", "< - then"), ("then 1", "than 1"),
-            (taker, "< 1 then 1 1 - >"), (taker, "< 1 then 1 - 1 >"), (taker, "< 1 then 1 - >"), (taker, "< 1 then 1 - - - >"), (taker, "< 1 >"), (taker, "1"),
-            (taker, "< >"), (taker, "< - follow 1 >"), (taker, "< 1 follow 1 >"), ("< 3 work < 3", "< 2 work < 3"), ("- - - 1 >", "- - - 0 >"),
-            ("promise < open > 1 - -", "promise < kept 1 > 1 - -"), ("promise < open > 1 - -", "promise < kept 1 > 0 - -"),
-            ("promise < open > 1 - -", "promise < broken a > 1 - -"), ("promise < open > 1 - -", "promise < open > 2 - -"),
+            loop, (taker, taker + " " + taker), ("then 1", "then 2"), ("then 1", "then 9"), ("(1 then", "(9 then"), ("(1 then", "(None then"), ("then 1", "than 1"),
+            (taker, "(1 then 1 1 None)"), (taker, "(1 then 1 None 1)"), (taker, "(1 then 1 None)"), (taker, "(1 then 1 None None None)"), (taker, "(1)"), (taker, "1"),
+            (taker, "()"), (taker, "(None follow 1)"), (taker, "(1 follow 1)"), ("(3 work (3", "(2 work (3"), ("None, None, (), None)", "None, None)"),
+            (taker, "(1, 'then', 1, (('echo',),), None)"), (taker, taker.replace("(1 ", "( 1 ")),
+            (open_one, "promise ('kept', 1) 1 None None"), (open_one, "promise ('kept', 1) 0 None None"),
+            (open_one, "promise ('broken', 'a') 1 None None"), (open_one, "promise ('open',) 2 None None"),
         )
 
     def test_each_word_of_texts_otherwise(self):
@@ -377,13 +416,11 @@ class Refused(unittest.TestCase):
         broken = loop_of((("guard", (("call", "odd"),), ECHO, ()), ("story", "q", ())), calls=CALLS)
         turn_of(broken)
         for loop in (self.micro_loop(), broken, *[behind(chance_loop(seed)[0], 2) for seed in (3, 11)]):
-            rows = [row.split(" ") for row in str(loop).split("\n")]
-            for at, row in enumerate(rows):
-                for place in range(len(row)):
-                    for word in ("0", "3", "-", "p", "kept"):
-                        other = [*row[:place], word, *row[place + 1:]]
-                        text = "\n".join([" ".join(words) for words in [*rows[:at], other, *rows[at + 1:]]])
-                        ReadLoop.judge(self, text, answers)
+            text = str(loop)
+            for found in re.finditer(r"'?[A-Za-z]+'?|-?[0-9]+|\(\)", text):
+                quote = "'" if found.group().startswith("'") else ""
+                for word in ("0", "3", "None", f"{quote}p{quote}", f"{quote}kept{quote}", "()"):
+                    ReadLoop.judge(self, text[:found.start()] + word + text[found.end():], answers)
         self.assertGreater(min(answers.values()), 200, answers)
 
     def refused(self, text):
@@ -414,7 +451,7 @@ def forgotten(loop):
 
 def told_of(loop):
     """All that a loop tells."""
-    promises = [loop.promise(name) for name in sorted(loop.state.named)]
+    promises = [loop.promise(name) for name in sorted(loop.state.book.named)]
     return [loop.now(), loop.depth(), loop.journal(), loop.lines(), loop.passes(), loop.is_busy(), len(loop), promises]
 
 

@@ -1,14 +1,16 @@
 """Loops by chance, turn by turn against the plain rule done another way [3]."""
 
+import copy
 import random
 import unittest
 
 from plainrule import Plain
 from rankloop.errors import NoPromise
-from rankloop.looprows import rows_of
+from rankloop.lines import chosen
+from rankloop.looprows import text_of
 from rankloop.loops import Loop
 from rankloop.scripts import is_script
-from rankloop.scripttexts import nested
+from rankloop.states import passes_of
 
 NAMES = ("p", "q", "r")
 WORKS = ("a", "b", "work")
@@ -147,6 +149,39 @@ def turn_of(loop):
         return "odd"
 
 
+def unnoted(thing):
+    """A state, or a part of one, with no texts noted in it."""
+    if isinstance(thing, dict):
+        unnoted(list(thing.values()))
+    elif isinstance(thing, (list, tuple)):
+        for part in thing:
+            unnoted(part)
+    elif hasattr(thing, "__dict__") and not callable(thing):
+        if hasattr(thing, "text"):
+            thing.text = None
+        if hasattr(thing, "shown"):
+            thing.shown = (0, "")
+        unnoted(list(vars(thing).values()))
+    return thing
+
+
+def parts_of(thing):
+    """A state, or a part of one, as tuples that are equal just where it stands for the same."""
+    if isinstance(thing, dict):
+        return {key: parts_of(part) for key, part in thing.items()}
+    if isinstance(thing, (list, tuple)):
+        return tuple([parts_of(part) for part in thing])
+    if not hasattr(thing, "__dict__"):
+        return thing
+    noted = ("text", "shown", "shared", "calls", "patient", "ahead", "waits", "soonest", "picks", "since", "busy", "untold")
+    parts = {name: parts_of(part) for name, part in vars(thing).items() if name not in noted}
+    if hasattr(thing, "since"):
+        parts["passes"] = passes_of(thing)
+    if hasattr(thing, "untold"):
+        parts["untold"] = list(thing.untold)
+    return parts
+
+
 class PlainRule(unittest.TestCase):
     def pair(self, seed, kind=Maker):
         """A loop and the plain rule, with the same works."""
@@ -213,12 +248,17 @@ class PlainRule(unittest.TestCase):
                 turn_of(plain)
                 self.assertEqual(*told_of(loop, plain))
 
-    def test_texts_have_all_in_them(self):
+    def test_texts_are_as_if_made_anew(self):
+        # Texts of parts are noted when they are asked: here none is.
         for seed in range(300):
             loop, _ = self.pair(seed)
             for _ in range(8):
-                read = [nested(row.split(" ")) for row in str(loop).split("\n")]
-                self.assertEqual(read, rows_of(loop.state))
+                text = str(loop)
+                self.assertEqual(text, text_of(unnoted(copy.deepcopy(loop.state))))
+                twin = loop.copy()
+                turn_of(twin)
+                self.assertEqual(str(twin), text_of(unnoted(copy.deepcopy(twin.state))))
+                self.assertEqual(str(loop), text)
                 turn_of(loop)
 
     def test_equal_just_where_the_texts_are(self):
@@ -230,9 +270,62 @@ class PlainRule(unittest.TestCase):
                 loops[-1].forget()
                 turn_of(loop)
         texts = [str(loop) for loop in loops]
-        for one, text in zip(loops, texts):
-            for other, another in zip(loops, texts):
-                self.assertEqual(one == other, text == another)
+        parts = [parts_of(loop.state) for loop in loops]
+        alike = 0
+        for one, text, part in zip(loops, texts, parts):
+            for other, another, others in zip(loops, texts, parts):
+                self.assertEqual((one == other, text == another), (part == others,) * 2)
+                alike += text == another
+        self.assertGreater(alike, len(loops))
+
+    def test_branches(self):
+        # Copies share what none of them has changed: each goes on as a loop that shares nothing.
+        for seed in range(120):
+            maker = Maker(seed)
+            chance = maker.chance
+            branches = [(self.pair(seed)[0], [])]
+            for _ in range(14):
+                loop, steps = chance.choice(branches)
+                if chance.random() < 0.4:
+                    loop, steps = loop.copy(), list(steps)
+                    branches.append((loop, steps))
+                script = maker.script(2)
+                steps.append(script if is_script(script) and chance.random() < 0.5 else None)
+                go_by(loop, steps[-1])
+                if chance.random() < 0.3:
+                    str(loop)
+            for loop, steps in branches:
+                alone, _ = self.pair(seed)
+                for step in steps:
+                    go_by(alone, step)
+                self.assertEqual(parts_of(loop.state), parts_of(alone.state), seed)
+                self.assertEqual(str(loop), str(alone), seed)
+                self.assertEqual(loop, alone, seed)
+
+    def test_ranks_are_chosen_as_told(self):
+        told = {"overdue": 0, "least": 0}
+        for seed in range(300):
+            chance = Maker(seed).chance
+            patience = [chance.choice((None, 0, 1, 2, 4)) for _ in range(chance.randrange(1, 5))]
+            loop = Loop(ranks=len(patience), patience=patience)
+            for _ in range(20):
+                for rank in range(len(patience)):
+                    if chance.random() < 0.4:
+                        loop.post(chance.choice(((), (("stop", "a"),), (("rerank", "b", 0),))), rank=rank, name=chance.choice("abc"))
+                rank = chosen(loop.passes(), patience)
+                loop.forget()
+                self.assertIs(loop.turn(), rank is not None)
+                if rank is not None:
+                    self.assertEqual(loop.journal()[0][3], rank)
+                    told[loop.journal()[0][4]] += 1
+        self.assertGreater(min(told.values()), 500, told)
+
+
+def go_by(loop, step):
+    """Do a turn, with a script posted ahead of it where there is one."""
+    if step is not None:
+        loop.post(step, name="b")
+    turn_of(loop)
 
 
 if __name__ == "__main__":
