@@ -2,7 +2,8 @@
 
 A deed tells None where the work goes on, MOVES where it goes on elsewhere,
 STAYS where it does no more for now, or the reason with which it fails; nothing
-of a deed that fails is done.
+of a deed that fails is done. Most need no more of the work than what it was
+told; only the others are handed the work itself.
 """
 
 from rankloop.promises import (
@@ -23,19 +24,19 @@ def put_micro(state, number, script, pledge):
     state.micros.append((number, "work", Work(number, None, script, None, pledge, None), None))
 
 
-def do_say(state, doing, deed):
+def do_say(state, told, deed):
     state.events.append((state.clock, "said", deed[1]))
 
 
-def do_echo(state, doing, deed):
-    state.events.append((state.clock, "said", doing.told))
+def do_echo(state, told, deed):
+    state.events.append((state.clock, "said", told))
 
 
-def do_spend(state, doing, deed):
+def do_spend(state, told, deed):
     state.clock += deed[1]
 
 
-def do_post(state, doing, deed):
+def do_post(state, told, deed):
     word, rank, name, script = deed
     if rank >= len(state.queues):
         return "rank"
@@ -43,36 +44,33 @@ def do_post(state, doing, deed):
     return None
 
 
-def do_micro(state, doing, deed):
+def do_micro(state, told, deed):
     put_micro(state, new_number(state), deed[1], None)
 
 
-def do_after(state, doing, deed):
+def do_after(state, told, deed):
     word, wait, rank, name, script = deed
     if rank >= len(state.queues):
         return "rank"
     number = new_number(state)
-    plan = Plan(None, rank, Work(number, name, script, None, None, None))
-    put_timer(state.timers, (state.clock + wait, number, plan))
+    put_timer(state.timers, (state.clock + wait, number, Plan(None, rank, number, name, script)))
     return None
 
 
-def do_every(state, doing, deed):
+def do_every(state, told, deed):
     word, gap, rank, name, script = deed
     if rank >= len(state.queues):
         return "rank"
     number = new_number(state)
-    plan = Plan(gap, rank, Work(number, name, script, 1, None, None))
-    put_timer(state.timers, (state.clock + gap, number, plan))
+    put_timer(state.timers, (state.clock + gap, number, Plan(gap, rank, number, name, script)))
     return None
 
 
-def do_idle(state, doing, deed):
+def do_idle(state, told, deed):
     word, wait, name, script = deed
     due = None if wait is None else state.clock + wait
     number = new_number(state)
-    plan = Plan(None, len(state.queues) - 1, Work(number, name, script, None, None, None))
-    put_idle(state, (due, number, plan))
+    put_idle(state, (due, number, Plan(None, len(state.queues) - 1, number, name, script)))
 
 
 def do_stop(state, doing, deed):
@@ -87,11 +85,11 @@ def do_rerank(state, doing, deed):
     return None
 
 
-def do_make(state, doing, deed):
+def do_make(state, told, deed):
     make_promise(own_book(state), deed[1])
 
 
-def do_keep(state, doing, deed):
+def do_keep(state, told, deed):
     word, name, worth = deed
     named = state.book.named
     if name not in named:
@@ -100,16 +98,16 @@ def do_keep(state, doing, deed):
     return None
 
 
-def do_pass(state, doing, deed):
+def do_pass(state, told, deed):
     name = deed[1]
     named = state.book.named
     if name not in named:
         return "unknown"
-    settle(state, named[name], ("kept", doing.told))
+    settle(state, named[name], ("kept", told))
     return None
 
 
-def do_break(state, doing, deed):
+def do_break(state, told, deed):
     word, name, reason = deed
     named = state.book.named
     if name not in named:
@@ -118,7 +116,7 @@ def do_break(state, doing, deed):
     return None
 
 
-def do_follow(state, doing, deed):
+def do_follow(state, told, deed):
     word, name, other = deed
     named = state.book.named
     if name not in named or other not in named:
@@ -127,7 +125,7 @@ def do_follow(state, doing, deed):
     return None
 
 
-def do_then(state, doing, deed):
+def do_then(state, told, deed):
     word, name, made, kept, broken = deed
     if name not in state.book.named:
         return "unknown"
@@ -141,7 +139,7 @@ def do_then(state, doing, deed):
     return None
 
 
-def do_gather(state, doing, deed):
+def do_gather(state, told, deed):
     word, made, names = deed
     named = state.book.named
     sources = [named.get(name) for name in names]
@@ -158,7 +156,7 @@ def do_give(state, doing, deed):
     return MOVES
 
 
-def do_fail(state, doing, deed):
+def do_fail(state, told, deed):
     return deed[1]
 
 
@@ -203,7 +201,7 @@ def do_run(state, doing, deed):
     return STAYS
 
 
-def do_story(state, doing, deed):
+def do_story(state, told, deed):
     word, made, script = deed
     number = new_number(state)
     book = own_book(state)
@@ -212,7 +210,7 @@ def do_story(state, doing, deed):
     put_micro(state, number, script, pledge)
 
 
-def do_cancel(state, doing, deed):
+def do_cancel(state, told, deed):
     number = state.book.named.get(deed[1])
     if number not in state.book.stories:
         return "unknown"
@@ -255,7 +253,8 @@ def asked(state, doing, word):
     return told
 
 
-ACTIONS = {
+# Those that need nothing of the work that does them but what it was told.
+PLAIN = {
     "say": do_say,
     "echo": do_echo,
     "spend": do_spend,
@@ -264,8 +263,6 @@ ACTIONS = {
     "after": do_after,
     "every": do_every,
     "idle": do_idle,
-    "stop": do_stop,
-    "rerank": do_rerank,
     "make": do_make,
     "keep": do_keep,
     "pass": do_pass,
@@ -276,14 +273,18 @@ ACTIONS = {
     "any": do_gather,
     "first": do_gather,
     "each": do_gather,
-    "give": do_give,
     "fail": do_fail,
+    "story": do_story,
+    "cancel": do_cancel,
+}
+OTHERS = {
+    "stop": do_stop,
+    "rerank": do_rerank,
+    "give": do_give,
     "guard": do_guard,
     "if": do_if,
     "wait": do_wait,
     "run": do_run,
-    "story": do_story,
-    "cancel": do_cancel,
     "yield": do_yield,
     "call": do_call,
 }
@@ -296,12 +297,18 @@ def do_deeds(state, doing):
     while at < len(script):
         deed = script[at]
         at += 1
-        doing.at = at
-        action = ACTIONS[deed[0]]
-        told = action(state, doing, deed)
-        if told is not None:
-            if told != MOVES:
-                return told
-            script = doing.script
-            at = doing.at
+        plain = PLAIN.get(deed[0])
+        if plain is not None:
+            outcome = plain(state, doing.told, deed)
+        else:
+            doing.at = at
+            action = OTHERS[deed[0]]
+            outcome = action(state, doing, deed)
+            if outcome == MOVES:
+                outcome = None
+                script = doing.script
+                at = doing.at
+        if outcome is not None:
+            return outcome
+    doing.at = at
     return None

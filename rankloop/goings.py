@@ -59,8 +59,7 @@ def take_back(state, outside, place):
 
 
 def events_of_turn(state):
-    """What a turn adds to the journal, which the state forgets; None where there is no turn."""
-    state.events = []
+    """What a turn adds to the journal of a state that forgot, which it forgets too; None where there is no turn."""
     if not take_turn(state):
         return None
     events = state.events

@@ -7,6 +7,7 @@ are first asked.
 """
 
 from rankloop.scripttexts import show_event
+from rankloop.states import passes_of
 from rankloop.works import Work
 
 
@@ -62,7 +63,14 @@ def are_alike(state, other):
     """Whether two states have the same rows."""
     if state.clock != other.clock or state.numbers != other.numbers or state.events != other.events:
         return False
-    return standing_text(state) == standing_text(other)
+    # Copies that didn't go different ways have the very same works, so that no text needs to be made.
+    return things_in(state) == things_in(other) or standing_text(state) == standing_text(other)
+
+
+def things_in(state):
+    """All that stands in a loop but clock, numbers and journal."""
+    works = [state.queues, state.micros, state.timers, state.idles, state.opened, state.asking]
+    return [state.setup, state.book, passes_of(state), works, state.done, state.flooded]
 
 
 def truth(told):
@@ -83,8 +91,7 @@ def work_text(work):
 def plan_text(plan):
     """The text of what a timer or an idle work puts into a line."""
     if plan.text is None:
-        work = plan.work
-        plan.text = f"{work.number} {plan.gap} {plan.rank} {work.name} {work.script}"
+        plan.text = f"{plan.number} {plan.gap} {plan.rank} {plan.name} {plan.script}"
     return plan.text
 
 

@@ -91,8 +91,7 @@ def with_work(row):
 def timer_of(parts):
     """The tuple of a timer or of an idle work that has these parts."""
     due, number, gap, rank, name, script = parts
-    told = None if gap is None else 1
-    return (due, number, Plan(gap, rank, Work(number, name, script, told, None, None)))
+    return (due, number, Plan(gap, rank, number, name, script))
 
 
 def put_promises(book, parts):

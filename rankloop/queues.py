@@ -6,14 +6,18 @@ from rankloop.works import Work
 class Plan:
     """What a timer or an idle work puts into a line when it is due; it is never changed.
 
-    Gap is None where it is due just once; else the work is the one that is put
-    where it has been due once. Text is None until it is asked, see looprows.py.
+    Gap is None where it is due just once. Work is the one that was put last,
+    None ahead of that: most times the next one is alike. Text is None until it
+    is asked, see looprows.py.
     """
 
-    def __init__(self, gap, rank, work):
+    def __init__(self, gap, rank, number, name, script):
         self.gap = gap
         self.rank = rank
-        self.work = work
+        self.number = number
+        self.name = name
+        self.script = script
+        self.work = None
         self.text = None
 
 
@@ -46,8 +50,8 @@ def take_named(state, name):
 def stop(state, name):
     """Take away all timers, idle works and works in lines by this name; how many they were."""
     many = len(state.timers) + len(state.idles)
-    state.timers = [timer for timer in state.timers if timer[2].work.name != name]
-    state.idles = [idle for idle in state.idles if idle[2].work.name != name]
+    state.timers = [timer for timer in state.timers if timer[2].name != name]
+    state.idles = [idle for idle in state.idles if idle[2].name != name]
     note_soonest(state)
     return many - len(state.timers) - len(state.idles) + len(take_named(state, name))
 
@@ -103,26 +107,33 @@ def put_due(state):
     timers = state.timers
     while timers and timers[0][0] <= clock:
         due, number, plan = timers[0]
-        work = plan.work
         gap = plan.gap
         if gap is None:
+            times = None
             timers.pop(0)
         else:
             times = (clock - due) // gap + 1
-            if times > 1:
-                work = told_work(work, times)
             again = (due + times * gap, number, plan)
             if len(timers) == 1 or again < timers[1]:
                 timers[0] = again
             else:
                 timers.pop(0)
                 put_timer(timers, again)
-        put_work(state, plan.rank, work)
+        work = plan.work
+        if work is None or work.told != times:
+            work = planned_work(plan, times)
+        # As put_work does; but timers are many, and are to be quick.
+        line = state.queues[plan.rank]
+        if not line:
+            state.since[plan.rank] = state.picks
+        line.append(work)
 
 
-def told_work(work, told):
-    """A work that hasn't begun, told something else."""
-    return Work(work.number, work.name, work.script, told, None, None)
+def planned_work(plan, told):
+    """The work that comes of a plan, told this."""
+    work = Work(plan.number, plan.name, plan.script, told, None, None)
+    plan.work = work
+    return work
 
 
 def make_timers(state):

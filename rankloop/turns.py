@@ -1,8 +1,8 @@
 """Turns: what is begun, and what comes behind it until nothing more can be done for now."""
 
-from rankloop.deeds import ACTIONS, MOVES, STAYS
+from rankloop.deeds import PLAIN, STAYS, do_deeds
 from rankloop.promises import gather_fate, settle, spend_story, take_cancel, tell_unhandled
-from rankloop.queues import put_due, take_idle, told_work
+from rankloop.queues import planned_work, put_due, take_idle
 from rankloop.states import is_settled
 from rankloop.works import Doing, brought_to_guard, leave_frame
 
@@ -70,12 +70,10 @@ def begin_task(state):
     state.picks = picks
     state.since[rank] = picks
     state.events.append((state.clock, "task", work.number, rank, why))
-    if work.pledge is None and work.around is None:
-        # Most are such, and of those without deeds there may be many.
-        if work.script:
-            go_on(state, Doing(work), None)
-    else:
+    if work.around is not None:
         begin(state, work, None)
+    elif work.script:
+        begin_fresh(state, work)
 
 
 def overdue_rank(state):
@@ -95,7 +93,7 @@ def begin_idle(state):
     due, number, plan = take_idle(state)
     left = state.timers[0][0] - state.clock if state.timers else None
     state.events.append((state.clock, "idle", number, left))
-    begin(state, told_work(plan.work, left), None)
+    begin(state, planned_work(plan, left), None)
 
 
 def tell_stuck(state):
@@ -159,10 +157,31 @@ def begin(state, work, fate):
         go_on(state, doing, "cancel")
     elif fate is not None:
         go_on_by(state, Doing(work), fate)
-    elif work.script or work.around is not None:
+    elif work.around is not None:
         go_on(state, Doing(work), None)
+    elif work.script:
+        begin_fresh(state, work)
     elif pledge is not None:
-        # Works of which nothing is to be done may be many, and end at once.
+        # Works without deeds may be many, and end at once.
+        end(state, work, None, None)
+
+
+def begin_fresh(state, work):
+    """Begin a work that hasn't begun; most are done by that, as all of their deeds are plain."""
+    at = 0
+    for deed in work.script:
+        action = PLAIN.get(deed[0])
+        if action is None:
+            doing = Doing(work)
+            doing.at = at
+            go_on(state, doing, None)
+            return
+        reason = action(state, work.told, deed)
+        if reason is not None:
+            end(state, work, None, reason)
+            return
+        at += 1
+    if work.pledge is not None:
         end(state, work, None, None)
 
 
@@ -179,23 +198,10 @@ def go_on_by(state, doing, fate):
 def go_on(state, doing, reason):
     """Do a work until it stays or ends; first of all it fails, where there is a reason."""
     while reason is None or brought_to_guard(doing, reason):
-        script = doing.script
-        at = doing.at
-        while at < len(script):
-            deed = script[at]
-            at += 1
-            doing.at = at
-            action = ACTIONS[deed[0]]
-            reason = action(state, doing, deed)
-            if reason is not None:
-                if reason == STAYS:
-                    return
-                if reason != MOVES:
-                    break
-                reason = None
-                script = doing.script
-                at = doing.at
-        else:
+        reason = do_deeds(state, doing)
+        if reason == STAYS:
+            return
+        if reason is None:
             if not doing.frames:
                 break
             reason = leave_frame(doing)

@@ -101,6 +101,35 @@ class Copies(unittest.TestCase):
         self.assertEqual(events(loop), [("fault", 0, "out"), ("micro", 2), ("said", "a")])
         self.assertEqual(twin, loop)
 
+    def test_copies_that_differ_in_a_single_thing(self):
+        # Both have the very same works; what the first one does is told when it is asked.
+        scripts = [
+            (), (("rerank", "b", 1),), (("keep", "p", 1),), (("keep", "p", 2),), (("spend", 1),), (("post", 0, "x", ()), ("stop", "x")), (("make", "q"),),
+            (("yield", 2),), (("stop", "a"),), (("after", 3, 0, "t", ()),), (("idle", 3, "t", ()),), (("run", "p"),), (("micro", (("wait", "p"),)),),
+            (("micro", ()), ("micro", ())),
+        ]
+        told = []
+
+        def ask(worth):
+            return told[-1]
+
+        loop = loop_of((MAKE, ("make", "q")), (("call", "ask"),), flood=1, calls={"ask": ask})
+        loop.post(say("a"), name="a")
+        loop.post(say("b"), rank=1, name="b")
+        loop.turn()
+        loops = []
+        for script in scripts:
+            told.append(script)
+            twin = loop.copy()
+            twin.turn()
+            twin.forget()
+            loops.append(twin)
+        for at, one in enumerate(loops):
+            for place, other in enumerate(loops):
+                self.assertIs(one == other, at == place, (scripts[at], scripts[place]))
+                self.assertIs(str(one) == str(other), at == place, (scripts[at], scripts[place]))
+            self.assertEqual(one, one.copy())
+
     def test_followers_of_a_copy_are_its_own(self):
         loop = loop_of((MAKE, ("make", "q"), ("make", "r"), ("follow", "p", "q")))
         loop.turn()

@@ -174,7 +174,7 @@ def parts_of(thing):
     if not hasattr(thing, "__dict__"):
         return thing
     noted = ("text", "shown", "shared", "calls", "patient", "ahead", "waits", "soonest", "picks", "since", "busy", "untold")
-    parts = {name: parts_of(part) for name, part in vars(thing).items() if name not in noted}
+    parts = {name: parts_of(part) for name, part in vars(thing).items() if name not in noted and (name != "work" or not hasattr(thing, "gap"))}
     if hasattr(thing, "since"):
         parts["passes"] = passes_of(thing)
     if hasattr(thing, "untold"):
